@@ -1,0 +1,1 @@
+"""Sourwright: a language whose values go sour."""

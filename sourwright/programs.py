@@ -1,0 +1,161 @@
+"""Programs and their procedures."""
+
+from sourwright.checking import checked_kinds, kinds_of_call
+from sourwright.errors import UnknownName
+from sourwright.known import Known
+from sourwright.reading import read_program
+from sourwright.steps import shelves_of, steps_by_place
+
+
+class Book:
+    """What programs and code programs are made of: kinds, wells and dishes, and procedures with names."""
+
+    def __init__(self, kinds, wells, dishes, procedures):
+        self._kinds = tuple(kinds)
+        self._wells = tuple(wells)
+        self._dishes = tuple(dishes)
+        self._procedures = tuple(procedures)
+        self._known = Known(self._kinds, self._wells, self._dishes)
+        self._found = {}
+
+    def __iter__(self):
+        raise TypeError("programs are not iterated over")
+
+    def _procedure(self, name):
+        """The procedure of this name."""
+        if name not in self._found:
+            raise UnknownName(name)
+        return self._found[name]
+
+    def _keep(self, kind):
+        """The keep of a kind."""
+        if kind not in self._known.keep_by_kind:
+            raise UnknownName(kind)
+        return self._known.keep_by_kind[kind]
+
+    def _ticks(self, name):
+        """The ticks of a well, or if there is none of this name, of a dish."""
+        if name in self._known.well_by_name:
+            return self._known.well_by_name[name][1]
+        if name in self._known.dish_by_name:
+            return self._known.dish_by_name[name][2]
+        raise UnknownName(name)
+
+
+class Procedure:
+    """A procedure of a program; it never changes."""
+
+    def __init__(self, given, kinds):
+        self.name, self._params, self._results, self._body = given
+        self._kinds = kinds
+        self._steps = steps_by_place(self._body)
+        self._shelves = tuple(sorted(set([shelf for step in self._steps for shelf in shelves_of(step)])))
+        self._names = tuple([carrier for carrier in sorted(kinds) if carrier not in self._shelves])
+
+    @property
+    def params(self):
+        """The pairs of a name and a kind."""
+        return self._params
+
+    @property
+    def results(self):
+        """The names of the results."""
+        return self._results
+
+    @property
+    def body(self):
+        """The steps, with their bodies in them."""
+        return self._body
+
+    @property
+    def names(self):
+        """The names of its values, ascending."""
+        return self._names
+
+    @property
+    def shelves(self):
+        """Its shelves, ascending."""
+        return self._shelves
+
+    def __len__(self):
+        return len(self._steps)
+
+    def kind_of(self, carrier):
+        """The kind of a name or shelf."""
+        if carrier not in self._kinds:
+            raise UnknownName(carrier)
+        return self._kinds[carrier]
+
+    def __eq__(self, other):
+        return (
+            isinstance(other, Procedure) and self.name == other.name and self._params == other._params
+            and self._results == other._results and self._body == other._body
+        )
+
+
+class Program(Book):
+    """A program that breaks no rule; it never changes."""
+
+    def __init__(self, kinds, wells, dishes, procedures):
+        super().__init__(kinds, wells, dishes, procedures)
+        for index, given in enumerate(self._procedures):
+            carriers = checked_kinds(index, given, self._known)
+            procedure = Procedure(given, carriers)
+            self._found[procedure.name] = procedure
+            self._known.callees[procedure.name] = kinds_of_call(given, carriers)
+
+    @classmethod
+    def read(cls, text):
+        """The program that a text writes."""
+        kinds, wells, dishes, procedures = read_program(text)
+        return cls(kinds, wells, dishes, procedures)
+
+    @property
+    def kinds(self):
+        """The pairs of a name and a keep."""
+        return self._kinds
+
+    @property
+    def wells(self):
+        """The triples of a name, a kind and ticks."""
+        return self._wells
+
+    @property
+    def dishes(self):
+        """The quadruples of a name, the kinds needed and made, and ticks."""
+        return self._dishes
+
+    @property
+    def procedures(self):
+        """The procedures, as tuples."""
+        return self._procedures
+
+    def __len__(self):
+        return len(self._procedures)
+
+    def __contains__(self, name):
+        return name in self._found
+
+    def __getitem__(self, name):
+        return self._procedure(name)
+
+    def keep_of(self, kind):
+        """The keep of a kind."""
+        return self._keep(kind)
+
+    def ticks_of(self, name):
+        """The ticks of a well, or if there is none of this name, of a dish."""
+        return self._ticks(name)
+
+    def with_procedure(self, procedure):
+        """The program with one more procedure at the end."""
+        return Program(self._kinds, self._wells, self._dishes, self._procedures + (tuple(procedure),))
+
+    def __eq__(self, other):
+        return (
+            isinstance(other, Program) and self._kinds == other._kinds and self._wells == other._wells
+            and self._dishes == other._dishes and self._procedures == other._procedures
+        )
+
+    def __repr__(self):
+        return f"Program({len(self._kinds)}, {len(self._procedures)})"

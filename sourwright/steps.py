@@ -1,0 +1,75 @@
+"""What single steps work on; rows of code have their operands and results where steps have them."""
+
+# Where the operands stand in the steps that have some; those of a call fill a tuple.
+OPERANDS = {"mix": (3, 4), "scale": (2,), "dish": (3,), "copy": (2,), "put": (2,), "take": (2,)}
+
+
+def inner_bodies(step):
+    """The bodies of a step that asks, in the order of their text."""
+    if step[0] == "if":
+        return (step[1], step[2])
+    if step[0] == "while":
+        return (step[1],)
+    return ()
+
+
+def steps_by_place(body):
+    """The steps of a body and of all bodies in it, in the order of places."""
+    found = []
+    for step in body:
+        found.append(step)
+        for inner in inner_bodies(step):
+            found.extend(steps_by_place(inner))
+    return found
+
+
+def operands_of(step):
+    """What a step reads, copies, puts, takes or hands over."""
+    if step[0] == "call":
+        return step[2]
+    return tuple([step[at] for at in OPERANDS.get(step[0], ())])
+
+
+def results_of(step):
+    """The names that a step fills; for a put, the shelf."""
+    if step[0] == "call":
+        return step[3]
+    if step[0] in ("wait", "if", "while"):
+        return ()
+    return (step[1],)
+
+
+def shelves_of(step):
+    """The shelf that a step uses, if it uses one."""
+    if step[0] == "put":
+        return results_of(step)
+    if step[0] == "take":
+        return operands_of(step)
+    return ()
+
+
+def names_of(step):
+    """The names of values that a step uses."""
+    if step[0] == "put":
+        return operands_of(step)
+    if step[0] == "take":
+        return results_of(step)
+    return results_of(step) + operands_of(step)
+
+
+def names_known(step, known):
+    """Whether a step or row uses a well, dish or procedure that is there, if it uses one."""
+    if step[0] == "get":
+        return step[2] in known.well_by_name
+    if step[0] == "dish":
+        return step[2] in known.dish_by_name
+    if step[0] == "call":
+        return step[1] in known.callees
+    return True
+
+
+def counts_fit(call, known):
+    """Whether a call has as many arguments and results as its callee, and no result twice."""
+    taken, given = known.callees[call[1]]
+    args, filled = call[2:]
+    return len(args) == len(taken) and len(filled) == len(given) == len(set(filled))

@@ -1,0 +1,94 @@
+"""The interface: modules, names, argument names, and where functions, classes and methods are defined."""
+
+import inspect
+import unittest
+
+from sourwright import code, errors, programs, texts
+
+MEMBERS = {
+    programs.Program: {
+        "__init__": ("self", "kinds", "wells", "dishes", "procedures"),
+        "__len__": ("self",),
+        "__contains__": None,
+        "__getitem__": None,
+        "__eq__": None,
+        "__repr__": ("self",),
+        "keep_of": ("self", "kind"),
+        "ticks_of": ("self", "name"),
+        "with_procedure": ("self", "procedure"),
+    },
+    programs.Procedure: {
+        "__len__": ("self",),
+        "__eq__": None,
+        "kind_of": ("self", "carrier"),
+    },
+    code.CodeProgram: {
+        "__init__": ("self", "kinds", "wells", "dishes", "procedures"),
+        "__len__": ("self",),
+        "__contains__": None,
+        "__getitem__": None,
+        "__eq__": None,
+        "__repr__": ("self",),
+        "keep_of": ("self", "kind"),
+        "ticks_of": ("self", "name"),
+    },
+    code.CodeProcedure: {
+        "__len__": ("self",),
+        "__eq__": None,
+    },
+}
+PROPERTIES = {
+    programs.Program: ("kinds", "wells", "dishes", "procedures"),
+    programs.Procedure: ("params", "results", "body", "names", "shelves"),
+    code.CodeProgram: ("kinds", "wells", "dishes", "procedures"),
+    code.CodeProcedure: ("params", "rows"),
+}
+NAMES = {
+    errors: (
+        "SourError", "InvalidProgram", "InvalidText", "InvalidStart", "TooLong", "InvalidCode", "NoRoom",
+        "InvalidPart", "LinkRefused", "InvalidCommand", "Unfilled", "UnknownName",
+    ),
+    programs: ("Program", "Procedure", "Book"),
+    code: ("CodeProgram", "CodeProcedure"),
+    texts: ("show_program",),
+}
+
+
+class InterfaceTest(unittest.TestCase):
+    def test_names_are_defined_in_their_files(self):
+        for module, names in NAMES.items():
+            for name in names:
+                self.assertEqual(getattr(module, name).__module__, module.__name__)
+
+    def test_methods_stand_in_their_classes(self):
+        for owner, methods in MEMBERS.items():
+            for name, parameters in methods.items():
+                self.assertIn(name, vars(owner))
+                if parameters is not None:
+                    self.assertEqual(tuple(inspect.signature(vars(owner)[name]).parameters), parameters)
+
+    def test_properties_stand_in_their_classes(self):
+        for owner, names in PROPERTIES.items():
+            for name in names:
+                self.assertIsInstance(vars(owner)[name], property)
+
+    def test_read_is_a_class_method(self):
+        read = vars(programs.Program)["read"]
+        self.assertIsInstance(read, classmethod)
+        self.assertEqual(tuple(inspect.signature(programs.Program.read).parameters), ("text",))
+
+    def test_show_program(self):
+        self.assertEqual(tuple(inspect.signature(texts.show_program).parameters), ("program",))
+
+    def test_both_programs_are_books(self):
+        self.assertTrue(issubclass(programs.Program, programs.Book))
+        self.assertTrue(issubclass(code.CodeProgram, programs.Book))
+        self.assertFalse(issubclass(code.CodeProgram, programs.Program))
+        self.assertFalse(issubclass(programs.Program, code.CodeProgram))
+
+    def test_code_programs_are_not_extended(self):
+        self.assertFalse(hasattr(code.CodeProgram, "with_procedure"))
+
+
+if __name__ == "__main__":
+    unittest.main()

@@ -1,0 +1,277 @@
+"""The rules of ../shared/LANGUAGE.md that can be seen from a single file or name, held against the package."""
+
+import ast
+import builtins
+import pathlib
+import re
+import unittest
+
+PACKAGE = pathlib.Path(__file__).resolve().parent.parent / "sourwright"
+FILES = sorted(PACKAGE.glob("*.py"))
+BUILTINS = set(
+    "len range enumerate zip min max sum abs sorted reversed int str bool list tuple dict set frozenset isinstance "
+    "ord repr any all divmod pow getattr hasattr setattr iter next map super property staticmethod classmethod "
+    "Exception ValueError TypeError KeyError IndexError LookupError ZeroDivisionError ArithmeticError OverflowError "
+    "RuntimeError NotImplementedError AttributeError StopIteration NotImplemented".split()
+)
+METHODS = set(
+    "append clear copy count endswith extend find get index insert isalnum isalpha isdigit islower isspace isupper "
+    "items join keys ljust lower lstrip partition pop remove replace reverse rfind rjust rpartition rsplit rstrip "
+    "setdefault split splitlines startswith strip update upper values zfill bit_length title capitalize swapcase "
+    "casefold center expandtabs removeprefix removesuffix rindex isascii isdecimal isnumeric istitle isidentifier "
+    "isprintable translate add discard".split()
+)
+DOUBLE = set(
+    "init eq repr str len enter exit call iter lt le gt ge ne add sub mul floordiv mod pow and or xor lshift rshift "
+    "neg pos invert abs bool contains getitem setitem".split()
+)
+LIBRARY = {
+    "heapq": "heappush heappop heapify heapreplace heappushpop",
+    "math": "gcd lcm isqrt comb perm factorial",
+    "itertools": "product combinations permutations chain accumulate pairwise islice zip_longest",
+    "collections": "defaultdict",
+    "__future__": "annotations",
+}
+BARRED_WORDS = (
+    "typing typing_extensions enum Enum IntEnum StrEnum Flag IntFlag Generic Protocol ABC ABCMeta namedtuple "
+    "NamedTuple TypedDict TYPE_CHECKING abstractmethod"
+).split()
+BARRED_NAMES = set(
+    "register mro elements open input law version_info with_traceback add_note attrgetter breakpoint builtins compile "
+    "copyright credits delattr dir eval exec exit gc globals help id importlib license locals methodcaller os quit "
+    "type vars sys __name__".split()
+)
+BARRED_ATTRIBUTES = set(
+    "items keys values pop update append clear extend insert remove reverse setdefault sort args encode decode hex "
+    "fromhex format".split()
+)
+BARRED_NODES = (
+    ast.Global, ast.AsyncFunctionDef, ast.AsyncFor, ast.AsyncWith, ast.Await, ast.Import, ast.Div, ast.MatMult,
+)
+AT_ONCE = {"zip", "enumerate", "reversed", "map"}
+NO_GENERATORS = {"any", "all", "min", "max", "sum", "sorted"}
+TREES = {path.name: ast.parse(path.read_text(encoding="utf-8")) for path in FILES}
+NODES = [(name, node) for name, tree in TREES.items() for node in ast.walk(tree)]
+
+
+def where(name, node):
+    return f"{name}:{getattr(node, 'lineno', 0)}"
+
+
+def bound_names(tree):
+    """All names that a file binds: variables, parameters, functions, classes, imports, caught errors."""
+    for node in ast.walk(tree):
+        if isinstance(node, ast.Name) and isinstance(node.ctx, (ast.Store, ast.Del)):
+            yield node, node.id
+        elif isinstance(node, ast.arg):
+            yield node, node.arg
+        elif isinstance(node, (ast.FunctionDef, ast.ClassDef, ast.ExceptHandler)) and node.name:
+            yield node, node.name
+        elif isinstance(node, ast.alias):
+            yield node, node.asname or node.name
+
+
+class FilesTest(unittest.TestCase):
+    def test_folder(self):
+        for path in PACKAGE.iterdir():
+            if path.name != "__pycache__":
+                self.assertTrue(path.is_file() and re.fullmatch(r"[a-z0-9_]+\.py", path.name), path)
+        self.assertLessEqual(len(FILES), 100)
+        self.assertEqual([type(node) for node in TREES["__init__.py"].body], [ast.Expr])
+
+    def test_characters_and_lines(self):
+        for path in FILES:
+            text = path.read_text(encoding="utf-8")
+            self.assertTrue(all(letter == "\n" or " " <= letter <= "~" for letter in text), path)
+            lines = text.split("\n")
+            self.assertLessEqual(len(lines) - 1, 399, path)
+            self.assertLessEqual(max(map(len, lines)), 120, path)
+            self.assertEqual([line for line in lines if line != line.rstrip()], [], path)
+
+    def test_words(self):
+        for path in FILES:
+            text = path.read_text(encoding="utf-8")
+            for word in BARRED_WORDS:
+                self.assertIsNone(re.search(rf"\b{word}\b", text), (path, word))
+            for word in ("dataclass", "overload", "contextmanager", "_wall", "_WallAttr", "(type)", "Meta", "metaclass="):
+                self.assertNotIn(word, text, path)
+
+    def test_functions_are_short(self):
+        for name, node in NODES:
+            if isinstance(node, ast.FunctionDef):
+                self.assertLessEqual(node.end_lineno - node.lineno + 1, 40, where(name, node))
+
+
+class ModulesTest(unittest.TestCase):
+    def test_module_level(self):
+        for name, tree in TREES.items():
+            self.assertIsInstance(ast.get_docstring(tree), str, name)
+            for node in tree.body[1:]:
+                self.assertIsInstance(node, (ast.ImportFrom, ast.FunctionDef, ast.ClassDef, ast.Assign), where(name, node))
+                if isinstance(node, ast.Assign):
+                    self.assertTrue(len(node.targets) == 1 and isinstance(node.targets[0], ast.Name), where(name, node))
+                    self.check_plain(name, node.value, False)
+
+    def check_plain(self, name, node, inner):
+        if isinstance(node, ast.Dict):
+            self.assertFalse(inner, where(name, node))
+            for one in node.keys + node.values:
+                self.check_plain(name, one, True)
+        elif isinstance(node, (ast.List, ast.Tuple)):
+            self.assertFalse(inner and isinstance(node, ast.List), where(name, node))
+            for one in node.elts:
+                self.check_plain(name, one, True)
+        elif isinstance(node, ast.Name):
+            functions = [one.name for one in TREES[name].body if isinstance(one, ast.FunctionDef)]
+            self.assertIn(node.id, functions, where(name, node))
+        else:
+            ast.literal_eval(node)
+
+    def test_imports(self):
+        for name, node in NODES:
+            if isinstance(node, ast.ImportFrom):
+                self.assertEqual(node.level, 0, where(name, node))
+                self.assertIn(node, TREES[name].body)
+                for alias in node.names:
+                    self.check_import(name, node, alias)
+
+    def check_import(self, name, node, alias):
+        if node.module in LIBRARY:
+            self.assertIn(alias.name, LIBRARY[node.module].split(), where(name, node))
+            return
+        folder, file = node.module.split(".")
+        self.assertEqual(folder, "sourwright", where(name, node))
+        own = [one.name for one in TREES[file + ".py"].body if isinstance(one, (ast.FunctionDef, ast.ClassDef))]
+        own += [one.targets[0].id for one in TREES[file + ".py"].body if isinstance(one, ast.Assign)]
+        self.assertIn(alias.name, own, where(name, node))
+
+    def test_imports_run_in_no_circle(self):
+        ahead = {
+            name: {one.module.split(".")[1] + ".py" for one in tree.body
+                   if isinstance(one, ast.ImportFrom) and one.module.startswith("sourwright.")}
+            for name, tree in TREES.items()
+        }
+        while ahead:
+            free = [name for name, needed in ahead.items() if not needed & set(ahead)]
+            self.assertTrue(free, ahead)
+            for name in free:
+                del ahead[name]
+
+    def test_all_imports_are_used(self):
+        for name, tree in TREES.items():
+            used = {node.id for node in ast.walk(tree) if isinstance(node, ast.Name)}
+            for node in tree.body:
+                if isinstance(node, ast.ImportFrom):
+                    for alias in node.names:
+                        self.assertIn(alias.name, used, where(name, node))
+
+
+class NamesTest(unittest.TestCase):
+    def test_builtins(self):
+        for name, tree in TREES.items():
+            bound = {one for _, one in bound_names(tree)}
+            for node in ast.walk(tree):
+                if isinstance(node, ast.Name) and node.id not in bound:
+                    self.assertIn(node.id, BUILTINS, where(name, node))
+
+    def test_bound_names(self):
+        for name, tree in TREES.items():
+            for node, bound in bound_names(tree):
+                self.assertFalse(bound in dir(builtins) and not isinstance(node, ast.FunctionDef), where(name, node))
+                self.assertNotIn(bound, BARRED_NAMES, where(name, node))
+                self.assertRegex(bound, r"^(_|_?[A-Za-z][A-Za-z0-9_]*|__[a-z]+__)$", where(name, node))
+                self.assertNotRegex(bound, r"^_(cold|tuplegetter|outside|record|written_out|member_names)[0-9_]*$")
+                if bound.startswith("__"):
+                    self.assertIn(bound[2:-2], DOUBLE, where(name, node))
+
+    def test_no_name_is_read_as_underscore(self):
+        for name, node in NODES:
+            if isinstance(node, ast.Name) and isinstance(node.ctx, ast.Load):
+                self.assertNotEqual(node.id, "_", where(name, node))
+
+    def test_locals_have_no_names_of_classes_or_imports(self):
+        for name, tree in TREES.items():
+            taken = {one.name for one in tree.body if isinstance(one, ast.ClassDef)}
+            taken |= {alias.name for one in tree.body if isinstance(one, ast.ImportFrom) for alias in one.names}
+            for node, bound in bound_names(tree):
+                if isinstance(node, (ast.Name, ast.arg)):
+                    self.assertNotIn(bound, taken, where(name, node))
+
+    def test_methods_and_attributes(self):
+        own = {node.name for _, node in NODES if isinstance(node, ast.FunctionDef)}
+        for name, node in NODES:
+            if isinstance(node, ast.Call) and isinstance(node.func, ast.Attribute):
+                self.assertIn(node.func.attr, own | METHODS, where(name, node))
+            if isinstance(node, ast.Attribute):
+                self.assertFalse(node.attr.startswith("__") and node.attr != "__init__", where(name, node))
+                if isinstance(node.ctx, ast.Store):
+                    self.assertNotIn(node.attr, BARRED_ATTRIBUTES | own - self.properties(), where(name, node))
+
+    def properties(self):
+        return {
+            node.name for _, node in NODES
+            if isinstance(node, ast.FunctionDef) and "property" in [ast.unparse(one) for one in node.decorator_list]
+        }
+
+
+class NodesTest(unittest.TestCase):
+    def test_barred_nodes(self):
+        for name, node in NODES:
+            self.assertNotIsInstance(node, BARRED_NODES, where(name, node))
+            if isinstance(node, ast.FunctionDef):
+                for one in node.decorator_list:
+                    self.assertRegex(ast.unparse(one), r"^(property|staticmethod|classmethod|\w+\.setter)$")
+            if isinstance(node, ast.ClassDef):
+                self.assertEqual(node.decorator_list, [], where(name, node))
+
+    def test_strings(self):
+        for name, node in NODES:
+            if isinstance(node, ast.Constant):
+                self.assertNotIsInstance(node.value, (float, complex), where(name, node))
+                if isinstance(node.value, str):
+                    self.assertNotIn("%", node.value, where(name, node))
+
+    def test_is(self):
+        for name, node in NODES:
+            if isinstance(node, ast.Compare):
+                for sign, side in zip(node.ops, node.comparators):
+                    if isinstance(sign, (ast.Is, ast.IsNot)):
+                        self.assertIsInstance(side, ast.Constant, where(name, node))
+
+    def test_generators_are_lists(self):
+        # The package has classes with __eq__, so these take lists.
+        for name, node in NODES:
+            if isinstance(node, ast.Call) and isinstance(node.func, ast.Name) and node.func.id in NO_GENERATORS:
+                for one in node.args:
+                    self.assertNotIsInstance(one, ast.GeneratorExp, where(name, node))
+
+    def test_iterated_at_once(self):
+        right = []
+        for _, node in NODES:
+            if isinstance(node, (ast.For, ast.comprehension)):
+                right.append(node.iter)
+            elif isinstance(node, ast.Call) and isinstance(node.func, ast.Name) and node.args:
+                if node.func.id in ("list", "tuple", "dict", "sorted", "sum", "any", "all", "enumerate", "zip", "min", "max"):
+                    right.append(node.args[0])
+        for name, node in NODES:
+            if isinstance(node, ast.Call) and isinstance(node.func, ast.Name) and node.func.id in AT_ONCE:
+                self.assertIn(node, right, where(name, node))
+            if isinstance(node, ast.Call) and isinstance(node.func, ast.Attribute):
+                self.assertNotEqual(node.func.attr, "sort", where(name, node))
+
+    def test_errors_are_made_on_the_spot(self):
+        for name, node in NODES:
+            if isinstance(node, ast.Raise) and node.exc is not None:
+                self.assertTrue(isinstance(node.exc, ast.Call) and isinstance(node.exc.func, ast.Name), where(name, node))
+
+    def test_item_classes_are_not_iterated(self):
+        for name, node in NODES:
+            if isinstance(node, ast.ClassDef) and any(getattr(one, "name", "") == "__getitem__" for one in node.body):
+                family = [node] + [one for _, one in NODES if isinstance(one, ast.ClassDef)
+                                   and one.name in [ast.unparse(base) for base in node.bases]]
+                methods = [getattr(one, "name", "") for owner in family for one in owner.body]
+                self.assertIn("__iter__", methods, where(name, node))
+
+
+if __name__ == "__main__":
+    unittest.main()

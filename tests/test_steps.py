@@ -1,0 +1,54 @@
+"""What single steps and rows work on, and the order of places."""
+
+import unittest
+
+from samples import FULL
+
+from sourwright.steps import inner_bodies, names_of, operands_of, results_of, shelves_of, steps_by_place
+
+# For each step: its operands, its results, its names of values, its shelves.
+TOLD = {
+    ("get", "z", "w"): ((), ("z",), ("z",), ()),
+    ("mix", "z", "+", "x", "y"): (("x", "y"), ("z",), ("z", "x", "y"), ()),
+    ("scale", "z", "x", 2): (("x",), ("z",), ("z", "x"), ()),
+    ("dish", "z", "d", "x"): (("x",), ("z",), ("z", "x"), ()),
+    ("copy", "z", "x"): (("x",), ("z",), ("z", "x"), ()),
+    ("wait", 2): ((), (), (), ()),
+    ("put", "s", "x"): (("x",), ("s",), ("x",), ("s",)),
+    ("take", "z", "s"): (("s",), ("z",), ("z",), ("s",)),
+    ("if", (("wait", 1),), ()): ((), (), (), ()),
+    ("while", (("wait", 1),)): ((), (), (), ()),
+    ("call", "p", ("x", "x"), ("y", "z")): (("x", "x"), ("y", "z"), ("y", "z", "x", "x"), ()),
+    ("call", "p", (), ()): ((), (), (), ()),
+}
+
+
+class StepsTest(unittest.TestCase):
+    def test_what_steps_work_on(self):
+        for step, told in TOLD.items():
+            self.assertEqual((operands_of(step), results_of(step), names_of(step), shelves_of(step)), told)
+
+    def test_what_rows_work_on(self):
+        self.assertEqual((operands_of(("get", 3, "w", 7)), results_of(("get", 3, "w", 7))), ((), (3,)))
+        self.assertEqual((operands_of(("mix", 3, "-", 1, 2)), results_of(("mix", 3, "-", 1, 2))), ((1, 2), (3,)))
+        self.assertEqual((operands_of(("take", 3, 1)), results_of(("take", 3, 1))), ((1,), (3,)))
+        self.assertEqual(operands_of(("call", "p", (1, 0), (2,))), (1, 0))
+
+    def test_places(self):
+        body = (("if", (("wait", 1), ("while", (("wait", 2),))), (("wait", 3),)), ("while", ()), ("wait", 4))
+        self.assertEqual(
+            [step[-1] if step[0] == "wait" else step[0] for step in steps_by_place(body)],
+            ["if", 1, "while", 2, 3, "while", 4],
+        )
+        self.assertEqual(steps_by_place(()), [])
+        self.assertEqual(len(steps_by_place(FULL["all"].body)), len(FULL["all"]))
+
+    def test_inner_bodies(self):
+        yes, no = (("wait", 1),), (("wait", 2),)
+        self.assertEqual(inner_bodies(("if", yes, no)), (yes, no))
+        self.assertEqual(inner_bodies(("while", yes)), (yes,))
+        self.assertEqual(inner_bodies(("wait", 1)), ())
+
+
+if __name__ == "__main__":
+    unittest.main()
