@@ -41,6 +41,14 @@ class Book:
             return self._known.dish_by_name[name][2]
         raise UnknownName(name)
 
+    def well_of(self, name):
+        """The kind and the ticks of a well of the program."""
+        return self._known.well_by_name[name]
+
+    def dish_of(self, name):
+        """The kinds that a dish of the program needs and makes, and its ticks."""
+        return self._known.dish_by_name[name]
+
 
 class Procedure:
     """A procedure of a program; it never changes."""

@@ -27,6 +27,8 @@ def operands_of(step):
     """What a step reads, copies, puts, takes or hands over."""
     if step[0] == "call":
         return step[2]
+    if step[0] == "end":
+        return step[1]
     return tuple([step[at] for at in OPERANDS.get(step[0], ())])
 
 
@@ -34,7 +36,9 @@ def results_of(step):
     """The names that a step fills; for a put, the shelf."""
     if step[0] == "call":
         return step[3]
-    if step[0] in ("wait", "if", "while"):
+    if step[0] == "end":
+        return step[2]
+    if step[0] in ("wait", "if", "while", "ask", "jump"):
         return ()
     return (step[1],)
 

@@ -3,7 +3,7 @@
 import inspect
 import unittest
 
-from sourwright import code, errors, programs, texts
+from sourwright import code, errors, flow, lifetypes, programs, rows, texts, world
 
 MEMBERS = {
     programs.Program: {
@@ -37,7 +37,31 @@ MEMBERS = {
         "__eq__": None,
     },
 }
+MEMBERS[rows.LifeRow] = {
+    "__init__": ("self", "left", "lost"), "__call__": ("self", "lives"), "__sub__": None, "__and__": None,
+    "is_below": ("self", "other"), "__eq__": None, "__repr__": ("self",),
+}
+MEMBERS[lifetypes.LifeType] = {
+    "__init__": ("self", "keeps", "needs", "took", "rows", "sours"), "__call__": ("self", "lives"), "plain": ("self",),
+    "stands_for": ("self", "u"), "__eq__": None, "__repr__": ("self",),
+}
+MEMBERS[world.World] = {
+    "__init__": ("self", "program", "name", "lives", "worths", "supply"), "step": ("self", "answer"), "undo": ("self",),
+    "where": ("self",), "filled": ("self",), "resting": ("self",), "events": ("self", "answers"), "outcome": ("self",),
+}
+FUNCTIONS = {
+    flow.steps: ("procedure",),
+    flow.flow: ("procedure",),
+    flow.check_sound: ("program",),
+    flow.written_out: ("program", "name"),
+    world.check_start: ("program", "name", "lives"),
+    world.run: ("program", "name", "lives", "answers", "worths", "supply"),
+    texts.show_program: ("program",),
+}
 PROPERTIES = {
+    rows.LifeRow: ("left", "lost"),
+    lifetypes.LifeType: ("keeps", "needs", "took", "rows", "sours", "is_never"),
+    world.World: ("tick",),
     programs.Program: ("kinds", "wells", "dishes", "procedures"),
     programs.Procedure: ("params", "results", "body", "names", "shelves"),
     code.CodeProgram: ("kinds", "wells", "dishes", "procedures"),
@@ -51,6 +75,10 @@ NAMES = {
     programs: ("Program", "Procedure", "Book"),
     code: ("CodeProgram", "CodeProcedure"),
     texts: ("show_program",),
+    flow: ("steps", "flow", "check_sound", "written_out"),
+    world: ("check_start", "World", "run"),
+    rows: ("LifeRow",),
+    lifetypes: ("LifeType",),
 }
 
 
@@ -77,8 +105,20 @@ class InterfaceTest(unittest.TestCase):
         self.assertIsInstance(read, classmethod)
         self.assertEqual(tuple(inspect.signature(programs.Program.read).parameters), ("text",))
 
-    def test_show_program(self):
-        self.assertEqual(tuple(inspect.signature(texts.show_program).parameters), ("program",))
+    def test_functions_take_their_arguments(self):
+        for function, parameters in FUNCTIONS.items():
+            self.assertEqual(tuple(inspect.signature(function).parameters), parameters)
+
+    def test_arguments_by_name_alone(self):
+        for function, names in (
+            (world.run, ("worths", "supply")), (world.World, ("worths", "supply")), (lifetypes.LifeType, ("sours",)),
+        ):
+            for name, parameter in inspect.signature(function).parameters.items():
+                self.assertEqual(parameter.kind is parameter.KEYWORD_ONLY, name in names)
+
+    def test_never_is_a_static_method(self):
+        self.assertIsInstance(vars(lifetypes.LifeType)["never"], staticmethod)
+        self.assertEqual(tuple(inspect.signature(lifetypes.LifeType.never).parameters), ("keeps", "results"))
 
     def test_both_programs_are_books(self):
         self.assertTrue(issubclass(programs.Program, programs.Book))

@@ -198,14 +198,17 @@ class NamesTest(unittest.TestCase):
                     self.assertNotIn(bound, taken, where(name, node))
 
     def test_methods_and_attributes(self):
-        own = {node.name for _, node in NODES if isinstance(node, ast.FunctionDef)}
+        own = {
+            one.name for _, node in NODES if isinstance(node, ast.ClassDef) for one in node.body
+            if isinstance(one, ast.FunctionDef)
+        }
         for name, node in NODES:
             if isinstance(node, ast.Call) and isinstance(node.func, ast.Attribute):
                 self.assertIn(node.func.attr, own | METHODS, where(name, node))
             if isinstance(node, ast.Attribute):
                 self.assertFalse(node.attr.startswith("__") and node.attr != "__init__", where(name, node))
                 if isinstance(node.ctx, ast.Store):
-                    self.assertNotIn(node.attr, BARRED_ATTRIBUTES | own - self.properties(), where(name, node))
+                    self.assertNotIn(node.attr, BARRED_ATTRIBUTES | own | self.properties(), where(name, node))
 
     def properties(self):
         return {
