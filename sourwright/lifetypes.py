@@ -73,7 +73,8 @@ class LifeType:
             if lost[index] is not None and need == keep:
                 left = least_term(left, max(keep - lost[index], -1))
                 lost[index] = None
-        if LifeRow(left, lost)(self._keeps) < 1:
+        longest = LifeRow(left, lost)
+        if longest(self._keeps) < 1:
             return None
         for index, need in enumerate(self._needs):
             if lost[index] is not None and need - lost[index] >= self._least_other(left, lost, index):

@@ -1,9 +1,12 @@
 """Second, slower ways to what the package tells of places, soundness, runs and lives."""
 
 import functools
+import itertools
 
 from sourwright.code import CodeProgram
 from sourwright.flow import flow, steps
+from sourwright.lifetypes import LifeType
+from sourwright.rows import LifeRow
 
 # Places.
 
@@ -497,7 +500,7 @@ class Chains:
         for param in shape.params:
             found = self.follow([(((self.name, 0),), (1, param), 0)])
             needs.append(max([c for spot, one, c in found if one in self.read_at(spot)], default=-1))
-            for result in shape.results:
+            for result in lost:
                 lost[result].append(max([c for s, one, c in found if s == exit_spot and one == (1, result)], default=None))
         sours = False
         births = {
@@ -527,3 +530,189 @@ class Chains:
                     found.add(one)
                     waiting.append(one)
         return max(ticks for spot, ticks in found if spot == exit_spot)
+
+
+# The earliest sour read, by going through all runs up to a tick.
+
+
+def earliest_by_runs(world, limit):
+    """The earliest tick at which some run reads something sour, up to a limit, or None; the world stands as before."""
+    best = None
+    done = 0
+    stack = [None]
+    # Each entry of the stack is the next answer to try where the run asks, or None for a step that does not ask.
+    while stack:
+        bound = limit if best is None else best - 1
+        event = world.step(stack[-1]) if world.tick <= bound else ("late",)
+        if event[0] == "asks":
+            stack[-1] = True
+            continue
+        if event[0] in ("sour", "done", "late"):
+            if event[0] == "sour":
+                best = event[1]
+            stack.pop()
+            while stack and stack[-1] is not True:
+                stack.pop()
+                world.undo()
+            if stack:
+                world.undo()
+                stack[-1] = False
+        else:
+            done += 1
+            if done > 20000:
+                raise OverflowError
+            stack.append(None)
+    return best
+
+
+# Standing for one another, by going through all lives.
+
+
+def value_of(bound, lives):
+    """What a row or None gives, reckoned term by term."""
+    if bound is None:
+        return -1
+    found = [life - entry for life, entry in zip(lives, bound.lost) if entry is not None]
+    found += [bound.left] if bound.left is not None else []
+    return max(-1, min(found))
+
+
+def is_never(one):
+    return one.sours or any(need > keep for need, keep in zip(one.needs, one.keeps))
+
+
+def may_stand(one, other):
+    """The three conditions of [28], by going through all lives."""
+    if is_never(other):
+        return True
+    if is_never(one):
+        return False
+    if any(mine > need for mine, need in zip(one.needs, other.needs)) or min(one.took, 60) > min(other.took, 60):
+        return False
+    for lives in itertools.product(*(range(need, keep + 1) for need, keep in zip(other.needs, other.keeps))):
+        for mine, row in zip(one.rows, other.rows):
+            if value_of(row, lives) >= 1 and value_of(mine, lives) < value_of(row, lives):
+                return False
+    return True
+
+
+# Tables, rule by rule.
+
+
+def table_stands(program, name, types, claimed, table):
+    """Whether a value is a table that holds, by the words of [24]."""
+    shape = Shape(program, name)
+    many = len(shape.params)
+    keeps = tuple(dict(program.kinds)[kind] for kind in shape.kinds)
+    if not has_form(shape, many, table):
+        return False
+    needs, late, told = table
+    rows = [{carrier: terms_of(row) for carrier, row in pairs} for pairs in told]
+    for carrier, row in rows[0].items():
+        if carrier not in shape.params or shape.params.index(carrier) not in row:
+            return False
+
+    def readable(row):
+        return row.get("left", 0) >= 0 and all(row[at] <= needs[at] for at in range(many) if at in row)
+
+    for place in range(shape.exit):
+        step = shape.steps[place]
+        before = rows[place]
+        ticks = step_ticks(program, step)
+        if step[0] == "call":
+            callee = types[step[1]]
+            if is_never(callee):
+                return False
+            ticks = callee.took + 1
+            for arg, need in zip(step[2], callee.needs):
+                if need >= 0 and (arg not in before or not readable(lowered(before[arg], need))):
+                    return False
+        for one in reads(step):
+            if one not in before or not readable(before[one]):
+                return False
+        follow = following(program, shape, step, before, ticks, types, many)
+        for _, goal in shape.ahead[place]:
+            if late[goal] < min(61, late[place] + ticks):
+                return False
+            for carrier, row in rows[goal].items():
+                if goal == shape.exit and shape.is_code and carrier not in shape.results:
+                    return False
+                if carrier not in follow:
+                    return False
+                for other in follow[carrier]:
+                    for term in other:
+                        if term not in row:
+                            return False
+                        if row[term] > other[term] if term == "left" else row[term] < other[term]:
+                            return False
+    ends = [rows[shape.exit].get(result) for result in shape.results]
+    ends = [row and LifeRow(row.get("left"), tuple(row.get(at) for at in range(many))) for row in ends]
+    return may_stand(LifeType(keeps, needs, late[shape.exit], ends), claimed)
+
+
+def following(program, shape, step, before, ticks, types, many):
+    """For each carrier that may have a row behind a step, the rows that follow."""
+    word = step[0]
+    colds = {one[1] for one in shape.steps if one[0] == "put"}
+    if word == "end":
+        return {"r%d" % at: [before[cup]] for at, cup in enumerate(step[1]) if cup in before}
+    filled = list(step[3]) if word == "call" else [] if word in ("wait", "if", "while", "ask", "jump") else [step[1]]
+    emptied = [step[2]] if word in ("put", "take") else []
+    follow = {
+        carrier: [row if carrier in colds else lowered(row, ticks)] for carrier, row in before.items()
+        if carrier not in filled + emptied
+    }
+    if word in ("get", "dish"):
+        follow[step[1]] = [{"left": dict(program.kinds)[made_kind(program, step)]}]
+    elif word in ("put", "take") and step[2] in before:
+        follow[step[1]] = [before[step[2]]]
+    elif word in ("scale", "copy", "mix"):
+        sources = step[3:5] if word == "mix" else step[2:3]
+        if all(source in before for source in sources):
+            follow[step[1]] = [lowered(before[source], ticks) for source in sources]
+    elif word == "call":
+        for name, row in zip(step[3], types[step[1]].rows):
+            if row is None or any(lost is not None and arg not in before for arg, lost in zip(step[2], row.lost)):
+                continue
+            follow[name] = [{"left": max(row.left - 1, -1)}] if row.left is not None else []
+            follow[name] += [lowered(before[arg], lost + 1) for arg, lost in zip(step[2], row.lost) if lost is not None]
+    return follow
+
+
+def terms_of(row):
+    found = {at: lost for at, lost in enumerate(row.lost) if lost is not None}
+    if row.left is not None:
+        found["left"] = row.left
+    return found
+
+
+def lowered(row, ticks):
+    return {term: max(-1, row[term] - ticks) if term == "left" else min(61, row[term] + ticks) for term in row}
+
+
+def has_form(shape, many, table):
+    def integer(value, low, high):
+        return isinstance(value, int) and not isinstance(value, bool) and low <= value <= high
+
+    if not isinstance(table, tuple) or len(table) != 3 or any(not isinstance(part, tuple) for part in table):
+        return False
+    needs, late, rows = table
+    if len(needs) != many or len(late) != shape.exit + 1 or len(rows) != shape.exit + 1:
+        return False
+    if any(not integer(need, -1, 60) for need in needs) or any(not integer(tick, 0, 61) for tick in late):
+        return False
+    for pairs in rows:
+        if not isinstance(pairs, tuple) or any(not isinstance(pair, tuple) or len(pair) != 2 for pair in pairs):
+            return False
+        if any(not isinstance(carrier, str) or not isinstance(row, LifeRow) for carrier, row in pairs):
+            return False
+        if len({carrier for carrier, _ in pairs}) < len(pairs):
+            return False
+        for _, row in pairs:
+            if len(row.lost) != many or (row.left is None and all(lost is None for lost in row.lost)):
+                return False
+            if not (row.left is None or integer(row.left, -1, 60)):
+                return False
+            if any(not (lost is None or integer(lost, 0, 61)) for lost in row.lost):
+                return False
+    return True

@@ -3,7 +3,7 @@
 import inspect
 import unittest
 
-from sourwright import code, errors, flow, lifetypes, programs, rows, texts, world
+from sourwright import code, errors, flow, judging, lifetypes, lives, papers, programs, rows, standing, texts, world
 
 MEMBERS = {
     programs.Program: {
@@ -57,6 +57,16 @@ FUNCTIONS = {
     world.check_start: ("program", "name", "lives"),
     world.run: ("program", "name", "lives", "answers", "worths", "supply"),
     texts.show_program: ("program",),
+    lives.exact_type: ("program", "name"),
+    lives.composed_type: ("program", "name", "types"),
+    papers.table_of: ("program", "name", "types"),
+    papers.table_holds: ("program", "name", "types", "u", "table"),
+    papers.paper_of: ("program", "name"),
+    papers.paper_holds: ("program", "name", "lives", "value"),
+    judging.is_fresh: ("program", "name", "lives"),
+    judging.judge: ("program", "name", "lives"),
+    standing.stand_in: ("program", "p", "q"),
+    standing.callers: ("program", "name"),
 }
 PROPERTIES = {
     rows.LifeRow: ("left", "lost"),
@@ -79,6 +89,10 @@ NAMES = {
     world: ("check_start", "World", "run"),
     rows: ("LifeRow",),
     lifetypes: ("LifeType",),
+    lives: ("exact_type", "composed_type"),
+    papers: ("table_of", "table_holds", "paper_of", "paper_holds"),
+    judging: ("is_fresh", "judge"),
+    standing: ("stand_in", "callers"),
 }
 
 

@@ -1,43 +1,15 @@
 """Life types, their plain forms, and standing for one another (points [2], [19], [22], [28])."""
 
-import itertools
 import random
 import unittest
 
 from drawing import draw_type
+from second import is_never, may_stand, value_of
 
 from sourwright.lifetypes import LifeType
 from sourwright.rows import LifeRow
 
 MAKE = LifeType((8,), (3,), 6, (LifeRow(20, (None,)),))
-
-
-def value_of(bound, lives):
-    """What a row or None gives, reckoned term by term."""
-    if bound is None:
-        return -1
-    found = [life - entry for life, entry in zip(lives, bound.lost) if entry is not None]
-    found += [bound.left] if bound.left is not None else []
-    return max(-1, min(found))
-
-
-def is_never(one):
-    return one.sours or any(need > keep for need, keep in zip(one.needs, one.keeps))
-
-
-def may_stand(one, other):
-    """The three conditions of [28], by going through all lives."""
-    if is_never(other):
-        return True
-    if is_never(one):
-        return False
-    if any(mine > need for mine, need in zip(one.needs, other.needs)) or min(one.took, 60) > min(other.took, 60):
-        return False
-    for lives in itertools.product(*(range(need, keep + 1) for need, keep in zip(other.needs, other.keeps))):
-        for mine, row in zip(one.rows, other.rows):
-            if value_of(row, lives) >= 1 and value_of(mine, lives) < value_of(row, lives):
-                return False
-    return True
 
 
 def plain_of(one):
