@@ -2,7 +2,6 @@
 
 from sourwright.errors import InvalidCode
 from sourwright.forms import is_row, is_word
-from sourwright.steps import counts_fit, names_known
 
 
 def check_code(index, given, known):
@@ -30,13 +29,24 @@ def row_fault(rows, at, known):
         return "row"
     if not names_known(row, known):
         return "unknown"
-    if row[0] == "call" and not counts_fit(row, known):
+    if row[0] == "call" and not known.fits_callee(row):
         return "count"
     if not all([0 <= goal < len(rows) for goal in next_rows(rows, at)]):
         return "target"
     if row[0] == "end" and len(row[1]) != len(ends_of(rows[:at + 1])[0]):
         return "end"
     return None
+
+
+def names_known(row, known):
+    """Whether a row uses a well, dish or procedure that is there, if it uses one."""
+    if row[0] == "get":
+        return row[2] in known.well_by_name
+    if row[0] == "dish":
+        return row[2] in known.dish_by_name
+    if row[0] == "call":
+        return row[1] in known.callees
+    return True
 
 
 def ends_of(rows):

@@ -1,19 +1,20 @@
-"""The forms that words, numbers, steps of programs and rows of code have."""
+"""The forms that words, numbers and rows of code have."""
 
 LETTERS = "abcdefghijklmnopqrstuvwxyz"
-RESERVED = (
-    "if", "else", "end", "while", "get", "mix", "scale", "dish", "copy", "wait", "put", "take", "call",
-    "kind", "well", "part", "use",
-)
+RESERVED = {
+    "if": True, "else": True, "end": True, "while": True, "get": True, "mix": True, "scale": True, "dish": True,
+    "copy": True, "wait": True, "put": True, "take": True, "call": True, "kind": True, "well": True, "part": True,
+    "use": True,
+}
 # An if or while within so many bodies is refused, so that no text and no body is nested without limit.
 MOST_BODIES = 8
 
 
 def is_word(value):
     """Whether a value can be a name."""
-    if not isinstance(value, str) or value in RESERVED:
+    if not isinstance(value, str) or len(value) > 6 or value in RESERVED:
         return False
-    return 1 <= len(value) <= 6 and all([letter in LETTERS for letter in value])
+    return value.isascii() and value.isalpha() and value.islower()
 
 
 def is_integer(value):
@@ -47,13 +48,8 @@ def is_pause(value):
 
 
 def is_tuple(value):
-    """Whether a value is a tuple, as the bodies of steps are."""
+    """Whether a value is a tuple."""
     return isinstance(value, tuple)
-
-
-def is_names(value):
-    """Whether a value is a tuple of names."""
-    return is_tuple(value) and all([is_word(name) for name in value])
 
 
 def is_place(value):
@@ -71,20 +67,7 @@ def is_spots(value):
     return is_tuple(value) and all([is_spot(cup) for cup in value])
 
 
-# The parts that stand behind the first word of a step, and of a code row; CHECKS tells what passes for each part.
-STEP_FORMS = {
-    "get": ("name", "string"),
-    "mix": ("name", "sign", "name", "name"),
-    "scale": ("name", "name", "factor"),
-    "dish": ("name", "string", "name"),
-    "copy": ("name", "name"),
-    "wait": ("pause",),
-    "put": ("name", "name"),
-    "take": ("name", "name"),
-    "if": ("body", "body"),
-    "while": ("body",),
-    "call": ("string", "names", "names"),
-}
+# The parts that stand behind the first word of a code row; CHECKS tells what passes for each part.
 ROW_FORMS = {
     "get": ("spot", "string", "place"),
     "mix": ("spot", "sign", "spot", "spot"),
@@ -100,13 +83,10 @@ ROW_FORMS = {
     "end": ("spots",),
 }
 CHECKS = {
-    "name": is_word,
-    "names": is_names,
     "string": is_string,
     "sign": is_sign,
     "factor": is_factor,
     "pause": is_pause,
-    "body": is_tuple,
     "spot": is_spot,
     "spots": is_spots,
     "place": is_place,
@@ -114,31 +94,15 @@ CHECKS = {
 }
 
 
-def is_step(value):
-    """Whether a value is of one of the forms of steps, whatever stands in its bodies."""
-    word = first_word(value)
-    return word in STEP_FORMS and fits_all(value[1:], STEP_FORMS[word])
-
-
 def is_row(value):
     """Whether a value is of one of the forms of code rows."""
-    word = first_word(value)
-    return word in ROW_FORMS and fits_all(value[1:], ROW_FORMS[word])
-
-
-def first_word(value):
-    """The string with which a tuple begins, or an empty one if the value is nothing of the kind."""
-    if is_tuple(value) and len(value) > 0 and is_string(value[0]):
-        return value[0]
-    return ""
-
-
-def fits_all(items, parts):
-    """Whether there is an item for each part, and fits it."""
-    return len(items) == len(parts) and all([fits(item, part) for item, part in zip(items, parts)])
+    if not is_tuple(value) or len(value) == 0 or not is_string(value[0]) or value[0] not in ROW_FORMS:
+        return False
+    parts = ROW_FORMS[value[0]]
+    return len(value) == len(parts) + 1 and all([fits(item, part) for item, part in zip(value[1:], parts)])
 
 
 def fits(item, part):
-    """Whether an item can be this part of a step or row."""
+    """Whether an item can be this part of a row."""
     check = CHECKS[part]
     return check(item)

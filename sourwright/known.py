@@ -47,3 +47,9 @@ class Known:
     def has_kinds(self, kinds):
         """Whether all of these are kinds of the program."""
         return all([kind in self.keep_by_kind for kind in kinds])
+
+    def fits_callee(self, call):
+        """Whether a call of a known procedure has as many arguments and results as that, and no result twice."""
+        _, callee, args, filled = call
+        taken, given = self.callees[callee]
+        return len(args) == len(taken) and len(filled) == len(given) == len(set(filled))

@@ -1,10 +1,9 @@
 """Programs and their procedures."""
 
-from sourwright.checking import checked_kinds, kinds_of_call
+from sourwright.checking import Checked
 from sourwright.errors import UnknownName
 from sourwright.known import Known
 from sourwright.reading import read_program
-from sourwright.steps import shelves_of, steps_by_place
 
 
 class Book:
@@ -53,12 +52,12 @@ class Book:
 class Procedure:
     """A procedure of a program; it never changes."""
 
-    def __init__(self, given, kinds):
+    def __init__(self, given, checked):
         self.name, self._params, self._results, self._body = given
-        self._kinds = kinds
-        self._steps = steps_by_place(self._body)
-        self._shelves = tuple(sorted(set([shelf for step in self._steps for shelf in shelves_of(step)])))
-        self._names = tuple([carrier for carrier in sorted(kinds) if carrier not in self._shelves])
+        self._steps = checked.found
+        self._names = tuple(sorted(checked.named))
+        self._shelves = tuple(sorted(checked.shelved))
+        self._kinds = checked.kind_by_carrier
 
     @property
     def params(self):
@@ -107,10 +106,9 @@ class Program(Book):
     def __init__(self, kinds, wells, dishes, procedures):
         super().__init__(kinds, wells, dishes, procedures)
         for index, given in enumerate(self._procedures):
-            carriers = checked_kinds(index, given, self._known)
-            procedure = Procedure(given, carriers)
-            self._found[procedure.name] = procedure
-            self._known.callees[procedure.name] = kinds_of_call(given, carriers)
+            checked = Checked(index, given, self._known)
+            self._found[given[0]] = Procedure(given, checked)
+            self._known.callees[given[0]] = checked.kinds_of_call(given)
 
     @classmethod
     def read(cls, text):

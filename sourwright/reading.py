@@ -4,41 +4,41 @@ from sourwright.errors import InvalidText
 from sourwright.forms import MOST_BODIES, is_sign, is_word
 
 ARROW = "->"
-DIGITS = "0123456789"
-# The parts that stand behind the first word of a line.
+# For each form of line how many words it has, which of them are names, and which is a number or a sign, or 0 for none.
 DECLARED_LINES = {
-    "kind": ("word", "number"),
-    "well": ("word", "word", "number"),
-    "dish": ("word", "word", "word", "number"),
+    "kind": (3, (1,), 2, 0),
+    "well": (4, (1, 2), 3, 0),
+    "dish": (5, (1, 2, 3), 4, 0),
 }
 STEP_LINES = {
-    "get": ("word", "word"),
-    "mix": ("word", "word", "sign", "word"),
-    "scale": ("word", "word", "number"),
-    "dish": ("word", "word", "word"),
-    "copy": ("word", "word"),
-    "wait": ("number",),
-    "put": ("word", "word"),
-    "take": ("word", "word"),
+    "get": (3, (1, 2), 0, 0),
+    "mix": (5, (1, 2, 4), 0, 3),
+    "scale": (4, (1, 2), 3, 0),
+    "dish": (4, (1, 2, 3), 0, 0),
+    "copy": (3, (1, 2), 0, 0),
+    "wait": (2, (), 1, 0),
+    "put": (3, (1, 2), 0, 0),
+    "take": (3, (1, 2), 0, 0),
 }
 
 
 class Lines:
-    """The lines of a text, passed one after another."""
+    """The lines of a text, passed one after another; `seen` has the words that turned out to be names as keys."""
 
     def __init__(self, text):
         self.told = text.split("\n")
         self.at = 0
+        self.seen = {}
 
     def are_left(self):
         """Whether there is a line that is not passed yet."""
         return self.at < len(self.told)
 
-    def words(self):
-        """The words of the next line; where a line is missing, it is wrong."""
-        if not self.are_left():
+    def next_line(self):
+        """The next line; where a line is missing, it is wrong."""
+        if self.at >= len(self.told):
             raise InvalidText(self.at)
-        return self.told[self.at].split(" ")
+        return self.told[self.at]
 
     def pass_line(self, is_right):
         """Passes the next line, or raises if it is not right."""
@@ -46,11 +46,34 @@ class Lines:
             raise InvalidText(self.at)
         self.at += 1
 
-    def pass_items(self, parts):
-        """Passes the next line, which must have these parts behind its first word, and returns what they write."""
-        items = items_of(self.words()[1:], parts)
-        self.pass_line(items is not None)
-        return items
+    def are_words(self, names):
+        """Whether all of these can be names."""
+        for name in names:
+            if name not in self.seen:
+                if not is_word(name):
+                    return False
+                self.seen[name] = True
+        return True
+
+    def read_number(self, word):
+        """The number that a word of the next line writes, or it raises."""
+        number = number_of(word)
+        if number is None:
+            raise InvalidText(self.at)
+        return number
+
+    def pass_items(self, words, form):
+        """Passes the next line, which must have these words in this form, and returns them with its number as one."""
+        length, spots, number_at, sign_at = form
+        if len(words) != length or sign_at and not is_sign(words[sign_at]):
+            raise InvalidText(self.at)
+        for spot in spots:
+            if words[spot] not in self.seen and not self.are_words(words[spot:spot + 1]):
+                raise InvalidText(self.at)
+        if number_at:
+            words[number_at] = self.read_number(words[number_at])
+        self.at += 1
+        return tuple(words)
 
 
 def read_program(text):
@@ -65,8 +88,11 @@ def read_program(text):
 def read_declared(lines, word):
     """The kinds, wells or dishes that the next lines write, as far as they begin with this word."""
     rows = []
-    while lines.are_left() and lines.words()[0] == word:
-        rows.append(lines.pass_items(DECLARED_LINES[word]))
+    while lines.are_left():
+        words = lines.next_line().split(" ")
+        if words[0] != word:
+            break
+        rows.append(lines.pass_items(words, DECLARED_LINES[word])[1:])
     return tuple(rows)
 
 
@@ -80,52 +106,48 @@ def read_procedures(lines):
 
 def read_procedure(lines):
     """The procedure that the next lines write."""
-    before, behind = around_arrow(lines.words())
-    params = [param_of(word) for word in before[2:]]
-    is_head = len(before) >= 2 and before[0] == "procedure" and is_word(before[1])
-    lines.pass_line(is_head and None not in params and are_words(behind))
+    before, behind = around_arrow(lines.next_line().split(" "))
+    params = [tuple(word.split(":")) for word in before[2:]]
+    is_head = len(before) >= 2 and before[0] == "procedure" and lines.are_words(before[1:2] + behind)
+    lines.pass_line(is_head and all([len(pair) == 2 and lines.are_words(pair) for pair in params]))
     return (before[1], tuple(params), tuple(behind), read_body(lines, "end", 0))
 
 
 def read_body(lines, last, bodies):
     """The steps that the next lines write, within so many bodies; passes the line `last` behind them, too."""
     found = []
-    while lines.words() != [last]:
-        found.append(read_step(lines, bodies))
+    line = lines.next_line()
+    while line != last:
+        words = line.split(" ")
+        if words[0] in STEP_LINES:
+            items = lines.pass_items(words, STEP_LINES[words[0]])
+            if words[0] == "mix":
+                _, made, first, sign, second = items
+                items = ("mix", made, sign, first, second)
+            found.append(items)
+        else:
+            found.append(read_longer(lines, words, bodies))
+        line = lines.next_line()
     lines.pass_line(True)
     return tuple(found)
 
 
-def read_step(lines, bodies):
-    """The step that the next lines write, within so many bodies."""
-    words = lines.words()
+def read_longer(lines, words, bodies):
+    """The `if`, `while` or `call` that begins with the next line, of these words, within so many bodies."""
     word = words[0]
-    if word in ("if", "while"):
-        lines.pass_line(len(words) == 1 and bodies < MOST_BODIES)
-        return read_asking(lines, word, bodies + 1)
     if word == "call":
-        return read_call(lines)
-    if word not in STEP_LINES:
-        raise InvalidText(lines.at)
-    items = lines.pass_items(STEP_LINES[word])
-    if word == "mix":
-        made, first, sign, second = items
-        return ("mix", made, sign, first, second)
-    return (word,) + items
-
-
-def read_asking(lines, word, bodies):
-    """The `if` or `while` whose first line is passed; `bodies` counts those around the steps in it."""
+        return read_call(lines, words)
+    lines.pass_line(word in ("if", "while") and len(words) == 1 and bodies < MOST_BODIES)
     if word == "while":
-        return ("while", read_body(lines, "end", bodies))
-    yes = read_body(lines, "else", bodies)
-    return ("if", yes, read_body(lines, "end", bodies))
+        return ("while", read_body(lines, "end", bodies + 1))
+    yes = read_body(lines, "else", bodies + 1)
+    return ("if", yes, read_body(lines, "end", bodies + 1))
 
 
-def read_call(lines):
-    """The call that the next line writes."""
-    before, behind = around_arrow(lines.words())
-    lines.pass_line(len(before) >= 2 and are_words(before[1:]) and are_words(behind))
+def read_call(lines, words):
+    """The call that the next line writes, of these words."""
+    before, behind = around_arrow(words)
+    lines.pass_line(len(before) >= 2 and lines.are_words(before[1:] + behind))
     return ("call", before[1], tuple(before[2:]), tuple(behind))
 
 
@@ -137,42 +159,10 @@ def around_arrow(words):
     return (words[:at], words[at + 1:])
 
 
-def are_words(names):
-    """Whether all of these can be names."""
-    return all([is_word(name) for name in names])
-
-
-def param_of(word):
-    """The name and the kind of a parameter, or None if it is not written like that."""
-    pair = tuple(word.split(":"))
-    if len(pair) != 2 or not are_words(pair):
-        return None
-    return pair
-
-
-def items_of(words, parts):
-    """What these words write, or None if they are not of these parts."""
-    if len(words) != len(parts):
-        return None
-    items = [item_of(word, part) for word, part in zip(words, parts)]
-    if None in items:
-        return None
-    return tuple(items)
-
-
-def item_of(word, part):
-    """What a word writes as this part, or None."""
-    if part == "number":
-        return number_of(word)
-    if part == "sign":
-        return word if is_sign(word) else None
-    return word if is_word(word) else None
-
-
 def number_of(word):
     """The integer of at most four digits that is written like this, or None."""
     digits = word.removeprefix("-")
-    if not 1 <= len(digits) <= 4 or not all([digit in DIGITS for digit in digits]):
+    if len(digits) > 4 or not digits.isascii() or not digits.isdigit():
         return None
     if digits[0] == "0" and word != "0":
         return None

@@ -41,39 +41,3 @@ def results_of(step):
     if step[0] in ("wait", "if", "while", "ask", "jump"):
         return ()
     return (step[1],)
-
-
-def shelves_of(step):
-    """The shelf that a step uses, if it uses one."""
-    if step[0] == "put":
-        return results_of(step)
-    if step[0] == "take":
-        return operands_of(step)
-    return ()
-
-
-def names_of(step):
-    """The names of values that a step uses."""
-    if step[0] == "put":
-        return operands_of(step)
-    if step[0] == "take":
-        return results_of(step)
-    return results_of(step) + operands_of(step)
-
-
-def names_known(step, known):
-    """Whether a step or row uses a well, dish or procedure that is there, if it uses one."""
-    if step[0] == "get":
-        return step[2] in known.well_by_name
-    if step[0] == "dish":
-        return step[2] in known.dish_by_name
-    if step[0] == "call":
-        return step[1] in known.callees
-    return True
-
-
-def counts_fit(call, known):
-    """Whether a call has as many arguments and results as its callee, and no result twice."""
-    taken, given = known.callees[call[1]]
-    args, filled = call[2:]
-    return len(args) == len(taken) and len(filled) == len(given) == len(set(filled))

@@ -4,29 +4,32 @@ import unittest
 
 from samples import FULL
 
-from sourwright.steps import inner_bodies, names_of, operands_of, results_of, shelves_of, steps_by_place
+from sourwright.steps import inner_bodies, operands_of, results_of, steps_by_place
 
-# For each step: its operands, its results, its names of values, its shelves.
+# For each step: its operands, its results.
 TOLD = {
-    ("get", "z", "w"): ((), ("z",), ("z",), ()),
-    ("mix", "z", "+", "x", "y"): (("x", "y"), ("z",), ("z", "x", "y"), ()),
-    ("scale", "z", "x", 2): (("x",), ("z",), ("z", "x"), ()),
-    ("dish", "z", "d", "x"): (("x",), ("z",), ("z", "x"), ()),
-    ("copy", "z", "x"): (("x",), ("z",), ("z", "x"), ()),
-    ("wait", 2): ((), (), (), ()),
-    ("put", "s", "x"): (("x",), ("s",), ("x",), ("s",)),
-    ("take", "z", "s"): (("s",), ("z",), ("z",), ("s",)),
-    ("if", (("wait", 1),), ()): ((), (), (), ()),
-    ("while", (("wait", 1),)): ((), (), (), ()),
-    ("call", "p", ("x", "x"), ("y", "z")): (("x", "x"), ("y", "z"), ("y", "z", "x", "x"), ()),
-    ("call", "p", (), ()): ((), (), (), ()),
+    ("get", "z", "w"): ((), ("z",)),
+    ("mix", "z", "+", "x", "y"): (("x", "y"), ("z",)),
+    ("scale", "z", "x", 2): (("x",), ("z",)),
+    ("dish", "z", "d", "x"): (("x",), ("z",)),
+    ("copy", "z", "x"): (("x",), ("z",)),
+    ("wait", 2): ((), ()),
+    ("put", "s", "x"): (("x",), ("s",)),
+    ("take", "z", "s"): (("s",), ("z",)),
+    ("if", (("wait", 1),), ()): ((), ()),
+    ("while", (("wait", 1),)): ((), ()),
+    ("call", "p", ("x", "x"), ("y", "z")): (("x", "x"), ("y", "z")),
+    ("call", "p", (), ()): ((), ()),
+    ("ask",): ((), ()),
+    ("jump",): ((), ()),
+    ("end", ("c0", "c0"), ("r0", "r1")): (("c0", "c0"), ("r0", "r1")),
 }
 
 
 class StepsTest(unittest.TestCase):
     def test_what_steps_work_on(self):
         for step, told in TOLD.items():
-            self.assertEqual((operands_of(step), results_of(step), names_of(step), shelves_of(step)), told)
+            self.assertEqual((operands_of(step), results_of(step)), told)
 
     def test_what_rows_work_on(self):
         self.assertEqual((operands_of(("get", 3, "w", 7)), results_of(("get", 3, "w", 7))), ((), (3,)))
