@@ -2,7 +2,6 @@
 
 from sourwright.chains import Chains, exact_chains, plans_within
 from sourwright.forms import is_tuple
-from sourwright.lifetypes import LifeType
 from sourwright.plans import Plan
 from sourwright.starts import check_lives
 from sourwright.tables import holds
@@ -38,17 +37,10 @@ def paper_holds(program, name, lives, value):
         if not is_tuple(triple) or len(triple) != 3:
             return False
         told, claimed, table = triple
-        if told != one or not is_claim(plans[one], types, claimed, table):
+        if told != one or not holds(plans[one], types, claimed, table):
             return False
         types[one] = claimed
     return lets_start(types[name], lives)
-
-
-def is_claim(plan, types, claimed, table):
-    """Whether these are a type for a plan and a table that holds for it."""
-    if not isinstance(claimed, LifeType) or claimed.keeps != plan.taken_keeps or len(claimed.rows) != len(plan.given):
-        return False
-    return holds(plan, types, claimed, table)
 
 
 def lets_start(life_type, lives):

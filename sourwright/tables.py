@@ -1,7 +1,7 @@
 """Whether tables hold, step by step."""
 
 from sourwright.effects import births_of, carriers_behind, moves_of, reads_of, ticks_of_op
-from sourwright.forms import is_tuple, is_within
+from sourwright.forms import is_integer, is_tuple, is_within
 from sourwright.lifetypes import LifeType
 from sourwright.rows import LifeRow
 
@@ -9,8 +9,8 @@ MOST = 61
 
 
 def holds(plan, types, claimed, value):
-    """Whether a value is a table of a plan, against these types, that holds for the claimed type."""
-    if not is_table(plan, value):
+    """Whether a value is a table of a plan, against these types, that holds for the claimed type, if that is one."""
+    if not is_table(plan, value) or not is_life_type(plan, claimed):
         return False
     needs, late, pairs = value
     rows = [{carrier: row for carrier, row in told} for told in pairs]
@@ -107,3 +107,15 @@ def is_life_row(value, many):
     if value.left is None:
         return len(terms) > 0
     return is_within(value.left, -1, MOST - 1)
+
+
+def is_life_type(plan, value):
+    """Whether a value is a life type with the keeps and the number of results of a plan, and right numbers."""
+    if not isinstance(value, LifeType) or value.keeps != plan.taken_keeps or len(value.rows) != len(plan.given):
+        return False
+    many = len(plan.taken)
+    return (
+        all([is_integer(keep) for keep in value.keeps]) and len(value.needs) == many
+        and all([is_within(need, -1, MOST) for need in value.needs]) and is_within(value.took, 0, MOST)
+        and all([row is None or is_life_row(row, many) for row in value.rows]) and isinstance(value.sours, bool)
+    )

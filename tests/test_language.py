@@ -210,6 +210,27 @@ class NamesTest(unittest.TestCase):
                 if isinstance(node.ctx, ast.Store):
                     self.assertNotIn(node.attr, BARRED_ATTRIBUTES | own | self.properties(), where(name, node))
 
+    def test_attributes_that_are_read_are_assigned(self):
+        own = {node.name for _, node in NODES if isinstance(node, ast.FunctionDef)}
+        stored = {node.attr for _, node in NODES if isinstance(node, ast.Attribute) and isinstance(node.ctx, ast.Store)}
+        for name, node in NODES:
+            if isinstance(node, ast.Attribute) and isinstance(node.ctx, ast.Load):
+                self.assertIn(node.attr, own | stored | METHODS, where(name, node))
+
+    def test_what_is_called(self):
+        # Names, methods, and items of lists; a call that gives a callable object is assigned first.
+        for name, node in NODES:
+            if isinstance(node, ast.Call):
+                self.assertIsInstance(node.func, (ast.Name, ast.Attribute, ast.Subscript), where(name, node))
+
+    def test_generators_have_names_of_their_own(self):
+        functions = [node for _, node in NODES if isinstance(node, ast.FunctionDef)]
+        names = [node.name for node in functions]
+        for node in functions:
+            if any(isinstance(one, (ast.Yield, ast.YieldFrom)) for one in ast.walk(node)):
+                self.assertEqual(names.count(node.name), 1)
+                self.assertNotIn(node.name, METHODS)
+
     def properties(self):
         return {
             node.name for _, node in NODES

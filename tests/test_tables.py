@@ -283,6 +283,10 @@ class PaperTest(unittest.TestCase):
         for wrong in (
             LifeType((9,), (-1,), 1, (LifeRow(None, (1,)),)), LifeType((8,), (-1,), 1, ()), LifeType.never((8,), 1),
             LifeType((8, 8), (-1, -1), 1, (LifeRow(None, (1, None)),)), LifeType((8,), (9,), 1, (LifeRow(None, (1,)),)),
+            LifeType((8,), (True,), 1, (LifeRow(None, (1,)),)), LifeType((8,), ("-1",), 1, (LifeRow(None, (1,)),)),
+            LifeType((8,), (-1,), True, (LifeRow(None, (1,)),)), LifeType((8,), (-1,), None, (LifeRow(None, (1,)),)),
+            LifeType((8,), (-1,), 1, (LifeRow(None, (True,)),)), LifeType((8,), (-1,), 1, (LifeRow(None, ()),)),
+            LifeType((8,), (-1,), 1, ("row",)), LifeType((8,), (), 1, (LifeRow(None, (1,)),)), LifeRow(1, (1,)),
         ):
             self.assertFalse(paper_holds(self.PROGRAM, "aa", (8,), (("aa", wrong, table),)))
 
