@@ -123,6 +123,8 @@ class PlainTest(unittest.TestCase):
         # 4: left goes unless it is less than what all entries leave of the keeps.
         one = LifeType((8,), (0,), 3, (LifeRow(7, (1,)), LifeRow(6, (1,)), LifeRow(20, (1,))))
         self.assertEqual(one.plain().rows, (LifeRow(None, (1,)), LifeRow(6, (1,)), LifeRow(None, (1,))))
+        one = LifeType((4, 2), (0, 0), 3, (LifeRow(3, (0, 0)), LifeRow(2, (0, 0)), LifeRow(1, (0, 0))))
+        self.assertEqual(one.plain().rows, (LifeRow(None, (0, 0)), LifeRow(None, (0, 0)), LifeRow(1, (0, 0))))
 
     def test_took(self):
         for took, plain in ((0, 0), (59, 59), (60, 60), (61, 60)):

@@ -134,6 +134,22 @@ class TableTest(unittest.TestCase):
         ):
             self.assertIs(table_holds(DAIRY, "make", {}, MAKE, value), False, value)
 
+    def test_numbers_that_no_table_has(self):
+        never = LifeType.never((8,), 1)
+        needs, late, rows = TABLE
+        self.assertTrue(table_holds(DAIRY, "make", {}, never, ((60,), late, rows)))
+        self.assertFalse(table_holds(DAIRY, "make", {}, never, ((61,), late, rows)))
+        self.assertTrue(table_holds(DAIRY, "make", {}, never, (needs, swapped(late, 4, 61), rows)))
+        self.assertFalse(table_holds(DAIRY, "make", {}, never, (needs, swapped(late, 4, 62), rows)))
+        self.assertTrue(table_holds(DAIRY, "make", {}, MAKE, TABLE))
+        # Whatever lies in x at place 1 is replaced there.
+        for row, holds in ((LifeRow(-1, (1,)), True), (LifeRow(-2, (1,)), False), (LifeRow(60, (61,)), True),
+                           (LifeRow(61, (1,)), False), (LifeRow(60, (62,)), False), (LifeRow(False, (1,)), False)):
+            self.assertIs(table_holds(DAIRY, "make", {}, MAKE, (needs, late, swapped(rows, 1, (("x", row),)))), holds)
+        for claimed in (LifeType((8,), (62,), 60, (None,), sours=True), LifeType((8,), (61,), 62, (None,), sours=True),
+                        LifeType((8,), (61,), 60, (LifeRow(61, (0,)),), sours=True), LifeType((8,), (-2,), 60, (None,), sours=True)):
+            self.assertFalse(table_holds(DAIRY, "make", {}, claimed, TABLE))
+
     def test_drawn_tables_by_exact_types(self):
         self.check_tables(random.Random(61), False)
 
