@@ -9,9 +9,12 @@ ASKING = ("if", "while")
 def take_names(given, seen):
     """Takes these names into a dict, which holds names that were seen; False if one of them cannot be a name."""
     for name in given:
-        if not isinstance(name, str) or name not in seen and not is_word(name):
+        if not isinstance(name, str):
             return False
-        seen[name] = True
+        if name not in seen:
+            if not is_word(name):
+                return False
+            seen[name] = True
     return True
 
 
@@ -130,18 +133,24 @@ class Checked:
 
     def fault_of(self, step):
         """The word for the first rule that a step breaks by itself, or None."""
-        if not isinstance(step, tuple) or len(step) == 0 or not isinstance(step[0], str) or step[0] not in FORMS:
+        if not isinstance(step, tuple) or len(step) == 0:
             return "step"
-        length, spots = FORMS[step[0]]
+        word = step[0]
+        if not isinstance(word, str) or word not in FORMS:
+            return "step"
+        length, spots = FORMS[word]
         if len(step) != length:
             return "step"
         named = self.named
         for spot in spots:
             name = step[spot]
-            if not isinstance(name, str) or name not in named and not is_word(name):
+            if not isinstance(name, str):
                 return "step"
-            named[name] = True
-        fault_of_rest = RESTS[step[0]]
+            if name not in named:
+                if not is_word(name):
+                    return "step"
+                named[name] = True
+        fault_of_rest = RESTS[word]
         return fault_of_rest(step, self)
 
     def check_kinds(self):

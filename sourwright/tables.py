@@ -3,9 +3,8 @@
 from sourwright.effects import births_of, carriers_behind, moves_of, reads_of, ticks_of_op
 from sourwright.forms import is_integer, is_tuple, is_within
 from sourwright.lifetypes import LifeType
+from sourwright.longest import MOST
 from sourwright.rows import LifeRow
-
-MOST = 61
 
 
 def holds(plan, types, claimed, value):
@@ -49,7 +48,7 @@ def rows_behind(plan, op, types, rows):
     """For each carrier that can have a row behind an operation, the rows that follow from those ahead of it."""
     found = {carrier: [] for carrier in carriers_behind(op, types, rows)}
     ticks = ticks_of_op(op, types)
-    for carrier in found:
+    for carrier in list(found):
         if carrier not in op.fills:
             found[carrier].append(rows[carrier] if carrier in plan.colds else rows[carrier] - ticks)
     for carrier, allowance in births_of(op, types):
