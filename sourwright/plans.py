@@ -44,9 +44,9 @@ class Plan:
         self.taken_kinds = kinds_taken(procedure)
         self.taken_keeps = tuple([program.keep_of(kind) for kind in self.taken_kinds])
         if self.is_code:
-            self.taken = spots("c", range(len(procedure.params)))
+            self.taken = spots("c", list(range(len(procedure.params))))
             told = [row_with_strings(row) for row in procedure.rows]
-            self.given = spots("r", range(count_given(procedure.rows)))
+            self.given = spots("r", list(range(count_given(procedure.rows))))
         else:
             self.taken = tuple([param for param, _ in procedure.params])
             told = [step_without_bodies(step, place) for place, step in enumerate(steps_by_place(procedure.body))]
@@ -97,7 +97,7 @@ def row_with_strings(row):
     if word == "call":
         return ("call", row[1], spots("c", row[2]), spots("c", row[3]))
     if word == "end":
-        return ("end", spots("c", row[1]), spots("r", range(len(row[1]))))
+        return ("end", spots("c", row[1]), spots("r", list(range(len(row[1])))))
     if word in ("ask", "jump"):
         return (word,)
     items = list(row)

@@ -49,6 +49,9 @@ BARRED_NODES = (
     ast.Global, ast.AsyncFunctionDef, ast.AsyncFor, ast.AsyncWith, ast.Await, ast.Import, ast.Div, ast.MatMult,
 )
 AT_ONCE = {"zip", "enumerate", "reversed", "map"}
+# What may take these, and ranges and views, as its first argument.
+TAKING = set("list tuple dict sorted sum any all enumerate zip min max".split())
+VIEWS = {"items", "keys", "values"}
 NO_GENERATORS = {"any", "all", "min", "max", "sum", "sorted"}
 TREES = {path.name: ast.parse(path.read_text(encoding="utf-8")) for path in FILES}
 NODES = [(name, node) for name, tree in TREES.items() for node in ast.walk(tree)]
@@ -69,6 +72,35 @@ def bound_names(tree):
             yield node, node.name
         elif isinstance(node, ast.alias):
             yield node, node.asname or node.name
+
+
+def is_passing(node):
+    """Whether a call gives a range, a zip or the like, or a view."""
+    if isinstance(node.func, ast.Attribute):
+        return node.func.attr in VIEWS and not node.args
+    return isinstance(node.func, ast.Name) and node.func.id in AT_ONCE | {"range"}
+
+
+def is_passed_at_once(node, above):
+    """Whether what such a call gives is iterated where it stands, or kept in a name."""
+    outer = above[node]
+    if isinstance(outer, (ast.For, ast.comprehension)):
+        return outer.iter == node
+    if isinstance(outer, ast.Assign):
+        return isinstance(outer.targets[0], ast.Name)
+    is_range = isinstance(node.func, ast.Name) and node.func.id == "range"
+    is_view = isinstance(node.func, ast.Attribute)
+    if isinstance(outer, ast.Compare):
+        return (is_range or is_view) and all(isinstance(sign, (ast.In, ast.NotIn)) for sign in outer.ops)
+    if not isinstance(outer, ast.Call) or node not in outer.args:
+        return False
+    if isinstance(outer.func, ast.Attribute):
+        return outer.func.attr == "join" and isinstance(outer.func.value, ast.Constant)
+    if outer.func.id == "reversed":
+        return is_range
+    if outer.func.id == "len":
+        return is_range or is_view
+    return outer.func.id in TAKING and outer.args[0] == node
 
 
 class FilesTest(unittest.TestCase):
@@ -282,6 +314,28 @@ class NodesTest(unittest.TestCase):
                 self.assertIn(node, right, where(name, node))
             if isinstance(node, ast.Call) and isinstance(node.func, ast.Attribute):
                 self.assertNotEqual(node.func.attr, "sort", where(name, node))
+
+    def test_ranges_and_views_are_not_handed_on(self):
+        for name, tree in TREES.items():
+            above = {inner: node for node in ast.walk(tree) for inner in ast.iter_child_nodes(node)}
+            for node in ast.walk(tree):
+                if isinstance(node, ast.Call) and is_passing(node):
+                    self.assertTrue(is_passed_at_once(node, above), where(name, node))
+
+    def test_the_test_of_ranges_and_views(self):
+        rows = {
+            "spots('c', range(3))": False, "Box(range(3))": False, "box.told(d.items())": False, "f(zip(a, b))": False,
+            "xs = [range(3)]": False, "f(at=range(3))": False, "f(*range(3))": False, "g(enumerate(xs))": False,
+            "f(reversed(xs))": False, "f(d.values())": False, "f(d.keys())": False, "xs.extend(range(3))": False,
+            "len(range(3))": True, "list(range(3))": True, "xs = range(3)": True, "4 in range(3)": True,
+            "[k for k in d.items()]": True, "f(list(d.values()))": True, "', '.join(d.keys())": True,
+            "list(reversed(range(3)))": True, "list(enumerate(zip(a, b)))": True, "len(zip(a, b))": False, "set(d.values())": False,
+        }
+        for row, is_right in rows.items():
+            tree = ast.parse(row)
+            above = {inner: node for node in ast.walk(tree) for inner in ast.iter_child_nodes(node)}
+            inner = [node for node in ast.walk(tree) if isinstance(node, ast.Call) and is_passing(node)]
+            self.assertEqual(all(is_passed_at_once(node, above) for node in inner), is_right, row)
 
     def test_errors_are_made_on_the_spot(self):
         for name, node in NODES:
