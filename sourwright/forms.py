@@ -52,6 +52,11 @@ def is_tuple(value):
     return isinstance(value, tuple)
 
 
+def as_tuple(value):
+    """A list, which may be passed for a tuple, as one; any other value as it is."""
+    return tuple(value) if isinstance(value, list) else value
+
+
 def is_place(value):
     """Whether a value can be the place that a get of code tells the supply."""
     return is_integer(value) and value >= 0

@@ -1,7 +1,7 @@
 """Tables and papers, which show by adding alone that nothing sours."""
 
 from sourwright.chains import Chains, exact_chains, plans_within
-from sourwright.forms import is_tuple
+from sourwright.forms import as_tuple, is_tuple
 from sourwright.plans import Plan
 from sourwright.starts import check_lives
 from sourwright.tables import holds
@@ -46,8 +46,3 @@ def paper_holds(program, name, lives, value):
 def lets_start(life_type, lives):
     """Whether a start with these lives is fresh by a type."""
     return not life_type.is_never and all([life >= need for life, need in zip(lives, life_type.needs)])
-
-
-def as_tuple(value):
-    """A list, which may be passed for a tuple, as one; any other value as it is."""
-    return tuple(value) if isinstance(value, list) else value

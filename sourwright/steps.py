@@ -41,3 +41,16 @@ def results_of(step):
     if step[0] in ("wait", "if", "while", "ask", "jump"):
         return ()
     return (step[1],)
+
+
+def row_with_spots(told, fills, wants):
+    """A step without bodies, a get with its place, as a code row with these numbers of cups and cold places."""
+    word = told[0]
+    if word == "call":
+        return ("call", told[1], wants, fills)
+    items = list(told)
+    if word != "wait":
+        items[1] = fills[0]
+    for at, number in zip(OPERANDS.get(word, ()), wants):
+        items[at] = number
+    return tuple(items)

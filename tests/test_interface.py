@@ -3,7 +3,10 @@
 import inspect
 import unittest
 
-from sourwright import code, errors, flow, judging, lifetypes, lives, papers, programs, rows, standing, texts, world
+from sourwright import (
+    blocks, code, compiling, errors, flow, judging, lifetypes, lives, locations, mending, papers, programs, rows, standing,
+    texts, world,
+)
 
 MEMBERS = {
     programs.Program: {
@@ -67,6 +70,13 @@ FUNCTIONS = {
     judging.judge: ("program", "name", "lives"),
     standing.stand_in: ("program", "p", "q"),
     standing.callers: ("program", "name"),
+    mending.inserted: ("program", "name", "place", "step"),
+    mending.mends: ("program", "name", "lives"),
+    mending.rested: ("program", "name", "place", "later", "x"),
+    locations.locations_hold: ("program", "code", "name", "value"),
+    compiling.fewest_cups: ("program", "name"),
+    compiling.compiled: ("program", "cups", "cold"),
+    blocks.fewest_ticks: ("program", "name", "lives", "cups", "cold"),
 }
 PROPERTIES = {
     rows.LifeRow: ("left", "lost"),
@@ -93,6 +103,10 @@ NAMES = {
     papers: ("table_of", "table_holds", "paper_of", "paper_holds"),
     judging: ("is_fresh", "judge"),
     standing: ("stand_in", "callers"),
+    mending: ("inserted", "mends", "rested"),
+    locations: ("locations_hold",),
+    compiling: ("fewest_cups", "compiled"),
+    blocks: ("fewest_ticks",),
 }
 
 
@@ -126,6 +140,7 @@ class InterfaceTest(unittest.TestCase):
     def test_arguments_by_name_alone(self):
         for function, names in (
             (world.run, ("worths", "supply")), (world.World, ("worths", "supply")), (lifetypes.LifeType, ("sours",)),
+            (compiling.compiled, ("cups", "cold")), (blocks.fewest_ticks, ("cups", "cold")),
         ):
             for name, parameter in inspect.signature(function).parameters.items():
                 self.assertEqual(parameter.kind is parameter.KEYWORD_ONLY, name in names)

@@ -242,6 +242,14 @@ class NamesTest(unittest.TestCase):
                 if isinstance(node.ctx, ast.Store):
                     self.assertNotIn(node.attr, BARRED_ATTRIBUTES | own | self.properties(), where(name, node))
 
+    def test_no_method_is_called_as_those_of_sets(self):
+        # The package adds to sets that it keeps in variables.
+        for name, node in NODES:
+            if isinstance(node, ast.FunctionDef):
+                self.assertNotIn(node.name, ("add", "discard"), where(name, node))
+            if isinstance(node, ast.Attribute) and isinstance(node.ctx, ast.Store):
+                self.assertNotIn(node.attr, ("add", "discard"), where(name, node))
+
     def test_attributes_that_are_read_are_assigned(self):
         own = {node.name for _, node in NODES if isinstance(node, ast.FunctionDef)}
         stored = {node.attr for _, node in NODES if isinstance(node, ast.Attribute) and isinstance(node.ctx, ast.Store)}
