@@ -20,7 +20,7 @@ class Chains:
 
     def __init__(self, plan, types):
         self.plan = plan
-        self.types = types
+        self.callee_types = types
         starts = self._starts()
         self.counts = greatest_counts(starts, self._ways_from(starts))
         self.composed = self._composed_type()
@@ -32,7 +32,7 @@ class Chains:
         for index, carrier in enumerate(self.plan.taken):
             starts[0, carrier] = none[:index + 1] + [0] + none[index + 2:]
         for place, op in enumerate(self.plan.ops):
-            for carrier, allowance in births_of(op, self.types):
+            for carrier, allowance in births_of(op, self.callee_types):
                 for _, goal in self.plan.ways[place]:
                     counts = list(starts.get((goal, carrier), none))
                     counts[0] = max(counts[0], LONGEST_KEEP - allowance)
@@ -41,7 +41,7 @@ class Chains:
 
     def _ways_from(self, starts):
         """The ways from these nodes and from all that can be reached."""
-        moves = [moves_of(op, self.types) for op in self.plan.ops]
+        moves = [moves_of(op, self.callee_types) for op in self.plan.ops]
         ways = {}
         waiting = list(starts)
         while waiting:
@@ -60,10 +60,10 @@ class Chains:
     def _staying(self, op, carrier):
         """The carrier itself with the ticks that count, if it stays as it is."""
         if carrier == CLOCK:
-            return [(carrier, ticks_of_op(op, self.types))]
+            return [(carrier, ticks_of_op(op, self.callee_types))]
         if not stays(op, carrier):
             return []
-        return [(carrier, 0 if carrier in self.plan.colds else ticks_of_op(op, self.types))]
+        return [(carrier, 0 if carrier in self.plan.colds else ticks_of_op(op, self.callee_types))]
 
     def _composed_type(self):
         """The life type that comes of these chains."""
@@ -71,11 +71,11 @@ class Chains:
         born = -1
         needs = [-1] * len(plan.taken)
         for place, op in enumerate(plan.ops):
-            for carrier, later in reads_of(op, self.types):
+            for carrier, later in reads_of(op, self.callee_types):
                 counts = [count + later if count >= 0 else -1 for count in self.counts[place, carrier]]
                 born = max(born, counts[0])
                 needs = [min(max(need, count), MOST) for need, count in zip(needs, counts[1:])]
-        if born > LONGEST_KEEP or any([self.types[callee].sours for callee in plan.called_names()]):
+        if born > LONGEST_KEEP or any([self.callee_types[callee].sours for callee in plan.called_names()]):
             return LifeType.never(plan.taken_keeps, len(plan.given))
         rows = [self.row_at(plan.exit_place, carrier) for carrier in plan.given]
         return LifeType(plan.taken_keeps, needs, self.late_at(plan.exit_place), rows)
@@ -94,7 +94,7 @@ class Chains:
         """A table that holds for the type that comes of these chains."""
         plan = self.plan
         places = range(plan.exit_place + 1)
-        carriers = carriers_with_rows(plan, self.types)
+        carriers = carriers_with_rows(plan, self.callee_types)
         rows = [tuple([(one, self.row_at(place, one)) for one in carriers[place]]) for place in places]
         return (self.composed.needs, tuple([self.late_at(place) for place in places]), tuple(rows))
 

@@ -2,7 +2,7 @@
 
 from sourwright.code import CodeProcedure
 from sourwright.edges import edges_of
-from sourwright.soundness import Sorts, check_procedure
+from sourwright.soundness import check_book
 from sourwright.steps import steps_by_place
 
 
@@ -20,9 +20,7 @@ def flow(procedure):
 
 def check_sound(program):
     """True if the program is sound; otherwise it raises Unfilled."""
-    sorts = Sorts(program)
-    for given in program.procedures:
-        check_procedure(sorts, given[0])
+    check_book(program, ())
     return True
 
 

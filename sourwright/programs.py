@@ -20,6 +20,13 @@ class Book:
     def __iter__(self):
         raise TypeError("programs are not iterated over")
 
+    def _take_procedures(self):
+        """Takes in the procedures that stand in steps, if they break no rule."""
+        for index, given in enumerate(self._procedures):
+            checked = Checked(index, given, self._known)
+            self._found[given[0]] = Procedure(given, checked)
+            self._known.callees[given[0]] = checked.kinds_of_call(given)
+
     def _procedure(self, name):
         """The procedure of this name."""
         if name not in self._found:
@@ -47,6 +54,10 @@ class Book:
     def dish_of(self, name):
         """The kinds that a dish of the program needs and makes, and its ticks."""
         return self._known.dish_by_name[name]
+
+    def kinds_of_callee(self, name):
+        """The kinds that calls of this name take, and those that they give."""
+        return self._known.callees[name]
 
 
 class Procedure:
@@ -105,10 +116,7 @@ class Program(Book):
 
     def __init__(self, kinds, wells, dishes, procedures):
         super().__init__(kinds, wells, dishes, procedures)
-        for index, given in enumerate(self._procedures):
-            checked = Checked(index, given, self._known)
-            self._found[given[0]] = Procedure(given, checked)
-            self._known.callees[given[0]] = checked.kinds_of_call(given)
+        self._take_procedures()
 
     @classmethod
     def read(cls, text):

@@ -112,6 +112,20 @@ class States:
         return anything
 
 
+def check_book(book, used):
+    """Raises for the first place of a procedure at which a carrier is in a wrong state.
+
+    `used` names those that may be called besides the procedures of the book; such calls fill all their results.
+    """
+    sorts = Sorts(book)
+    for name in used:
+        taken, given = book.kinds_of_callee(name)
+        sorts.taken_bits[name] = (FULL,) * len(taken)
+        sorts.given_bits[name] = (FULL,) * len(given)
+    for given in book.procedures:
+        check_procedure(sorts, given[0])
+
+
 def check_procedure(sorts, name):
     """Raises for the first place of a procedure at which a carrier is in a wrong state."""
     plan = Plan(sorts.program, name)

@@ -10,18 +10,22 @@ from sourwright.programs import Program
 def stand_in(program, p, q):
     """None if `p` may stand for `q`, otherwise a caller of `q` that is fresh, and not so with `p` in its place."""
     check_fit(program[p], program[q])
-    mine, other = exact_type(program, p), exact_type(program, q)
+    return caller_between(program, q, exact_type(program, p), exact_type(program, q))
+
+
+def caller_between(program, callee, mine, other):
+    """None if a type may stand for another one, otherwise a caller that is not fresh by the one, but by the other."""
     if mine.stands_for(other):
         return None
     if mine.is_never:
-        return caller_of(program, q, (), other.keeps)
+        return caller_of(program, callee, (), other.keeps)
     if not mine.fits_needs(other):
-        return caller_of(program, q, (), other.needs)
+        return caller_of(program, callee, (), other.needs)
     if not mine.fits_took(other):
-        return caller_with_value(program, q, other.took + 1, other.keeps)
+        return caller_with_value(program, callee, other.took + 1, other.keeps)
     result, lives = mine.weaker_start(other)
     row = other.rows[result]
-    return caller_that_reads(program, q, result, row(lives) - 1, lives)
+    return caller_that_reads(program, callee, result, row(lives) - 1, lives)
 
 
 def callers(program, name):

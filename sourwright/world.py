@@ -39,6 +39,10 @@ class World:
         """The current tick."""
         return self._tick
 
+    def innermost(self):
+        """The plan of the innermost open call, and the place in it."""
+        return (self._frames[-1].plan, self._frames[-1].place)
+
     def where(self):
         """The pairs of a procedure and a place, from the start to the innermost open call."""
         return tuple([(frame.plan.name, frame.place) for frame in self._frames])

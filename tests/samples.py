@@ -74,3 +74,10 @@ def code_fault(kinds, wells, dishes, procedures):
     except InvalidCode as error:
         return (error.word, error.procedure, error.row)
     return None
+
+
+# Words that commands are changed by.
+TEXT_WORDS = (
+    "make", "blend", "none", "nope", "x", "if", "use", "sevenly", "A", "", "0", "3", "-1", "03", "-0", "12345", "9999", "y", "n", "yn",
+    "ynx", "-", "->", ";", "show", "life", "fresh", "run", "judge", "stand", "cups", "program", "kind",
+)

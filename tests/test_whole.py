@@ -4,18 +4,26 @@ import itertools
 import random
 import unittest
 
-from drawing import draw_sound
+from drawing import draw_sound, shaken
+from parting import cut, declared
 from samples import DAIRY, FULL
+from second import Shape
 
 from sourwright.code import CodeProgram
 from sourwright.compiling import compiled, fewest_cups
-from sourwright.errors import InvalidStart, TooLong, UnknownName
-from sourwright.flow import written_out
+from sourwright.errors import InvalidProgram, InvalidStart, TooLong, Unfilled, UnknownName
+from sourwright.flow import check_sound, written_out
+from sourwright.forms import is_word
 from sourwright.judging import is_fresh, judge
 from sourwright.lives import exact_type
-from sourwright.mending import mends
+from sourwright.locations import locations_hold
+from sourwright.mending import inserted, mends, rested
 from sourwright.papers import paper_holds, paper_of
+from sourwright.parts import Part, link
 from sourwright.programs import Program
+from sourwright.standing import callers, stand_in
+from sourwright.texts import show_program
+from sourwright.workshop import Workshop
 from sourwright.world import World, check_start, run
 
 # All functions that take a start of a program or of code.
@@ -221,6 +229,116 @@ class OtherWords(unittest.TestCase):
         self.assertEqual({here[one]: pair for one, pair in world.filled().items()}, second.filled())
         self.assertEqual({here[one]: pair for one, pair in world.resting().items()}, second.resting())
         self.assertEqual(world.outcome(), second.outcome())
+
+
+class PassedOnTest(unittest.TestCase):
+    """What functions return is passed on to the others."""
+
+    def check(self, chance, program):
+        """Reads, makes, judges, links and compiles a program that a function returned."""
+        self.assertIs(check_sound(program), True)
+        self.assertEqual(Program.read(show_program(program)), program)
+        self.assertEqual(Program(*declared(program), program.procedures), program)
+        for names in ([name for name, _ in program.kinds], [given[0] for given in program.procedures]):
+            self.assertEqual(len(set(names)), len(names))
+            self.assertTrue(all(is_word(name) for name in names))
+        code, tables = compiled(program, cups=16, cold=16)
+        for (name, params, _, _), told in zip(program.procedures, tables):
+            lives = draw_lives(chance, program, name)
+            self.assertIs(locations_hold(program, code, name, told), True)
+            self.assertEqual(exact_type(code, name), exact_type(program, name))
+            verdict = judge(program, name, lives) if is_fresh(program, name, lives) or written_out(program, name) <= 80 else None
+            if verdict and verdict[0] == "fresh":
+                self.assertTrue(paper_holds(program, name, lives, verdict[1]))
+            elif verdict:
+                self.assertEqual(run(program, name, lives, verdict[1])[0][:2], ("sour", verdict[2]))
+        part = Part.read("part a\n" + show_program(program))
+        self.assertEqual(link((part,)), program)
+        parts = cut(chance, program, loosen=False)
+        self.assertEqual(link(parts), program)
+        shop = Workshop()
+        for one in parts:
+            shop.put(one.name, str(one))
+        self.assertEqual(shop.build(), program)
+
+    def test_callers(self):
+        chance = random.Random(65)
+        made = 0
+        for _ in range(25):
+            program = draw_sound(chance, size=6, most=8)
+            for name, *_ in program.procedures:
+                for _, other, caller, lives in callers(program, name):
+                    self.check(chance, other)
+                    self.assertFalse(is_fresh(other, caller, lives))
+                    made += 1
+                    # Callers of callers.
+                    for _, again, outer, lives in callers(other, caller)[:1]:
+                        self.check(chance, again)
+        self.assertGreater(made, 40)
+
+    def test_stand_in(self):
+        chance = random.Random(66)
+        made = 0
+        for _ in range(120):
+            program = draw_sound(chance, size=5, most=8)
+            name = chance.choice(program.procedures)[0]
+            other = shaken(chance, [given for given in program.procedures if given[0] == name][0])
+            try:
+                program = program.with_procedure(("other",) + other[1:])
+                check_sound(program)
+                told = stand_in(program, "other", name)
+            except (InvalidProgram, InvalidStart, Unfilled):
+                continue
+            if told is not None:
+                self.check(chance, told[0])
+                made += 1
+        self.assertGreater(made, 15)
+
+    def test_steps_put_in(self):
+        chance = random.Random(67)
+        made = 0
+        for _ in range(40):
+            program = draw_sound(chance, size=6)
+            name = chance.choice(program.procedures)[0]
+            for place, x, well in list(mends(program, name, draw_lives(chance, program, name)))[:3]:
+                self.check(chance, inserted(program, name, place, ("get", x, well)))
+                made += 1
+            body = Shape(program, name).steps
+            for place, step in enumerate(body):
+                if step[0] == "get" and place + 2 < len(body) and len(program[name].body) == len(body):
+                    try:
+                        self.check(chance, rested(program, name, place + 1, place + 2, step[1]))
+                        made += 1
+                    except Unfilled:
+                        pass
+        self.assertGreater(made, 40)
+
+
+class OneTextTest(unittest.TestCase):
+    def test_as_a_program_and_as_a_part(self):
+        # Linked, and compiled with just as many cups and cold places as are needed: the same types and starts.
+        chance = random.Random(68)
+        for _ in range(60):
+            text = show_program(draw_sound(chance, size=9, most=10))
+            program, part = Program.read(text), Part.read("part one\n" + text)
+            whole = link((part,))
+            self.assertEqual(whole, program)
+            cups = max([fewest_cups(program, name) for name, *_ in program.procedures] + [1])
+            cold = max(len(program[name].shelves) for name, *_ in program.procedures)
+            code, tables = compiled(whole, cups=cups, cold=cold)
+            for (name, params, _, _), told in zip(program.procedures, tables):
+                plain = exact_type(program, name).plain()
+                self.assertEqual(part.types()[name], plain)
+                self.assertEqual(exact_type(code, name).plain(), plain)
+                self.assertIs(locations_hold(program, code, name, told), True)
+                for _ in range(4):
+                    lives = draw_lives(chance, program, name)
+                    self.assertEqual(is_fresh(program, name, lives), is_fresh(code, name, lives))
+                    answers = tuple(chance.random() < 0.5 for _ in range(8))
+                    worths = tuple(range(4, 4 + len(lives)))
+                    event, outcome = run(program, name, lives, answers, worths=worths)
+                    other, again = run(code, name, lives, answers, worths=worths)
+                    self.assertEqual((event[:2], outcome), (other[:2], again))
 
 
 if __name__ == "__main__":
