@@ -6,6 +6,7 @@ from sourwright.steps import operands_of, results_of, steps_by_place
 
 READING = ("mix", "scale", "dish", "put")
 EMPTYING = ("put", "take")
+QUIET = ("wait", "jump")
 # Where cups and cold places stand in code rows.
 CUPS = {"get": (1,), "mix": (1, 3, 4), "scale": (1, 2), "dish": (1, 3), "copy": (1, 2), "put": (2,), "take": (1,)}
 COLD_PLACES = {"put": (1,), "take": (2,)}
@@ -17,6 +18,7 @@ class Op:
     `wants` are the carriers that must be filled, in order, and `reads` those that it reads; `fills` and `empties`
     are those that it fills and empties. `allowance` is the keep of what a get or dish makes. The ticks of a call
     are those after its callee. `told` is the step itself; a get tells at its end what the supply is asked with.
+    What is quiet lets time pass at most. The way goes on to `goal`, but when it asks, on no to `goal_on_no`.
     """
 
     def __init__(self, told, ticks, allowance):
@@ -28,6 +30,9 @@ class Op:
         self.fills = results_of(told)
         self.reads = self.wants if self.word in READING else ()
         self.empties = self.wants if self.word in EMPTYING else ()
+        self.is_quiet = self.word in QUIET
+        self.goal = None
+        self.goal_on_no = None
 
 
 class Plan:
@@ -56,6 +61,10 @@ class Plan:
         self.ways = [[] for _ in self.ops]
         for place, answer, goal in edges_of(procedure):
             self.ways[place].append((answer, goal))
+            if answer is False:
+                self.ops[place].goal_on_no = goal
+            else:
+                self.ops[place].goal = goal
         self.colds = {op.fills[0]: True for op in self.ops if op.word == "put"}
         for op in self.ops:
             if op.word == "take":

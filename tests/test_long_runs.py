@@ -4,6 +4,7 @@ import unittest
 
 from drawing import code_of
 from samples import DISHES, KINDS, WELLS
+from timing import ratio
 
 from sourwright.code import CodeProgram
 from sourwright.programs import Program
@@ -105,6 +106,60 @@ class LongRunTest(unittest.TestCase):
         world = World(program, "p", (60,), worths=(10 ** 29,))
         last = list(world.events((True,) * 12 + (False,)))[-1]
         self.assertEqual((last, world.outcome()), (("done", 61), ((10 ** 29 * 9 ** 12, -1),)))
+
+
+class TimeTest(unittest.TestCase):
+    """The longest input found takes no several times as long as it did when this was written, on any machine.
+
+    It took 1.0 to 1.5 times as long as the reference then, and 4.1 to 5.7 times before World was made faster.
+    """
+
+    PROGRAM = Program((("k", 15),), (("w", "k", 1),), (), (("p", (), ("y",), (("get", "y", "w"), ("while", (
+        ("get", "x", "w"), ("wait", 4), ("wait", 1), ("wait", 1), ("wait", 1), ("wait", 1), ("scale", "y", "x", 2))))),))
+    ROWS = (
+        ("get", 0, "w", 0), ("ask", 10), ("get", 1, "w", 2), ("wait", 4), ("wait", 1), ("wait", 1), ("wait", 1), ("wait", 1),
+        ("scale", 0, 1, 2), ("jump", 1), ("end", (0,)),
+    )
+    CODE = CodeProgram(PROGRAM.kinds, PROGRAM.wells, (), (("p", (), ROWS),))
+    ANSWERS = (True,) * 399 + (False,)
+    MOST = 3
+
+    def supply(self, procedure, place, times):
+        return times
+
+    def events_and_back(self, program):
+        world = World(program, "p", (), supply=self.supply)
+        told = list(world.events(self.ANSWERS))
+        while world.undo():
+            pass
+        return told
+
+    def step_by_step(self, program):
+        world = World(program, "p", (), supply=self.supply)
+        for answer in self.ANSWERS:
+            while world.step()[0] != "asks":
+                pass
+            world.step(answer)
+
+    def test_what_it_gives(self):
+        for program, more in ((self.PROGRAM, 0), (self.CODE, 399 + 1)):
+            # Each round takes 1 + 1 + 8 + 1 ticks, and the last value was made 9 ticks before the last asking.
+            expected = (("done", 1 + 399 * 11 + 1), ((2 * 398, 15 - 8 - 1 - 1),))
+            self.assertEqual(run(program, "p", (), self.ANSWERS, supply=self.supply), expected)
+            told = self.events_and_back(program)
+            self.assertEqual((len(told), told[-1]), (1 + 399 * 8 + 1 + 1 + more, expected[0]))
+
+    def test_run(self):
+        for program in (self.PROGRAM, self.CODE):
+            self.assertLess(ratio(lambda: run(program, "p", (), self.ANSWERS, supply=self.supply)), self.MOST)
+
+    def test_events_and_undo(self):
+        for program in (self.PROGRAM, self.CODE):
+            self.assertLess(ratio(lambda: self.events_and_back(program)), self.MOST)
+
+    def test_steps(self):
+        for program in (self.PROGRAM, self.CODE):
+            self.assertLess(ratio(lambda: self.step_by_step(program)), self.MOST)
 
 
 if __name__ == "__main__":
