@@ -3,7 +3,7 @@
 from sourwright.effects import births_of, carriers_behind, moves_of, reads_of, stays, ticks_of_op
 from sourwright.lifetypes import LifeType
 from sourwright.longest import MOST, greatest_counts
-from sourwright.plans import Plan
+from sourwright.plans import Plan, needed_names
 from sourwright.rows import LifeRow
 
 # The counts of a birth begin as if it had the longest keep, so that one number stands for allowance and count.
@@ -120,15 +120,7 @@ def carriers_with_rows(plan, types):
 
 def plans_within(program, name):
     """A dict of the plans of a procedure and of all that it calls, directly or through others, in their order."""
-    needed = {name: True}
-    found = []
-    for given in program.procedures[::-1]:
-        if given[0] in needed:
-            plan = Plan(program, given[0])
-            found.append(plan)
-            for callee in plan.called_names():
-                needed[callee] = True
-    return {plan.name: plan for plan in found[::-1]}
+    return {one: Plan(program, one) for one in needed_names(program, (name,))}
 
 
 def exact_chains(program, name):

@@ -20,6 +20,10 @@ class CodeProcedure:
         """Its rows."""
         return self._rows
 
+    def called_names(self):
+        """The names of the procedures that it calls."""
+        return [row[1] for row in self._rows if row[0] == "call"]
+
     def __len__(self):
         return len(self._rows)
 

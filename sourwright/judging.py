@@ -1,10 +1,10 @@
 """Whether starts are fresh, and how they sour."""
 
-from sourwright.chains import exact_chains
 from sourwright.earliest import earliest_sour
 from sourwright.errors import TooLong
 from sourwright.flow import written_out
 from sourwright.papers import lets_start, paper_of
+from sourwright.reckoning import exact_types
 from sourwright.starts import check_lives
 
 # The most steps of a text written out that is searched for its earliest sour read.
@@ -14,7 +14,7 @@ MOST_STEPS = 80
 def is_fresh(program, name, lives):
     """Whether no run of a start reads anything sour."""
     check_lives(program, name, lives)
-    return lets_start(exact_chains(program, name)[name].composed, lives)
+    return lets_start(exact_types(program, (name,))[name], lives)
 
 
 def judge(program, name, lives):

@@ -1,11 +1,10 @@
 """Steps put into procedures, such that values are new again when they are read, or rest until then."""
 
-from sourwright.chains import exact_chains
 from sourwright.edges import size_of
 from sourwright.forms import LETTERS
-from sourwright.lives import composed_type
 from sourwright.papers import lets_start
 from sourwright.programs import Program
+from sourwright.reckoning import Reckoner, exact_types
 from sourwright.starts import check_lives
 
 
@@ -25,12 +24,15 @@ def rested(program, name, place, later, x):
 def with_steps(program, name, more):
     """The program with more steps in a procedure, which stand in a dict by the places that they come ahead of."""
     procedure = program[name]
-    body = body_with(procedure.body, 0, more)
-    if len(procedure) in more:
-        body = body + (more[len(procedure)],)
-    changed = (procedure.name, procedure.params, procedure.results, body)
+    changed = (procedure.name, procedure.params, procedure.results, whole_body_with(procedure, more))
     procedures = tuple([changed if given[0] == name else given for given in program.procedures])
     return Program(program.kinds, program.wells, program.dishes, procedures)
+
+
+def whole_body_with(procedure, more):
+    """The body of a procedure with more steps in it or at its end."""
+    body = body_with(procedure.body, 0, more)
+    return body + (more[len(procedure)],) if len(procedure) in more else body
 
 
 def body_with(body, first, more):
@@ -60,27 +62,15 @@ def mends(program, name, lives):
     """The triples of a place, a name and a well with which a get makes a start fresh, or leaves it so."""
     check_lives(program, name, lives)
     procedure = program[name]
-    types = types_below(program, name)
+    reckoner = Reckoner(program, procedure, exact_types(program, (name,)))
     for place in range(len(procedure) + 1):
         for x in procedure.names:
-            # A get that makes a value of the same kind in more ticks is no better.
             tried = {}
             for well, kind, ticks in program.wells:
                 if kind == procedure.kind_of(x):
                     if ticks not in tried:
-                        tried[ticks] = is_mended(program, name, lives, types, (place, x, well))
+                        # It stays sound with one more get, and of a right form.
+                        body = whole_body_with(procedure, {place: ("get", x, well)})
+                        tried[ticks] = lets_start(reckoner.life_type(body), lives)
                     if tried[ticks]:
                         yield (place, x, well)
-
-
-def types_below(program, name):
-    """A dict from the names of the procedures that a procedure calls, directly or through others, to exact types."""
-    chains = exact_chains(program, name)
-    return {one: chains[one].composed for one in chains}
-
-
-def is_mended(program, name, lives, types, triple):
-    """Whether a start is fresh with a get at this place; nothing else than freshness can be lost by it."""
-    place, x, well = triple
-    mended = inserted(program, name, place, ("get", x, well))
-    return lets_start(composed_type(mended, name, types), lives)

@@ -83,6 +83,18 @@ class Plan:
         return list({op.told[1]: True for op in self.ops if op.word == "call"})
 
 
+def needed_names(program, names):
+    """These names and those of all that they call, directly or through others, in the order of the program."""
+    needed = {name: True for name in names}
+    found = []
+    for given in program.procedures[::-1]:
+        if given[0] in needed:
+            found.append(given[0])
+            for callee in program[given[0]].called_names():
+                needed[callee] = True
+    return found[::-1]
+
+
 def kinds_taken(procedure):
     """The kinds of the parameters of a procedure or code procedure."""
     if isinstance(procedure, CodeProcedure):

@@ -98,6 +98,10 @@ class Procedure:
     def __len__(self):
         return len(self._steps)
 
+    def called_names(self):
+        """The names of the procedures that it calls."""
+        return [step[1] for step in self._steps if step[0] == "call"]
+
     def kind_of(self, carrier):
         """The kind of a name or shelf."""
         if carrier not in self._kinds:

@@ -5,12 +5,14 @@ from sourwright.lives import exact_type
 from sourwright.newnames import new_words
 from sourwright.plans import kinds_taken
 from sourwright.programs import Program
+from sourwright.reckoning import exact_types
 
 
 def stand_in(program, p, q):
     """None if `p` may stand for `q`, otherwise a caller of `q` that is fresh, and not so with `p` in its place."""
     check_fit(program[p], program[q])
-    return caller_between(program, q, exact_type(program, p), exact_type(program, q))
+    types = exact_types(program, (p, q))
+    return caller_between(program, q, types[p], types[q])
 
 
 def caller_between(program, callee, mine, other):
