@@ -44,7 +44,7 @@ class Stand:
 
 
 class Search:
-    """Goes through the stands in order of their moves.
+    """Goes through the stands in order of the moves made so far and those that have to come yet at least.
 
     A stand is left out if there was one at the same place with no more moves and the same names with no less life,
     whichever cups and cold places they lie in: what can be done from the one can be done from the other.
@@ -75,8 +75,9 @@ class Search:
     def consider(self, stand):
         """Takes a stand in, if something may come of it that does not come of others."""
         self.drop_useless(stand)
-        if not self.is_hopeless(stand) and self.is_better(stand):
-            heappush(self.queue, (stand.moves, stand.place, len(self.stands)))
+        to_come = self.moves_to_come(stand)
+        if to_come is not None and self.is_better(stand):
+            heappush(self.queue, (stand.moves + to_come, -stand.place, len(self.stands)))
             self.stands.append(stand)
 
     def is_useful(self, place, pair):
@@ -90,17 +91,27 @@ class Search:
         stand.cups = tuple([pair if self.is_useful(stand.place, pair) else NOTHING for pair in stand.cups])
         stand.colds = tuple([pair if pair[0] in wanted or pair == NOTHING else SPOILT for pair in stand.colds])
 
-    def is_hopeless(self, stand):
-        """Whether a name that is wanted is lost, or more names than there are cold places have to lie on these."""
-        best = {}
-        for name, life in stand.cups + stand.colds:
-            best[name] = max(best.get(name, -1), life)
-        if not all([name in best for name in self.straight.wanted[stand.place]]):
-            return True
+    def moves_to_come(self, stand):
+        """How many moves have to come yet at least; None if no moves can help.
+
+        They cannot if a name that is wanted is lost, or if more names than there are cold places have to lie on these.
+        What lies in no cup has to be taken, and what would be sour at its last read has to rest before.
+        """
+        lives = greatest_numbers(stand.cups)
+        rests = greatest_numbers(stand.colds)
+        last_reads = self.straight.last_reads[stand.place]
+        count = 0
+        for name in self.straight.wanted[stand.place]:
+            if name not in lives and name not in rests:
+                return None
+            if name not in lives:
+                count += 1
+            elif name in last_reads and lives[name] < last_reads[name]:
+                count += 1 if name in rests else 2
         for ticks, names in self.straight.passing[stand.place]:
-            if len([name for name in names if best[name] < ticks]) > self.cold:
-                return True
-        return False
+            if len([name for name in names if max(lives.get(name, -1), rests.get(name, -1)) < ticks]) > self.cold:
+                return None
+        return count
 
     def is_better(self, stand):
         """Whether no stand before was as good; then this one is remembered."""
@@ -112,10 +123,10 @@ class Search:
             lives = lives * 128 + life + 1
             guards = guards * 128 + 64
         elder = self.seen[stand.place].setdefault(names, [])
-        for others in elder:
-            if (others - lives) & guards == guards:
+        for others, moves in elder:
+            if moves <= stand.moves and (others - lives) & guards == guards:
                 return False
-        elder.append(lives + guards)
+        elder.append((lives + guards, stand.moves))
         return True
 
     def carry_out(self, stand):
@@ -186,6 +197,15 @@ class Search:
             if not self.is_useful(place, pair):
                 return [cup]
         return list(range(len(cups)))
+
+
+def greatest_numbers(pairs):
+    """A dict from the names in these pairs to their greatest numbers."""
+    found = {}
+    for name, number in pairs:
+        if name not in found or found[name] < number:
+            found[name] = number
+    return found
 
 
 def aged(cups, ticks):

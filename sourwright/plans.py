@@ -61,10 +61,11 @@ class Plan:
         self.ways = [[] for _ in self.ops]
         for place, answer, goal in edges_of(procedure):
             self.ways[place].append((answer, goal))
+            here = self.ops[place]
             if answer is False:
-                self.ops[place].goal_on_no = goal
+                here.goal_on_no = goal
             else:
-                self.ops[place].goal = goal
+                here.goal = goal
         self.colds = {op.fills[0]: True for op in self.ops if op.word == "put"}
         for op in self.ops:
             if op.word == "take":

@@ -56,13 +56,13 @@ class Reckoner:
             if word == "wait":
                 stretch.ticks += step[1]
             elif word == "get":
-                kind, ticks = self.program.well_of(step[2])
-                stretch.ticks += ticks
+                kind, more = self.program.well_of(step[2])
+                stretch.ticks += more
                 stretch.fill(step[1], self.program.keep_of(kind))
             elif word == "dish":
-                _, kind, ticks = self.program.dish_of(step[2])
+                _, kind, more = self.program.dish_of(step[2])
                 stretch.note_read(step[3], 0)
-                stretch.ticks += ticks
+                stretch.ticks += more
                 stretch.fill(step[1], self.program.keep_of(kind))
             elif word in ("if", "while"):
                 self.add_asking(stretch, step)
@@ -76,9 +76,9 @@ class Reckoner:
         """Goes on along an `if` or `while`."""
         if step[0] == "if":
             stretch.ticks += 1
-            stretch.append(self.along(step[1], 0).joined(self.along(step[2], 0)))
+            stretch.go_along(self.along(step[1], 0).joined(self.along(step[2], 0)))
         else:
-            stretch.append(self.along(step[1], 1).repeated())
+            stretch.go_along(self.along(step[1], 1).repeated())
             stretch.ticks += 1
 
     def add_call(self, stretch, step):
@@ -100,7 +100,7 @@ class Reckoner:
                 for arg, lost in zip(args, row.lost):
                     if lost is not None:
                         call.held[name] = greatest(call.held.get(name, {}), {arg: lost + 1 - call.ticks})
-        stretch.append(call)
+        stretch.go_along(call)
 
 
 def add_handing(stretch, step):

@@ -12,6 +12,7 @@ class Straight:
     `wanted` and `read_later` have as keys of dicts the names that are used, or read, before they are filled again;
     `use_counts` counts the steps that read them, and the results as one more. `passing` has for each step from there
     on the pair of its ticks and of the names that are there, and are read behind it before they are filled again.
+    `last_reads` has the ticks of all steps ahead of the last one that reads a name before it is filled again.
     """
 
     def __init__(self, program, name):
@@ -29,6 +30,7 @@ class Straight:
             self.read_later.insert(0, later)
             self.use_counts.insert(0, counts)
         self.passing = [self.names_passing(place) for place in range(self.exit_place + 1)]
+        self.last_reads = [self.ticks_to_last_reads(place) for place in range(self.exit_place + 1)]
 
     def names_passing(self, place):
         """The pairs of ticks and names for the steps from a place on."""
@@ -38,6 +40,20 @@ class Straight:
             op = self.plan.ops[at]
             left = [one for one in left if one not in op.fills]
             found.append((op.ticks, [one for one in left if one in self.read_later[at + 1]]))
+        return found
+
+    def ticks_to_last_reads(self, place):
+        """A dict from the names that are read from a place on to the ticks until their last reads."""
+        found = {}
+        left = dict(self.wanted[place])
+        ticks = 0
+        for op in self.plan.ops[place:]:
+            for name in op.reads:
+                if name in left:
+                    found[name] = ticks
+            for name in op.fills:
+                left.pop(name, None)
+            ticks += op.ticks
         return found
 
 

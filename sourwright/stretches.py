@@ -59,9 +59,9 @@ class Stretch:
                     found[source] = number
         return found
 
-    def append(self, other):
+    def go_along(self, other):
         """Goes on along another stretch."""
-        for source in other.latest:
+        for source in list(other.latest):
             self.note_read(source, other.latest[source])
         made = {carrier: self.handed_on(carrier, other.held[carrier]) for carrier in other.held}
         self.held.update(made)
@@ -71,9 +71,9 @@ class Stretch:
         """What becomes of values along this stretch or along the other one."""
         both = Stretch(self.timeless, max(self.ticks, other.ticks))
         both.latest = greatest(self.latest, other.latest)
-        for carrier in {**self.held, **other.held}:
-            one = self.sources_after(carrier, both.ticks)
-            both.held[carrier] = greatest(one, other.sources_after(carrier, both.ticks))
+        for carrier in list(self.held) + [one for one in other.held if one not in self.held]:
+            mine = self.sources_after(carrier, both.ticks)
+            both.held[carrier] = greatest(mine, other.sources_after(carrier, both.ticks))
         return both
 
     def sources_after(self, carrier, ticks):
@@ -86,10 +86,8 @@ class Stretch:
 
     def repeated(self):
         """What becomes of values when this stretch, which takes some time, is gone along any number of times."""
-        counts = {}
-        for carrier in self.held:
-            counts[carrier] = self.sources_after(carrier, 0)
-        for carrier in self.held:
+        counts = {carrier: self.sources_after(carrier, 0) for carrier in self.held}
+        for carrier in list(counts):
             go_round(counts, carrier)
         found = Stretch(self.timeless, ENDLESS)
         for carrier in counts:
@@ -97,7 +95,7 @@ class Stretch:
             sources[carrier] = max(sources.get(carrier, 0), 0)
             less = found.growth(carrier)
             found.held[carrier] = {source: sources[source] - less for source in sources}
-        for source in self.latest:
+        for source in list(self.latest):
             found.note_read(source, self.latest[source])
         return found
 
@@ -121,7 +119,7 @@ def go_round(counts, between):
     if around > 0:
         counts[between] = {source: counts[between][source] + ENDLESS for source in counts[between]}
     last = counts[between]
-    for carrier in counts:
+    for carrier in list(counts):
         if carrier != between and between in counts[carrier]:
             first = counts[carrier][between] + (ENDLESS if around > 0 else 0)
             longer = {source: first + last[source] for source in last}

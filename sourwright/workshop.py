@@ -93,11 +93,12 @@ class Trial:
         self.stays = False
 
     def __enter__(self):
-        self.kept = self.shop.kept
-        self.past = self.shop.past
-        self.fixed = self.shop.fixed
+        shop = self.shop
+        self.kept = shop.kept
+        self.past = shop.past
+        self.fixed = shop.fixed
         self.stays = False
-        self.shop.fixed = len(self.past)
+        shop.fixed = len(self.past)
         return self
 
     def __exit__(self, kind, value, trace):

@@ -4,7 +4,7 @@ import re
 
 from oracle import HEAD, NUMBER, WORD, Oracle
 
-from sourwright.errors import InvalidPart, InvalidProgram, InvalidText, Unfilled
+from sourwright.errors import InvalidPart, InvalidProgram, InvalidText, LinkRefused, Unfilled
 from sourwright.flow import check_sound
 from sourwright.lifetypes import LifeType
 from sourwright.lives import composed_type
@@ -212,16 +212,27 @@ def expected_part(text):
     return ("part", oracle.name, kinds, wells, dishes, tuple(oracle.procedures), used, plain)
 
 
-def told_part(text):
-    """What reading gives, in the same form."""
+def raised(call, *given):
+    """The error that a call raises, as a tuple of its word and values, or None."""
     try:
-        part = Part.read(text)
+        call(*given)
     except InvalidText as error:
         return ("line", error.line)
     except InvalidProgram as error:
         return ("program", error.word, error.procedure, error.place)
     except InvalidPart as error:
         return (error.word, error.index)
+    except LinkRefused as error:
+        return ("refused", error.part, error.used)
     except Unfilled as error:
         return ("unfilled", error.procedure, error.place, error.carrier, len(error.answers))
+    return None
+
+
+def told_part(text):
+    """What reading gives, in the form of what is expected."""
+    fault = raised(Part.read, text)
+    if fault is not None:
+        return fault
+    part = Part.read(text)
     return ("part", part.name, part.kinds, part.wells, part.dishes, part.procedures, part.uses, part.types())

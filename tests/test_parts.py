@@ -4,11 +4,13 @@ import random
 import unittest
 
 from drawing import draw_sound
-from parting import called, cut, declared, expected_part, kinds_given, kinds_taken, looser, part_text, told_part, use_line
+from parting import (
+    called, cut, declared, expected_part, kinds_given, kinds_taken, looser, part_text, raised, told_part, use_line,
+)
 from samples import DAIRY
 from test_reading import WRONG_LINES
 
-from sourwright.errors import InvalidPart, InvalidProgram, InvalidText, LinkRefused
+from sourwright.errors import LinkRefused
 from sourwright.flow import check_sound
 from sourwright.judging import is_fresh
 from sourwright.lifetypes import LifeType
@@ -61,24 +63,8 @@ RIGHT_USES = (
 )
 
 
-def raised(call, *given):
-    """The error that a call raises, as its class and values, or None."""
-    try:
-        call(*given)
-    except InvalidText as error:
-        return ("line", error.line)
-    except InvalidProgram as error:
-        return ("program", error.word, error.procedure, error.place)
-    except InvalidPart as error:
-        return (error.word, error.index)
-    except LinkRefused as error:
-        return ("refused", error.part, error.used)
-    return None
-
-
 def fault(text):
-    told = told_part(text)
-    return None if told[0] == "part" else told
+    return raised(Part.read, text)
 
 
 class LinesTest(unittest.TestCase):

@@ -5,7 +5,7 @@ import unittest
 
 from drawing import code_of, draw_sound
 from samples import DAIRY, DISHES, KINDS, WELLS
-from second import Shape, reads, step_ticks
+from second import Shape, step_ticks
 
 from sourwright.code import CodeProgram
 from sourwright.compiling import compiled

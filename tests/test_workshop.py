@@ -4,8 +4,8 @@ import random
 import unittest
 
 from drawing import draw_sound
-from parting import cut
-from test_parts import A, B, raised, renamed
+from parting import cut, raised
+from test_parts import A, B, renamed
 
 from sourwright.errors import InvalidPart, InvalidProgram, InvalidText, LinkRefused, UnknownName
 from sourwright.parts import Part, link
