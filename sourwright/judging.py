@@ -3,7 +3,7 @@
 from sourwright.earliest import earliest_sour
 from sourwright.errors import TooLong
 from sourwright.flow import written_out
-from sourwright.papers import lets_start, paper_of
+from sourwright.papers import lets_start, made_paper
 from sourwright.reckoning import exact_types
 from sourwright.starts import check_lives
 
@@ -20,7 +20,7 @@ def is_fresh(program, name, lives):
 def judge(program, name, lives):
     """A paper that shows that a start is fresh, or the answers and the tick of an earliest sour read."""
     if is_fresh(program, name, lives):
-        return ("fresh", paper_of(program, name))
+        return ("fresh", made_paper(program, name))
     count = written_out(program, name)
     if count > MOST_STEPS:
         raise TooLong(count)

@@ -3,6 +3,7 @@
 from sourwright.chains import Chains, exact_chains, plans_within
 from sourwright.forms import as_tuple, is_tuple
 from sourwright.plans import Plan
+from sourwright.reckoning import exact_types
 from sourwright.starts import check_lives
 from sourwright.tables import holds
 
@@ -19,9 +20,14 @@ def table_holds(program, name, types, u, table):
 
 def paper_of(program, name):
     """A paper for a procedure, or None if its exact type is never."""
-    chains = exact_chains(program, program[name].name)
-    if chains[name].composed.is_never:
+    if exact_types(program, (program[name].name,))[name].is_never:
         return None
+    return made_paper(program, name)
+
+
+def made_paper(program, name):
+    """A paper for a procedure whose exact type is not never."""
+    chains = exact_chains(program, name)
     return tuple([(one, chains[one].composed, chains[one].table()) for one in chains])
 
 
