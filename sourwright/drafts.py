@@ -12,6 +12,7 @@ class Draft(Program):
         super().__init__(kinds, wells, dishes, procedures)
 
     def _take_procedures(self):
+        """Takes in the uses, and then the procedures, which may call them."""
         callees = self._known.callees
         for index, use in enumerate(self._used):
             if use.name in callees or not self._known.has_kinds(use.taken + use.given):
