@@ -86,31 +86,34 @@ class Workshop:
 
 
 class Trial:
-    """A block of deeds in a workshop, which are taken back at its end unless they are kept."""
+    """A block of deeds in a workshop, which are taken back at its end unless they are kept.
+
+    `lasting` is None as long as they are not kept.
+    """
 
     def __init__(self, shop):
         self.shop = shop
-        self.stays = False
+        self.lasting = None
 
     def __enter__(self):
         shop = self.shop
         self.kept = shop.kept
         self.past = shop.past
         self.fixed = shop.fixed
-        self.stays = False
+        self.lasting = None
         shop.fixed = len(self.past)
         return self
 
     def __exit__(self, kind, value, trace):
         shop = self.shop
         shop.fixed = self.fixed
-        if kind is not None or not self.stays:
+        if kind is not None or self.lasting is None:
             shop.kept = self.kept
             shop.past = self.past
 
     def keep(self):
         """Lets the deeds of the block stand, if it ends without an error."""
-        self.stays = True
+        self.lasting = True
 
 
 def within(block, call):

@@ -103,6 +103,47 @@ def is_passed_at_once(node, above):
     return outer.func.id in TAKING and outer.args[0] == node
 
 
+def asks_whether_none(test):
+    """Whether a test asks names and attributes whether they are None, and nothing else."""
+    if isinstance(test, ast.BoolOp):
+        return all(asks_whether_none(one) for one in test.values)
+    if isinstance(test, ast.UnaryOp):
+        return isinstance(test.op, ast.Not) and asks_whether_none(test.operand)
+    if not isinstance(test, ast.Compare) or len(test.ops) != 1 or not isinstance(test.ops[0], (ast.Is, ast.IsNot)):
+        return False
+    side = test.comparators[0]
+    return is_name_or_attribute(test.left) and isinstance(side, ast.Constant) and side.value is None
+
+
+def is_name_or_attribute(node):
+    while isinstance(node, ast.Attribute):
+        node = node.value
+    return isinstance(node, ast.Name)
+
+
+def exits_of(tree):
+    """Each `__exit__` of a file, and the methods of its class that it calls."""
+    for owner in ast.walk(tree):
+        if isinstance(owner, ast.ClassDef):
+            methods = {one.name: one for one in owner.body if isinstance(one, ast.FunctionDef)}
+            if "__exit__" in methods:
+                yield methods["__exit__"]
+                for node in ast.walk(methods["__exit__"]):
+                    if isinstance(node, ast.Call) and getattr(node.func, "attr", "") in methods:
+                        yield methods[node.func.attr]
+
+
+def has_the_form_of_exits(tree):
+    """Whether each `if` in an `__exit__` only asks `is None` and `is not None`, and nothing else asks or loops."""
+    for method in exits_of(tree):
+        for node in ast.walk(method):
+            if isinstance(node, (ast.IfExp, ast.While, ast.For, ast.Try, ast.With, ast.Match, ast.Assert)):
+                return False
+            if isinstance(node, ast.If) and not asks_whether_none(node.test):
+                return False
+    return True
+
+
 class FilesTest(unittest.TestCase):
     def test_folder(self):
         for path in PACKAGE.iterdir():
@@ -344,6 +385,30 @@ class NodesTest(unittest.TestCase):
             above = {inner: node for node in ast.walk(tree) for inner in ast.iter_child_nodes(node)}
             inner = [node for node in ast.walk(tree) if isinstance(node, ast.Call) and is_passing(node)]
             self.assertEqual(all(is_passed_at_once(node, above) for node in inner), is_right, row)
+
+    def test_exits_only_ask_whether_something_is_none(self):
+        # The package has classes with __eq__ and __len__.
+        exits = [method for tree in TREES.values() for method in exits_of(tree)]
+        self.assertTrue([node for method in exits for node in ast.walk(method) if isinstance(node, ast.If)])
+        for name, tree in TREES.items():
+            self.assertTrue(has_the_form_of_exits(tree), name)
+
+    def test_the_test_of_exits(self):
+        rows = {
+            "if kind is None: pass": True, "if kind is not None or self.last is None: pass": True,
+            "if not (kind is None and self.shop.last is None): pass": True, "self.x = self.y": True,
+            "if self.stays: pass": False, "if not self.stays: pass": False, "if kind is None or not self.stays: pass": False,
+            "if self.n == 3: pass": False, "if self.n is True: pass": False, "if self.told() is None: pass": False,
+            "if self.rows[0] is None: pass": False, "if kind is None is None: pass": False, "if None is kind: pass": False,
+            "if kind is None: pass\n        elif self.n: pass": False, "self.x = 1 if kind is None else 2": False,
+            "self.shut()": False, "self.other()": True,
+        }
+        for row, is_right in rows.items():
+            text = (
+                f"class Box:\n    def __exit__(self, kind, value, trace):\n        {row}\n"
+                "    def shut(self):\n        if self.n: pass\n    def other(self):\n        if self.n is None: pass\n"
+            )
+            self.assertEqual(has_the_form_of_exits(ast.parse(text)), is_right, row)
 
     def test_errors_are_made_on_the_spot(self):
         for name, node in NODES:
