@@ -43,6 +43,7 @@ class CodeProgram(Book):
             check_code(index, given, self._known)
             procedure = CodeProcedure(given)
             self._found[procedure.name] = procedure
+            self.unsure.append(procedure.name)
             self._known.callees[procedure.name] = (procedure.params, ends_of(procedure.rows)[0])
 
     @property

@@ -20,7 +20,7 @@ def flow(procedure):
 
 def check_sound(program):
     """True if the program is sound; otherwise it raises Unfilled."""
-    check_book(program, ())
+    check_book(program)
     return True
 
 

@@ -12,9 +12,9 @@ MOST_BODIES = 8
 
 def is_word(value):
     """Whether a value can be a name."""
-    if not isinstance(value, str) or len(value) > 6 or value in RESERVED:
+    if not isinstance(value, str) or not value.isalpha() or not value.islower():
         return False
-    return value.isascii() and value.isalpha() and value.islower()
+    return value.isascii() and len(value) <= 6 and value not in RESERVED
 
 
 def is_integer(value):
@@ -24,7 +24,7 @@ def is_integer(value):
 
 def is_within(value, low, high):
     """Whether a value is an integer from low to high."""
-    return is_integer(value) and low <= value <= high
+    return isinstance(value, int) and low <= value <= high and not isinstance(value, bool)
 
 
 def is_string(value):
@@ -39,12 +39,12 @@ def is_sign(value):
 
 def is_factor(value):
     """Whether a value can be the number of a scale."""
-    return is_within(value, -9, 9)
+    return isinstance(value, int) and -9 <= value <= 9 and not isinstance(value, bool)
 
 
 def is_pause(value):
     """Whether a value can be the number of a wait."""
-    return is_within(value, 1, 60)
+    return isinstance(value, int) and 1 <= value <= 60 and not isinstance(value, bool)
 
 
 def is_tuple(value):

@@ -16,37 +16,49 @@ class Known:
         self.well_by_name = {}
         self.dish_by_name = {}
         self.callees = {}
+        self.add_kinds(kinds)
+        self.add_wells(wells)
+        self.add_dishes(dishes)
+
+    def add_kinds(self, kinds):
+        """Takes in the kinds, or raises for the first rule that one of them breaks."""
         for index, (name, keep) in enumerate(kinds):
-            self.add_kind(index, name, keep)
+            if not is_word(name) or name in self.keep_by_kind:
+                raise InvalidProgram("name", -1, index)
+            if not is_within(keep, 0, 60):
+                raise InvalidProgram("keep", -1, index)
+            self.keep_by_kind[name] = keep
         if not self.keep_by_kind:
             raise InvalidProgram("kinds", -1, 0)
+
+    def add_wells(self, wells):
+        """Takes in the wells, as `add_kinds`."""
         for index, (name, kind, ticks) in enumerate(wells):
-            self.check_maker(index, name, self.well_by_name, (kind,), ticks)
+            if not is_word(name) or name in self.well_by_name:
+                raise InvalidProgram("name", -1, index)
+            if kind not in self.keep_by_kind:
+                raise InvalidProgram("kind", -1, index)
+            if not is_within(ticks, 1, 9):
+                raise InvalidProgram("ticks", -1, index)
             self.well_by_name[name] = (kind, ticks)
+
+    def add_dishes(self, dishes):
+        """Takes in the dishes, as `add_kinds`."""
         for index, (name, needs, makes, ticks) in enumerate(dishes):
-            self.check_maker(index, name, self.dish_by_name, (needs, makes), ticks)
+            if not is_word(name) or name in self.dish_by_name:
+                raise InvalidProgram("name", -1, index)
+            if needs not in self.keep_by_kind or makes not in self.keep_by_kind:
+                raise InvalidProgram("kind", -1, index)
+            if not is_within(ticks, 1, 9):
+                raise InvalidProgram("ticks", -1, index)
             self.dish_by_name[name] = (needs, makes, ticks)
-
-    def add_kind(self, index, name, keep):
-        """Takes in a kind that passes the rules for kinds."""
-        if not is_word(name) or name in self.keep_by_kind:
-            raise InvalidProgram("name", -1, index)
-        if not is_within(keep, 0, 60):
-            raise InvalidProgram("keep", -1, index)
-        self.keep_by_kind[name] = keep
-
-    def check_maker(self, index, name, elder, kinds, ticks):
-        """Raises for the first rule that a well or dish breaks; `elder` holds those before it by name."""
-        if not is_word(name) or name in elder:
-            raise InvalidProgram("name", -1, index)
-        if not self.has_kinds(kinds):
-            raise InvalidProgram("kind", -1, index)
-        if not is_within(ticks, 1, 9):
-            raise InvalidProgram("ticks", -1, index)
 
     def has_kinds(self, kinds):
         """Whether all of these are kinds of the program."""
-        return all([kind in self.keep_by_kind for kind in kinds])
+        for kind in kinds:
+            if kind not in self.keep_by_kind:
+                return False
+        return True
 
     def fits_callee(self, call):
         """Whether a call of a known procedure has as many arguments and results as that, and no result twice."""

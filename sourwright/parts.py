@@ -25,7 +25,7 @@ class Part:
         """The part that a text writes."""
         name, kinds, wells, dishes, uses, procedures = read_part(text)
         draft = Draft(kinds, wells, dishes, uses, procedures)
-        check_book(draft, [use.name for use in uses])
+        check_book(draft)
         return cls(text, name, uses, draft)
 
     @property

@@ -16,6 +16,8 @@ class Book:
         self._procedures = tuple(procedures)
         self._known = Known(self._kinds, self._wells, self._dishes)
         self._found = {}
+        # The names of procedures all of whose ways have to be looked at to tell whether they are sound.
+        self.unsure = []
 
     def __iter__(self):
         raise TypeError("programs are not iterated over")
@@ -25,7 +27,9 @@ class Book:
         for index, given in enumerate(self._procedures):
             checked = Checked(index, given, self._known)
             self._found[given[0]] = Procedure(given, checked)
-            self._known.callees[given[0]] = checked.kinds_of_call(given)
+            self._known.callees[given[0]] = (checked.taken_kinds, checked.given_kinds)
+            if not checked.is_sure:
+                self.unsure.append(given[0])
 
     def _procedure(self, name):
         """The procedure of this name."""
@@ -66,9 +70,8 @@ class Procedure:
     def __init__(self, given, checked):
         self.name, self._params, self._results, self._body = given
         self._steps = checked.found
-        self._names = tuple(sorted(checked.named))
-        self._shelves = tuple(sorted(checked.shelved))
-        self._kinds = checked.kind_by_carrier
+        self._kind_by_name = checked.kind_by_name
+        self._kind_by_shelf = checked.kind_by_shelf
 
     @property
     def params(self):
@@ -88,12 +91,12 @@ class Procedure:
     @property
     def names(self):
         """The names of its values, ascending."""
-        return self._names
+        return tuple(sorted(list(self._kind_by_name)))
 
     @property
     def shelves(self):
         """Its shelves, ascending."""
-        return self._shelves
+        return tuple(sorted(list(self._kind_by_shelf)))
 
     def __len__(self):
         return len(self._steps)
@@ -104,9 +107,11 @@ class Procedure:
 
     def kind_of(self, carrier):
         """The kind of a name or shelf."""
-        if carrier not in self._kinds:
+        if carrier in self._kind_by_name:
+            return self._kind_by_name[carrier]
+        if carrier not in self._kind_by_shelf:
             raise UnknownName(carrier)
-        return self._kinds[carrier]
+        return self._kind_by_shelf[carrier]
 
     def __eq__(self, other):
         return (

@@ -4,41 +4,22 @@ from sourwright.errors import InvalidText
 from sourwright.forms import MOST_BODIES, is_sign, is_word
 
 ARROW = "->"
-# For each form of line how many words it has, which of them are names, and which is a number or a sign, or 0 for none.
-DECLARED_LINES = {
-    "kind": (3, (1,), 2, 0),
-    "well": (4, (1, 2), 3, 0),
-    "dish": (5, (1, 2, 3), 4, 0),
-}
-STEP_LINES = {
-    "get": (3, (1, 2), 0, 0),
-    "mix": (5, (1, 2, 4), 0, 3),
-    "scale": (4, (1, 2), 3, 0),
-    "dish": (4, (1, 2, 3), 0, 0),
-    "copy": (3, (1, 2), 0, 0),
-    "wait": (2, (), 1, 0),
-    "put": (3, (1, 2), 0, 0),
-    "take": (3, (1, 2), 0, 0),
-}
+# How many names stand in a line that tells a kind, well or dish; a number stands behind them.
+NAMES = {"kind": 1, "well": 2, "dish": 3}
+# The numbers that are written most.
+NUMBERS = {"0": 0, "1": 1, "2": 2, "3": 3, "4": 4, "5": 5, "6": 6, "7": 7, "8": 8, "9": 9, "-1": -1}
 
 
 class Lines:
-    """The lines of a text, passed one after another; `seen` has the words that turned out to be names as keys."""
+    """The lines of a text, passed one after another; `at` is the index of the next one.
+
+    `seen` has the words that turned out to be names as keys.
+    """
 
     def __init__(self, text):
         self.told = text.split("\n")
         self.at = 0
         self.seen = {}
-
-    def are_left(self):
-        """Whether there is a line that is not passed yet."""
-        return self.at < len(self.told)
-
-    def next_line(self):
-        """The next line; where a line is missing, it is wrong."""
-        if self.at >= len(self.told):
-            raise InvalidText(self.at)
-        return self.told[self.at]
 
     def pass_line(self, is_right):
         """Passes the next line, or raises if it is not right."""
@@ -46,34 +27,88 @@ class Lines:
             raise InvalidText(self.at)
         self.at += 1
 
-    def are_words(self, names):
-        """Whether all of these can be names."""
-        for name in names:
-            if name not in self.seen:
-                if not is_word(name):
-                    return False
-                self.seen[name] = True
-        return True
 
-    def read_number(self, word):
-        """The number that a word of the next line writes, or it raises."""
-        number = number_of(word)
-        if number is None:
-            raise InvalidText(self.at)
-        return number
+def is_new_name(word, seen):
+    """Whether a word can be a name; if so it is seen from now on."""
+    if not is_word(word):
+        return False
+    seen[word] = True
+    return True
 
-    def pass_items(self, words, form):
-        """Passes the next line, which must have these words in this form, and returns them with its number as one."""
-        length, spots, number_at, sign_at = form
-        if len(words) != length or sign_at and not is_sign(words[sign_at]):
-            raise InvalidText(self.at)
-        for spot in spots:
-            if words[spot] not in self.seen and not self.are_words(words[spot:spot + 1]):
-                raise InvalidText(self.at)
-        if number_at:
-            words[number_at] = self.read_number(words[number_at])
-        self.at += 1
-        return tuple(words)
+
+def are_names(words, seen):
+    """Whether all of these can be names."""
+    for word in words:
+        if word not in seen and not is_new_name(word, seen):
+            return False
+    return True
+
+
+def number_of(word):
+    """The integer of at most four digits that is written like this, or None."""
+    if word in NUMBERS:
+        return NUMBERS[word]
+    digits = word[1:] if word[:1] == "-" else word
+    if digits.isdigit() and digits[0] != "0" and len(digits) <= 4 and digits.isascii():
+        return int(word)
+    return None
+
+
+def pair_of(words, seen):
+    """The get, copy, put or take that these words write, or None; so it is for each form of step."""
+    if len(words) != 3:
+        return None
+    word, one, two = words
+    if (one in seen or is_new_name(one, seen)) and (two in seen or is_new_name(two, seen)):
+        return (word, one, two)
+    return None
+
+
+def mix_of(words, seen):
+    if len(words) != 5:
+        return None
+    word, made, one, sign, two = words
+    if not is_sign(sign) or not are_names((made, one, two), seen):
+        return None
+    return (word, made, sign, one, two)
+
+
+def scale_of(words, seen):
+    if len(words) != 4:
+        return None
+    word, made, one, told = words
+    number = number_of(told)
+    return (word, made, one, number) if number is not None and are_names((made, one), seen) else None
+
+
+def dish_of(words, seen):
+    return tuple(words) if len(words) == 4 and are_names(words[1:], seen) else None
+
+
+def wait_of(words, _):
+    number = number_of(words[1]) if len(words) == 2 else None
+    return None if number is None else ("wait", number)
+
+
+def call_of(words, seen):
+    before, behind = around_arrow(words)
+    if len(before) < 2 or not are_names(before[1:], seen) or not are_names(behind, seen):
+        return None
+    return ("call", before[1], tuple(before[2:]), tuple(behind))
+
+
+def around_arrow(words):
+    """The words before the first arrow of a line and those behind it; two empty lists if there is no arrow."""
+    if ARROW not in words:
+        return ([], [])
+    at = words.index(ARROW)
+    return (words[:at], words[at + 1:])
+
+
+STEPS = {
+    "get": pair_of, "mix": mix_of, "scale": scale_of, "dish": dish_of, "copy": pair_of, "wait": wait_of, "put": pair_of,
+    "take": pair_of, "call": call_of,
+}
 
 
 def read_program(text):
@@ -87,83 +122,69 @@ def read_program(text):
 
 def read_declared(lines, word):
     """The kinds, wells or dishes that the next lines write, as far as they begin with this word."""
-    rows = []
-    while lines.are_left():
-        words = lines.next_line().split(" ")
-        if words[0] != word:
-            break
-        rows.append(lines.pass_items(words, DECLARED_LINES[word])[1:])
-    return tuple(rows)
+    found = []
+    told, at = lines.told, lines.at
+    begin = f"{word} "
+    while at < len(told) and told[at].startswith(begin):
+        _, *names = told[at].split(" ")
+        number = number_of(names.pop()) if len(names) == NAMES[word] + 1 else None
+        if number is None or not are_names(names, lines.seen):
+            raise InvalidText(at)
+        found.append((*names, number))
+        at += 1
+    lines.at = at
+    return tuple(found)
 
 
 def read_procedures(lines):
     """The procedures that all lines that are left write."""
-    procedures = []
-    while lines.are_left():
-        procedures.append(read_procedure(lines))
-    return tuple(procedures)
+    found = []
+    while lines.at < len(lines.told):
+        found.append(read_procedure(lines))
+    return tuple(found)
 
 
 def read_procedure(lines):
     """The procedure that the next lines write."""
-    before, behind = around_arrow(lines.next_line().split(" "))
-    params = [tuple(word.split(":")) for word in before[2:]]
-    is_head = len(before) >= 2 and before[0] == "procedure" and lines.are_words(before[1:2] + behind)
-    lines.pass_line(is_head and all([len(pair) == 2 and lines.are_words(pair) for pair in params]))
+    before, behind = around_arrow(lines.told[lines.at].split(" "))
+    lines.pass_line(len(before) >= 2 and before[0] == "procedure" and are_names(before[1:2] + behind, lines.seen))
+    params = []
+    for word in before[2:]:
+        param, _, kind = word.partition(":")
+        if not are_names((param, kind), lines.seen):
+            raise InvalidText(lines.at - 1)
+        params.append((param, kind))
     return (before[1], tuple(params), tuple(behind), read_body(lines, "end", 0))
 
 
 def read_body(lines, last, bodies):
     """The steps that the next lines write, within so many bodies; passes the line `last` behind them, too."""
     found = []
-    line = lines.next_line()
-    while line != last:
+    told, seen, at = lines.told, lines.seen, lines.at
+    while at < len(told):
+        line = told[at]
+        if line == last:
+            lines.at = at + 1
+            return tuple(found)
         words = line.split(" ")
-        if words[0] in STEP_LINES:
-            items = lines.pass_items(words, STEP_LINES[words[0]])
-            if words[0] == "mix":
-                _, made, first, sign, second = items
-                items = ("mix", made, sign, first, second)
-            found.append(items)
+        step_of = STEPS.get(words[0])
+        if step_of is None:
+            lines.at = at
+            step = read_asking(lines, line, bodies)
+            at = lines.at
         else:
-            found.append(read_longer(lines, words, bodies))
-        line = lines.next_line()
-    lines.pass_line(True)
-    return tuple(found)
+            step = step_of(words, seen)
+            if step is None:
+                raise InvalidText(at)
+            at += 1
+        found.append(step)
+    raise InvalidText(at)
 
 
-def read_longer(lines, words, bodies):
-    """The `if`, `while` or `call` that begins with the next line, of these words, within so many bodies."""
-    word = words[0]
-    if word == "call":
-        return read_call(lines, words)
-    lines.pass_line(word in ("if", "while") and len(words) == 1 and bodies < MOST_BODIES)
-    if word == "while":
+def read_asking(lines, line, bodies):
+    """The `if` or `while` that begins with the next line, which is this one, within so many bodies."""
+    lines.pass_line(line in ("if", "while") and bodies < MOST_BODIES)
+    if line == "while":
         return ("while", read_body(lines, "end", bodies + 1))
     yes = read_body(lines, "else", bodies + 1)
     return ("if", yes, read_body(lines, "end", bodies + 1))
-
-
-def read_call(lines, words):
-    """The call that the next line writes, of these words."""
-    before, behind = around_arrow(words)
-    lines.pass_line(len(before) >= 2 and lines.are_words(before[1:] + behind))
-    return ("call", before[1], tuple(before[2:]), tuple(behind))
-
-
-def around_arrow(words):
-    """The words before the first arrow of a line and those behind it; two empty lists if there is no arrow."""
-    if ARROW not in words:
-        return ([], [])
-    at = words.index(ARROW)
-    return (words[:at], words[at + 1:])
-
-
-def number_of(word):
-    """The integer of at most four digits that is written like this, or None."""
-    digits = word.removeprefix("-")
-    if len(digits) > 4 or not digits.isascii() or not digits.isdigit():
-        return None
-    if digits[0] == "0" and word != "0":
-        return None
-    return int(word)

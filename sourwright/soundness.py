@@ -22,6 +22,7 @@ class Sorts:
         self.is_code = isinstance(program, CodeProgram)
         self.bits = {name: FULL << at if self.is_code else FULL for at, (name, _) in enumerate(program.kinds)}
         self.any_kind = sum(set_bits(self.bits))
+        # Of code alone; in text all that is handed over is filled.
         self.taken_bits = {}
         self.given_bits = {}
 
@@ -38,9 +39,9 @@ class Sorts:
             return (self.bits[self.program.well_of(op.told[2])[0]],)
         if op.word == "dish":
             return (self.bits[self.program.dish_of(op.told[2])[1]],)
-        if op.word == "call":
+        if op.word == "call" and self.is_code:
             return self.given_bits[op.told[1]]
-        return (FULL,)
+        return (FULL,) * len(op.fills)
 
 
 class States:
@@ -105,25 +106,19 @@ class States:
             return [anything[0], (op.wants[1], self.found[place][op.wants[0]])]
         if op.word == "dish":
             return [(op.wants[0], self.sorts.bits[self.sorts.program.dish_of(op.told[2])[0]])]
-        if op.word == "call":
+        if op.word == "call" and self.plan.is_code:
             return list(zip(op.wants, self.sorts.taken_bits[op.told[1]]))
         if op.word == "end" and self.ended is not None:
             return list(zip(op.wants, self.ended))
         return anything
 
 
-def check_book(book, used):
-    """Raises for the first place of a procedure at which a carrier is in a wrong state.
-
-    `used` names those that may be called besides the procedures of the book; such calls fill all their results.
-    """
-    sorts = Sorts(book)
-    for name in used:
-        taken, given = book.kinds_of_callee(name)
-        sorts.taken_bits[name] = (FULL,) * len(taken)
-        sorts.given_bits[name] = (FULL,) * len(given)
-    for given in book.procedures:
-        check_procedure(sorts, given[0])
+def check_book(book):
+    """Raises for the first place of a procedure at which a carrier is in a wrong state."""
+    if book.unsure:
+        sorts = Sorts(book)
+        for name in book.unsure:
+            check_procedure(sorts, name)
 
 
 def check_procedure(sorts, name):
@@ -135,8 +130,9 @@ def check_procedure(sorts, name):
         if fault is not None:
             carrier, wrong = fault
             raise Unfilled(name, place, carrier, fewest_answers(states, place, carrier, wrong))
-    sorts.taken_bits[name] = tuple([sorts.bits[kind] for kind in plan.taken_kinds])
-    sorts.given_bits[name] = states.ended if plan.is_code else (FULL,) * len(plan.given)
+    if plan.is_code:
+        sorts.taken_bits[name] = tuple([sorts.bits[kind] for kind in plan.taken_kinds])
+        sorts.given_bits[name] = states.ended
 
 
 def set_bits(bits):

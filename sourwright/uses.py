@@ -1,9 +1,9 @@
 """What parts use: procedures of other parts, under life types that their lines tell."""
 
-from sourwright.forms import is_within, is_word
+from sourwright.forms import is_word
 from sourwright.lifetypes import LifeType
 from sourwright.longest import MOST
-from sourwright.reading import Lines, around_arrow, number_of, read_declared, read_procedures
+from sourwright.reading import Lines, around_arrow, is_new_name, number_of, read_declared, read_procedures
 from sourwright.rows import LifeRow
 
 # What stands in a line for a row that is None, for a term that is None, and for ticks where no start is fresh.
@@ -36,7 +36,7 @@ class Use:
 def read_part(text):
     """The name, kinds, wells, dishes, uses and procedures of the part that a text writes."""
     lines = Lines(text)
-    words = lines.next_line().split(" ")
+    words = lines.told[0].split(" ")
     lines.pass_line(len(words) == 2 and words[0] == "part" and is_word(words[1]))
     kinds = read_declared(lines, "kind")
     wells = read_declared(lines, "well")
@@ -48,63 +48,57 @@ def read_part(text):
 def read_uses(lines):
     """The uses that the next lines write, as far as they begin like uses."""
     uses = []
-    while lines.are_left():
-        words = lines.next_line().split(" ")
-        if words[0] != "use":
-            break
-        use = use_of(words)
+    while lines.at < len(lines.told) and lines.told[lines.at].startswith("use "):
+        use = use_of(lines.told[lines.at].split(" "), lines.seen)
         lines.pass_line(use is not None)
         uses.append(use)
     return tuple(uses)
 
 
-def use_of(words):
-    """The use that a line of these words writes, or None."""
+def use_of(words, seen):
+    """The use that a line of these words writes, or None; `seen` has words that can be names as keys."""
     before, behind = around_arrow(words)
     if len(before) < 2 or len(behind) == 0 or not is_word(before[1]):
         return None
-    params = [param_of(word) for word in before[2:]]
-    results = [result_of(word, len(params)) for word in behind[:-1]]
-    took = term_of(behind[-1], 0, MOST)
-    if None in params or None in results or took is None and behind[-1] != NEVER:
+    taken, least = [], []
+    for word in before[2:]:
+        kind, _, told = word.partition(":")
+        need = number_of(told)
+        if need is None or not -1 <= need <= MOST or kind not in seen and not is_new_name(kind, seen):
+            return None
+        taken.append(kind)
+        least.append(need)
+    given, bounds = [], []
+    for word in behind[:-1]:
+        kind, *told = word.split(":")
+        row = row_of(told, len(taken))
+        if row is None and told != [NO_ROW] or kind not in seen and not is_new_name(kind, seen):
+            return None
+        given.append(kind)
+        bounds.append(row)
+    took = number_of(behind[-1])
+    if took is None:
+        if behind[-1] != NEVER or least != [MOST] * len(least) or bounds != [None] * len(bounds):
+            return None
+    elif not 0 <= took <= MOST:
         return None
-    least = [need for _, need in params]
-    bounds = [row for _, row in results]
-    if took is None and (least != [MOST] * len(least) or bounds != [None] * len(bounds)):
-        return None
-    taken = tuple([kind for kind, _ in params])
-    return Use(before[1], taken, tuple([kind for kind, _ in results]), least, bounds, took)
+    return Use(before[1], tuple(taken), tuple(given), least, bounds, took)
 
 
-def param_of(word):
-    """The kind and the need of a parameter that a word writes, or None."""
-    parts = word.split(":")
-    if len(parts) != 2 or not is_word(parts[0]):
+def row_of(told, many):
+    """The row with so many entries that these words write, or None."""
+    terms = []
+    low, high = -1, MOST - 1
+    for word in told:
+        term = number_of(word)
+        if term is None and word != NO_TERM or term is not None and not low <= term <= high:
+            return None
+        terms.append(term)
+        # Entries stand behind `left`.
+        low, high = 0, MOST
+    if len(terms) != many + 1 or terms.count(None) == len(terms):
         return None
-    need = term_of(parts[1], -1, MOST)
-    return None if need is None else (parts[0], need)
-
-
-def result_of(word, many):
-    """The kind and the row, with so many entries, of a result that a word writes, or None."""
-    parts = word.split(":")
-    if not is_word(parts[0]):
-        return None
-    if parts[1:] == [NO_ROW]:
-        return (parts[0], None)
-    terms = [term_of(part, -1, MOST - 1) for part in parts[1:2]] + [term_of(part, 0, MOST) for part in parts[2:]]
-    lacking = [part == NO_TERM for part in parts[1:]]
-    if len(terms) != many + 1 or all(lacking):
-        return None
-    if any([term is None and not is_lacking for term, is_lacking in zip(terms, lacking)]):
-        return None
-    return (parts[0], LifeRow(terms[0], terms[1:]))
-
-
-def term_of(word, low, high):
-    """The number from low to high that a word writes, or None."""
-    number = number_of(word)
-    return number if number is not None and is_within(number, low, high) else None
+    return LifeRow(terms[0], terms[1:])
 
 
 def type_words(life_type):
