@@ -2,9 +2,9 @@
 
 from sourwright.edges import size_of
 from sourwright.forms import LETTERS
-from sourwright.papers import lets_start
+from sourwright.least import Least, ops_of, paths_to_places, with_op
 from sourwright.programs import Program
-from sourwright.reckoning import Reckoner, exact_types
+from sourwright.reckoning import exact_types
 from sourwright.starts import check_lives
 
 
@@ -62,15 +62,48 @@ def mends(program, name, lives):
     """The triples of a place, a name and a well with which a get makes a start fresh, or leaves it so."""
     check_lives(program, name, lives)
     procedure = program[name]
-    reckoner = Reckoner(program, procedure, exact_types(program, (name,)))
-    for place in range(len(procedure) + 1):
-        for x in procedure.names:
-            tried = {}
-            for well, kind, ticks in program.wells:
-                if kind == procedure.kind_of(x):
-                    if ticks not in tried:
-                        # It stays sound with one more get, and of a right form.
-                        body = whole_body_with(procedure, {place: ("get", x, well)})
-                        tried[ticks] = lets_start(reckoner.life_type(body), lives)
-                    if tried[ticks]:
-                        yield (place, x, well)
+    mender = Mender(program, procedure, lives)
+    fills = [(x, wells_of_kind(program, procedure.kind_of(x))) for x in procedure.names]
+    for place, path in enumerate(mender.paths):
+        stand = mender.stand_ahead(path[0])
+        if stand is None:
+            return
+        ops = mender.ops[path[0]:]
+        inner = (0,) + path[1:]
+        tried = {}
+        for x, wells in fills:
+            for well, ticks, keep in wells:
+                if ticks not in tried:
+                    tried[ticks] = stand.is_fresh_along(with_op(ops, inner, ("wait", ticks)))
+                if not tried[ticks] and (x, ticks) not in tried:
+                    tried[x, ticks] = stand.is_fresh_along(with_op(ops, inner, ("get", x, ticks, keep)))
+                # No value is better than a new one of its kind; so where it is enough to wait, any get will do.
+                if tried[ticks] or tried[x, ticks]:
+                    yield (place, x, well)
+
+
+def wells_of_kind(program, kind):
+    """The triples of a well of this kind, its ticks, and the keep of the kind."""
+    keep = program.keep_of(kind)
+    return [(well, ticks, keep) for well, made, ticks in program.wells if made == kind]
+
+
+class Mender:
+    """A procedure with a start, in which one get more is tried at each place.
+
+    `stands` tells how values stand ahead of the first operations of the body, as far as nothing sour can be read
+    before; `paths` are those to the places and the exit.
+    """
+
+    def __init__(self, program, procedure, lives):
+        self.ops = ops_of(program, procedure.body, exact_types(program, procedure.called_names()))
+        self.paths = paths_to_places(self.ops, ()) + [(len(self.ops),)]
+        self.stands = [Least(0, {param: life for (param, _), life in zip(procedure.params, lives)}, {})]
+
+    def stand_ahead(self, at):
+        """How values stand ahead of an operation of the body, or behind them all; None if some can be sour before."""
+        while len(self.stands) <= at and self.stands[-1] is not None:
+            stand = self.stands[-1].copied()
+            goes_on = stand.goes_along(self.ops[len(self.stands) - 1:len(self.stands)])
+            self.stands.append(stand if goes_on else None)
+        return self.stands[at] if at < len(self.stands) else None
