@@ -13,28 +13,43 @@ def check_code(index, given, known):
         raise InvalidCode("kind", index, -1)
     if len(rows) == 0:
         raise InvalidCode("rows", index, -1)
-    for at in range(len(rows)):
-        word = row_fault(rows, at, known)
+    many = None
+    for at, row in enumerate(rows):
+        word = row_fault(row, known)
+        if word is None:
+            word = goal_fault(rows, at, many)
         if word is not None:
             raise InvalidCode(word, index, at)
-    if not ends_of(rows):
+        if row[0] == "end":
+            many = len(row[1])
+    if many is None:
         raise InvalidCode("end", index, -1)
-    check_ways(index, rows)
+    check_ways(index, [next_rows(rows, at) for at in range(len(rows))])
 
 
-def row_fault(rows, at, known):
-    """The word for the first rule that a row breaks, where those before it are right, or None."""
-    row = rows[at]
+def row_fault(row, known):
+    """The word for the first rule that a row breaks by itself, or None."""
     if not is_row(row):
         return "row"
-    if not names_known(row, known):
-        return "unknown"
-    if row[0] == "call" and not known.fits_callee(row):
-        return "count"
-    if not all([0 <= goal < len(rows) for goal in next_rows(rows, at)]):
+    if row[0] in ("get", "dish", "call"):
+        if not names_known(row, known):
+            return "unknown"
+        if row[0] == "call" and not known.fits_callee(row):
+            return "count"
+    return None
+
+
+def goal_fault(rows, at, many):
+    """The word for what is wrong with the goals of a row, or with the number of cups of an end, or None.
+
+    The ends before it have so many cups; None if there are none.
+    """
+    row = rows[at]
+    word = row[0]
+    if word == "end":
+        return "end" if many is not None and len(row[1]) != many else None
+    if word in ("ask", "jump") and not 0 <= row[1] < len(rows) or word != "jump" and at + 1 == len(rows):
         return "target"
-    if row[0] == "end" and len(row[1]) != len(ends_of(rows[:at + 1])[0]):
-        return "end"
     return None
 
 
@@ -66,16 +81,18 @@ def next_rows(rows, at):
     return (at + 1,)
 
 
-def check_ways(index, rows):
+def check_ways(index, ahead):
     """Raises for the first row that cannot be reached, or from which no end can be reached."""
-    ahead = [list(next_rows(rows, at)) for at in range(len(rows))]
-    back = [[] for _ in rows]
+    back = [[] for _ in ahead]
+    ends = []
     for at, goals in enumerate(ahead):
+        if len(goals) == 0:
+            ends.append(at)
         for goal in goals:
             back[goal].append(at)
     from_start = reached([0], ahead)
-    from_ends = reached([at for at, goals in enumerate(ahead) if len(goals) == 0], back)
-    for at in range(len(rows)):
+    from_ends = reached(ends, back)
+    for at in range(len(ahead)):
         if not from_start[at] or not from_ends[at]:
             raise InvalidCode("astray", index, at)
 

@@ -2,38 +2,33 @@
 
 from sourwright.code import CodeProgram
 from sourwright.errors import NoRoom
-from sourwright.plans import Plan
-from sourwright.steps import row_with_spots
-from sourwright.wanted import clashes_of, fewest_shared, wanted_by_place
+from sourwright.wanted import Wanted, fewest_shared
+
+# Where names and shelves stand in most steps.
+CARRIERS = {
+    "mix": (1, 3, 4), "scale": (1, 2), "dish": (1, 3), "copy": (1, 2), "put": (1, 2), "take": (1, 2), "wait": (),
+}
 
 
 def fewest_cups(program, name):
     """The least number of cups with which each name of a procedure can have one cup throughout."""
-    cups = shared_cups(program, name)
-    return 1 + max([cups[one] for one in cups], default=-1)
-
-
-def shared_cups(program, name):
-    """A dict from the names of a procedure to cups, as few as can be."""
-    names = program[name].names
-    plan = Plan(program, name)
-    return fewest_shared(clashes_of(plan, names), plan.taken)
+    return Coder(program[name]).many_cups()
 
 
 def compiled(program, *, cups=8, cold=3):
     """A code program that does what a program does, and a location table for each procedure."""
     procedures = []
     tables = []
-    for given in program.procedures:
-        name = given[0]
-        needed = fewest_cups(program, name)
+    for name, params, _, _ in program.procedures:
+        coder = Coder(program[name])
+        needed = coder.many_cups()
         if needed > cups:
             raise NoRoom(name, needed)
-        if len(program[name].shelves) > cold:
+        if len(coder.procedure.shelves) > cold:
             raise NoRoom(name, 0)
-        coder = Coder(program, name)
-        procedures.append((name, coder.plan.taken_kinds, coder.rows_told()))
-        tables.append(tuple(coder.entries))
+        rows, entries = coder.rows_with_entries()
+        procedures.append((name, tuple([kind for _, kind in params]), rows))
+        tables.append(entries)
     code = CodeProgram(program.kinds, program.wells, program.dishes, tuple(procedures))
     return (code, tuple(tables))
 
@@ -41,47 +36,60 @@ def compiled(program, *, cups=8, cold=3):
 class Coder:
     """Writes a row for each step of a procedure, in order of places, and jumps where the way leads elsewhere.
 
-    Each name has one cup throughout, and each shelf one cold place. `written` rows still have places for their targets;
-    `row_by_place` tells which rows these are. `entries` make up the location table.
+    Each name has one cup throughout, and each shelf one cold place.
     """
 
-    def __init__(self, program, name):
-        self.plan = Plan(program, name)
-        self.cups = shared_cups(program, name)
-        self.colds = {shelf: cold for cold, shelf in enumerate(program[name].shelves)}
-        self.wanted = wanted_by_place(self.plan)
-        self.written = []
-        self.entries = []
-        self.row_by_place = []
-        for place, op in enumerate(self.plan.ops):
-            self.add_step(place, op)
-        self.add_row(self.plan.exit_place, ("end", self.spots_of(self.plan.given)))
+    def __init__(self, procedure):
+        self.procedure = procedure
+        self.wanted = Wanted(procedure)
+        self.cups = fewest_shared(self.wanted)
 
-    def add_step(self, place, op):
-        """Adds the row of a step, and a jump where the way does not go on to the next place."""
-        self.row_by_place.append(len(self.written))
-        goals = [goal for _, goal in self.plan.ways[place]]
-        if op.word == "ask":
-            self.add_row(place, ("ask", goals[1]))
-        else:
-            self.add_row(place, row_with_spots(op.told, self.spots_of(op.fills), self.spots_of(op.wants)))
-        if goals[0] != place + 1:
-            self.add_row(goals[0], ("jump", goals[0]))
+    def many_cups(self):
+        """The number of cups that names have."""
+        return 1 + max(list(self.cups.values()), default=-1)
 
-    def add_row(self, place, row):
-        """Adds a row with the entry that tells where all that is wanted at this place lies."""
-        self.written.append(row)
-        self.entries.append((place, tuple([(carrier, self.where(carrier)) for carrier in self.wanted[place]])))
+    def rows_with_entries(self):
+        """The rows, and the entries of their location table."""
+        spots = dict(self.cups)
+        pairs = {name: (name, f"c{cup}") for name, cup in self.cups.items()}
+        for cold, shelf in enumerate(self.procedure.shelves):
+            spots[shelf] = cold
+            pairs[shelf] = (shelf, f"p{cold}")
+        entries = [(place, tuple(wanted.values())) for place, wanted in enumerate(self.wanted.by_place(pairs))]
+        starts = self.rows_of_places()
+        rows = []
+        told = []
+        for place, step in enumerate(self.wanted.steps):
+            goals = self.wanted.goals[place]
+            rows.append(row_of(step, place, spots) if len(goals) == 1 else ("ask", starts[goals[1]]))
+            told.append(entries[place])
+            if goals[0] != place + 1:
+                rows.append(("jump", starts[goals[0]]))
+                told.append(entries[goals[0]])
+        rows.append(("end", tuple([spots[result] for result in self.procedure.results])))
+        told.append(entries[-1])
+        return (tuple(rows), tuple(told))
 
-    def where(self, carrier):
-        """The cup of a name, or the cold place of a shelf, as a string."""
-        return f"c{self.cups[carrier]}" if carrier in self.cups else f"p{self.colds[carrier]}"
+    def rows_of_places(self):
+        """The row of each place and of the exit, as there is a jump where the way does not go on to the next place."""
+        starts = []
+        row = 0
+        for place, goals in enumerate(self.wanted.goals):
+            starts.append(row)
+            row += 1 if goals[0] == place + 1 else 2
+        starts.append(row)
+        return starts
 
-    def spots_of(self, carriers):
-        """The numbers of the cups and cold places of these names and shelves."""
-        return tuple([self.cups[one] if one in self.cups else self.colds[one] for one in carriers])
 
-    def rows_told(self):
-        """The rows, with rows as their targets."""
-        starts = self.row_by_place + [len(self.written) - 1]
-        return tuple([(row[0], starts[row[1]]) if row[0] in ("ask", "jump") else row for row in self.written])
+def row_of(step, place, spots):
+    """The row of a step at a place that does not ask, with these numbers of its names and shelves."""
+    word = step[0]
+    if word == "call":
+        _, callee, args, filled = step
+        return (word, callee, tuple([spots[arg] for arg in args]), tuple([spots[name] for name in filled]))
+    if word == "get":
+        return (word, spots[step[1]], step[2], place)
+    items = list(step)
+    for at in CARRIERS[word]:
+        items[at] = spots[items[at]]
+    return tuple(items)

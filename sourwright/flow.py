@@ -3,14 +3,13 @@
 from sourwright.code import CodeProcedure
 from sourwright.edges import edges_of
 from sourwright.soundness import check_book
-from sourwright.steps import steps_by_place
 
 
 def steps(procedure):
     """The steps of a procedure by place, or the rows of a code procedure."""
     if isinstance(procedure, CodeProcedure):
         return procedure.rows
-    return tuple(steps_by_place(procedure.body))
+    return tuple(procedure.steps_told())
 
 
 def flow(procedure):

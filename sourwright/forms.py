@@ -64,50 +64,44 @@ def is_place(value):
 
 def is_spot(value):
     """Whether a value is the number of a cup or of a cold place."""
-    return is_within(value, 0, 15)
+    return isinstance(value, int) and 0 <= value <= 15 and not isinstance(value, bool)
 
 
 def is_spots(value):
     """Whether a value is a tuple of cups."""
-    return is_tuple(value) and all([is_spot(cup) for cup in value])
+    if not isinstance(value, tuple):
+        return False
+    for cup in value:
+        if not is_spot(cup):
+            return False
+    return True
 
 
-# The parts that stand behind the first word of a code row; CHECKS tells what passes for each part.
-ROW_FORMS = {
-    "get": ("spot", "string", "place"),
-    "mix": ("spot", "sign", "spot", "spot"),
-    "scale": ("spot", "spot", "factor"),
-    "dish": ("spot", "string", "spot"),
-    "copy": ("spot", "spot"),
-    "wait": ("pause",),
-    "put": ("spot", "spot"),
-    "take": ("spot", "spot"),
-    "ask": ("target",),
-    "jump": ("target",),
-    "call": ("string", "spots", "spots"),
-    "end": ("spots",),
-}
-CHECKS = {
-    "string": is_string,
-    "sign": is_sign,
-    "factor": is_factor,
-    "pause": is_pause,
-    "spot": is_spot,
-    "spots": is_spots,
-    "place": is_place,
-    "target": is_integer,
+# What tells for each form of code rows whether the items behind the first word are right.
+ROW_CHECKS = {
+    "get": (is_spot, is_string, is_place),
+    "mix": (is_spot, is_sign, is_spot, is_spot),
+    "scale": (is_spot, is_spot, is_factor),
+    "dish": (is_spot, is_string, is_spot),
+    "copy": (is_spot, is_spot),
+    "wait": (is_pause,),
+    "put": (is_spot, is_spot),
+    "take": (is_spot, is_spot),
+    "ask": (is_integer,),
+    "jump": (is_integer,),
+    "call": (is_string, is_spots, is_spots),
+    "end": (is_spots,),
 }
 
 
 def is_row(value):
     """Whether a value is of one of the forms of code rows."""
-    if not is_tuple(value) or len(value) == 0 or not is_string(value[0]) or value[0] not in ROW_FORMS:
+    if not isinstance(value, tuple) or len(value) == 0 or not isinstance(value[0], str) or value[0] not in ROW_CHECKS:
         return False
-    parts = ROW_FORMS[value[0]]
-    return len(value) == len(parts) + 1 and all([fits(item, part) for item, part in zip(value[1:], parts)])
-
-
-def fits(item, part):
-    """Whether an item can be this part of a row."""
-    check = CHECKS[part]
-    return check(item)
+    checks = ROW_CHECKS[value[0]]
+    if len(value) != len(checks) + 1:
+        return False
+    for item, is_right in zip(value[1:], checks):
+        if not is_right(item):
+            return False
+    return True

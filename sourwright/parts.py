@@ -12,13 +12,10 @@ from sourwright.uses import read_part
 class Part:
     """A part that breaks no rule; it never changes."""
 
-    def __init__(self, text, name, uses, draft):
+    def __init__(self, text, name, draft):
         self._text = text
         self.name = name
         self._draft = draft
-        self._used = {}
-        for use in uses:
-            self._used[use.name] = use.life_type(tuple([draft.keep_of(kind) for kind in use.taken]))
 
     @classmethod
     def read(cls, text):
@@ -26,7 +23,7 @@ class Part:
         name, kinds, wells, dishes, uses, procedures = read_part(text)
         draft = Draft(kinds, wells, dishes, uses, procedures)
         check_book(draft)
-        return cls(text, name, uses, draft)
+        return cls(text, name, draft)
 
     @property
     def kinds(self):
@@ -51,7 +48,7 @@ class Part:
     @property
     def uses(self):
         """A dict from the names of its uses to the types under which they are used."""
-        return {name: self._used[name] for name in self._used}
+        return dict(self._draft.used_types)
 
     def types(self):
         """A dict from the names of its procedures to their plain types, put together from those of its uses."""

@@ -1,8 +1,8 @@
 """Procedures and code procedures, told in one way: what lies in cups and cold places goes by strings as names do."""
 
 from sourwright.code import CodeProcedure
-from sourwright.edges import edges_of
-from sourwright.steps import operands_of, results_of, steps_by_place
+from sourwright.edges import goals_of
+from sourwright.steps import operands_of, results_of
 
 READING = ("mix", "scale", "dish", "put")
 EMPTYING = ("put", "take")
@@ -18,10 +18,10 @@ class Op:
     `wants` are the carriers that must be filled, in order, and `reads` those that it reads; `fills` and `empties`
     are those that it fills and empties. `allowance` is the keep of what a get or dish makes. The ticks of a call
     are those after its callee. `told` is the step itself; a get tells at its end what the supply is asked with.
-    What is quiet lets time pass at most. The way goes on to `goal`, but when it asks, on no to `goal_on_no`.
+    What is quiet lets time pass at most. The way goes on to `goal`, but on no to `goal_on_no`.
     """
 
-    def __init__(self, told, ticks, allowance):
+    def __init__(self, told, ticks, allowance, goals):
         self.told = told
         self.word = told[0]
         self.ticks = ticks
@@ -31,8 +31,8 @@ class Op:
         self.reads = self.wants if self.word in READING else ()
         self.empties = self.wants if self.word in EMPTYING else ()
         self.is_quiet = self.word in QUIET
-        self.goal = None
-        self.goal_on_no = None
+        self.goal = goals[0]
+        self.goal_on_no = goals[-1]
 
 
 class Plan:
@@ -54,21 +54,17 @@ class Plan:
             self.given = spots("r", list(range(count_given(procedure.rows))))
         else:
             self.taken = tuple([param for param, _ in procedure.params])
-            told = [step_without_bodies(step, place) for place, step in enumerate(steps_by_place(procedure.body))]
+            told = [step_without_bodies(step, place) for place, step in enumerate(procedure.steps_told())]
             self.given = procedure.results
-        self.ops = [op_of(step, program) for step in told]
+        goals = goals_of(procedure)
+        self.ops = [op_of(program, step, led) for step, led in zip(told, goals)]
         self.exit_place = len(self.ops)
-        self.ways = [[] for _ in self.ops]
-        for place, answer, goal in edges_of(procedure):
-            self.ways[place].append((answer, goal))
-            here = self.ops[place]
-            if answer is False:
-                here.goal_on_no = goal
-            else:
-                here.goal = goal
-        self.colds = {op.fills[0]: True for op in self.ops if op.word == "put"}
+        self.ways = [[(None, led[0])] if len(led) == 1 else [(True, led[0]), (False, led[1])] for led in goals]
+        self.colds = {}
         for op in self.ops:
-            if op.word == "take":
+            if op.word == "put":
+                self.colds[op.fills[0]] = True
+            elif op.word == "take":
                 self.colds[op.wants[0]] = True
 
     def carriers(self):
@@ -139,15 +135,15 @@ def step_without_bodies(step, place):
     return step
 
 
-def op_of(told, program):
-    """The operation of a step or row."""
+def op_of(program, told, goals):
+    """The operation of a step or row that leads to these places."""
     word = told[0]
     if word == "get":
         kind, ticks = program.well_of(told[2])
-        return Op(told, ticks, program.keep_of(kind))
+        return Op(told, ticks, program.keep_of(kind), goals)
     if word == "dish":
         _, kind, ticks = program.dish_of(told[2])
-        return Op(told, ticks, program.keep_of(kind))
+        return Op(told, ticks, program.keep_of(kind), goals)
     if word == "wait":
-        return Op(told, told[1], None)
-    return Op(told, 0 if word in ("jump", "end") else 1, None)
+        return Op(told, told[1], None, goals)
+    return Op(told, 0 if word in ("jump", "end") else 1, None, goals)

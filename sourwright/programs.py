@@ -101,6 +101,10 @@ class Procedure:
     def __len__(self):
         return len(self._steps)
 
+    def steps_told(self):
+        """Its steps by place."""
+        return list(self._steps)
+
     def called_names(self):
         """The names of the procedures that it calls."""
         return [step[1] for step in self._steps if step[0] == "call"]

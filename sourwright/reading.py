@@ -4,10 +4,18 @@ from sourwright.errors import InvalidText
 from sourwright.forms import MOST_BODIES, is_sign, is_word
 
 ARROW = "->"
-# How many names stand in a line that tells a kind, well or dish; a number stands behind them.
-NAMES = {"kind": 1, "well": 2, "dish": 3}
-# The numbers that are written most.
-NUMBERS = {"0": 0, "1": 1, "2": 2, "3": 3, "4": 4, "5": 5, "6": 6, "7": 7, "8": 8, "9": 9, "-1": -1}
+# How many words stand ahead of the number in a line that tells a kind, well or dish.
+LENGTHS = {"kind": 2, "well": 3, "dish": 4}
+# The numbers that are written most; the others are read digit by digit.
+NUMBERS = {
+    "-9": -9, "-8": -8, "-7": -7, "-6": -6, "-5": -5, "-4": -4, "-3": -3, "-2": -2, "-1": -1, "0": 0, "1": 1, "2": 2,
+    "3": 3, "4": 4, "5": 5, "6": 6, "7": 7, "8": 8, "9": 9, "10": 10, "11": 11, "12": 12, "13": 13, "14": 14,
+    "15": 15, "16": 16, "17": 17, "18": 18, "19": 19, "20": 20, "21": 21, "22": 22, "23": 23, "24": 24, "25": 25,
+    "26": 26, "27": 27, "28": 28, "29": 29, "30": 30, "31": 31, "32": 32, "33": 33, "34": 34, "35": 35, "36": 36,
+    "37": 37, "38": 38, "39": 39, "40": 40, "41": 41, "42": 42, "43": 43, "44": 44, "45": 45, "46": 46, "47": 47,
+    "48": 48, "49": 49, "50": 50, "51": 51, "52": 52, "53": 53, "54": 54, "55": 55, "56": 56, "57": 57, "58": 58,
+    "59": 59, "60": 60, "61": 61,
+}
 
 
 class Lines:
@@ -123,14 +131,18 @@ def read_program(text):
 def read_declared(lines, word):
     """The kinds, wells or dishes that the next lines write, as far as they begin with this word."""
     found = []
-    told, at = lines.told, lines.at
+    told, seen, at = lines.told, lines.seen, lines.at
     begin = f"{word} "
+    length = LENGTHS[word]
     while at < len(told) and told[at].startswith(begin):
-        _, *names = told[at].split(" ")
-        number = number_of(names.pop()) if len(names) == NAMES[word] + 1 else None
-        if number is None or not are_names(names, lines.seen):
+        words = told[at].split(" ")
+        number = number_of(words.pop())
+        if number is None or len(words) != length:
             raise InvalidText(at)
-        found.append((*names, number))
+        for name in words[1:]:
+            if name not in seen and not is_new_name(name, seen):
+                raise InvalidText(at)
+        found.append((*words[1:], number))
         at += 1
     lines.at = at
     return tuple(found)

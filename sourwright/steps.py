@@ -1,7 +1,8 @@
 """What single steps work on; rows of code have their operands and results where steps have them."""
 
-# Where the operands stand in the steps that have some; those of a call fill a tuple.
-OPERANDS = {"mix": (3, 4), "scale": (2,), "dish": (3,), "copy": (2,), "put": (2,), "take": (2,)}
+# From where on and up to where operands stand in the steps that have some; those of a call fill a tuple.
+OPERANDS = {"mix": (3, 5), "scale": (2, 3), "dish": (3, 4), "copy": (2, 3), "put": (2, 3), "take": (2, 3)}
+UNFILLING = {"wait": True, "if": True, "while": True, "ask": True, "jump": True}
 
 
 def inner_bodies(step):
@@ -13,34 +14,25 @@ def inner_bodies(step):
     return ()
 
 
-def steps_by_place(body):
-    """The steps of a body and of all bodies in it, in the order of places."""
-    found = []
-    for step in body:
-        found.append(step)
-        for inner in inner_bodies(step):
-            found.extend(steps_by_place(inner))
-    return found
-
-
 def operands_of(step):
     """What a step reads, copies, puts, takes or hands over."""
-    if step[0] == "call":
+    word = step[0]
+    if word in OPERANDS:
+        begin, end = OPERANDS[word]
+        return step[begin:end]
+    if word == "call":
         return step[2]
-    if step[0] == "end":
-        return step[1]
-    return tuple([step[at] for at in OPERANDS.get(step[0], ())])
+    return step[1] if word == "end" else ()
 
 
 def results_of(step):
     """The names that a step fills; for a put, the shelf."""
-    if step[0] == "call":
-        return step[3]
-    if step[0] == "end":
-        return step[2]
-    if step[0] in ("wait", "if", "while", "ask", "jump"):
+    word = step[0]
+    if word in UNFILLING:
         return ()
-    return (step[1],)
+    if word == "call":
+        return step[3]
+    return step[2] if word == "end" else step[1:2]
 
 
 def row_with_spots(told, fills, wants):
@@ -51,6 +43,6 @@ def row_with_spots(told, fills, wants):
     items = list(told)
     if word != "wait":
         items[1] = fills[0]
-    for at, number in zip(OPERANDS.get(word, ()), wants):
-        items[at] = number
+    begin, end = OPERANDS.get(word, (0, 0))
+    items[begin:end] = wants
     return tuple(items)

@@ -1,7 +1,7 @@
 """What becomes of the names of straight procedures."""
 
 from sourwright.plans import Plan
-from sourwright.wanted import wanted_by_place
+from sourwright.wanted import Wanted
 
 UNFIT_WORDS = ("ask", "call", "copy", "put", "take")
 
@@ -18,7 +18,7 @@ class Straight:
     def __init__(self, program, name):
         self.plan = Plan(program, name)
         self.exit_place = self.plan.exit_place
-        self.wanted = wanted_by_place(self.plan)
+        self.wanted = Wanted(program[name]).by_place({carrier: True for carrier in self.plan.carriers()})
         self.read_later = [{}]
         self.use_counts = [{result: 1 for result in self.plan.given}]
         for op in self.plan.ops[::-1]:

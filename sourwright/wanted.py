@@ -1,83 +1,137 @@
 """Which carriers are wanted at which places, and which names cannot share a cup."""
 
+from sourwright.edges import goals_of
+from sourwright.steps import operands_of, results_of
 
-def wanted_by_place(plan):
-    """For each place and the exit a dict, whose keys are the carriers that some way uses before it fills them."""
-    wanted = [{} for _ in range(plan.exit_place)]
-    wanted.append({carrier: True for carrier in plan.given})
-    backwards = list(range(plan.exit_place))[::-1]
-    is_more = True
-    while is_more:
+
+class Wanted:
+    """Which carriers some way from a place uses before it fills them, for the places of a procedure and the exit.
+
+    Carriers have bits, those of the names first; `bits` tells what is wanted at each place, `used` and `made` what its
+    step works on. `grown` are the places at which more came to be wanted, in the order in which this was found.
+    """
+
+    def __init__(self, procedure):
+        self.procedure = procedure
+        self.steps = procedure.steps_told()
+        self.goals = goals_of(procedure)
+        self.named = procedure.names
+        self.bit_by_carrier = {one: 1 << at for at, one in enumerate(self.named + procedure.shelves)}
+        self.used = []
+        self.made = []
+        for step in self.steps:
+            self.used.append(self.bits_of(operands_of(step)))
+            self.made.append(self.bits_of(results_of(step)))
+        self.bits = [0] * len(self.steps) + [self.bits_of(procedure.results)]
+        self.grown = []
+        heads = {goal: True for place, goals in enumerate(self.goals) for goal in goals if goal <= place}
+        is_more = True
+        while is_more:
+            is_more = self.look_back(heads)
+
+    def bits_of(self, carriers):
+        """The bits of carriers."""
+        bits = 0
+        for carrier in carriers:
+            bits |= self.bit_by_carrier[carrier]
+        return bits
+
+    def look_back(self, heads):
+        """Looks at all places once, from the last one; whether there can be more.
+
+        There can be if more came to be wanted at one of the places, the keys of a dict, to which ways lead back.
+        """
         is_more = False
-        for place in backwards:
-            ahead = wanted_ahead(plan.ops[place], [wanted[goal] for _, goal in plan.ways[place]])
-            if len(ahead) > len(wanted[place]):
-                wanted[place] = ahead
-                is_more = True
-    return wanted
+        bits = self.bits
+        for place in range(len(self.steps) - 1, -1, -1):
+            behind = 0
+            for goal in self.goals[place]:
+                behind |= bits[goal]
+            ahead = self.used[place] | behind & ~self.made[place]
+            if ahead != bits[place]:
+                bits[place] = ahead
+                self.grown.append(place)
+                is_more = is_more or place in heads
+        return is_more
+
+    def by_place(self, told):
+        """For each place and the exit a dict from the carriers that are wanted there to what a dict tells of them."""
+        wanted = [{} for _ in self.steps]
+        wanted.append({result: told[result] for result in self.procedure.results})
+        for place in self.grown:
+            step = self.steps[place]
+            wants = operands_of(step)
+            ahead = {}
+            for carrier in wants:
+                ahead[carrier] = told[carrier]
+            for goal in self.goals[place]:
+                ahead.update(wanted[goal])
+            for carrier in results_of(step):
+                if carrier not in wants:
+                    ahead.pop(carrier, None)
+            wanted[place] = ahead
+        return wanted
+
+    def clashes(self):
+        """For each name, by index, the bits of those that it clashes with, and how many names all clash at least.
+
+        A name can have its own bit, too.
+        """
+        many = len(self.named)
+        names = (1 << many) - 1
+        # All names of one of these clash.
+        together = {self.bits_of([param for param, _ in self.procedure.params]): True}
+        for place, goals in enumerate(self.goals):
+            for goal in goals:
+                together[(self.made[place] | self.bits[goal]) & names] = True
+        found = [0] * many
+        most = 0
+        for bits in together:
+            indexes = [at for at in range(many) if bits >> at & 1]
+            for at in indexes:
+                found[at] |= bits
+            most = max(most, len(indexes))
+        return (found, most)
 
 
-def wanted_ahead(op, behind):
-    """The carriers wanted ahead of an operation, as keys of a dict, if those in these dicts are wanted behind it."""
-    ahead = {carrier: True for carrier in op.wants}
-    for wanted in behind:
-        for carrier in wanted:
-            if carrier not in op.fills:
-                ahead[carrier] = True
-    return ahead
+def fewest_shared(wanted):
+    """A dict from the names of a procedure to the cups they have if cups are as few as can be.
 
-
-def clashes_of(plan, names):
-    """A dict from each of these names to a dict with the names that it clashes with as keys."""
-    clashes = {name: {} for name in names}
-    add_all(clashes, plan.taken)
-    wanted = wanted_by_place(plan)
-    for place, op in enumerate(plan.ops):
-        filled = [carrier for carrier in op.fills if carrier in clashes]
-        add_all(clashes, filled)
-        for _, goal in plan.ways[place]:
-            behind = [carrier for carrier in wanted[goal] if carrier in clashes]
-            add_all(clashes, behind)
-            for name in filled:
-                add_all_to(clashes, name, behind)
-    return clashes
-
-
-def add_all(clashes, names):
-    """Makes all of these names clash."""
-    for name in names:
-        add_all_to(clashes, name, names)
-
-
-def add_all_to(clashes, name, others):
-    """Makes a name clash with all the other ones of these names."""
-    for other in others:
-        if other != name:
-            clashes[name][other] = True
-            clashes[other][name] = True
-
-
-def fewest_shared(clashes, params):
-    """A dict from names to the cups they have if cups are as few as can be; parameters have the first ones in order."""
-    order = list(params) + [name for name in clashes if name not in params]
-    for many in range(len(params), len(clashes) + 1):
-        cups = {param: cup for cup, param in enumerate(params)}
-        if share_out(clashes, order, len(params), many, cups):
+    Parameters have the first ones in order.
+    """
+    names = wanted.named
+    clashes, most = wanted.clashes()
+    cups = {param: cup for cup, (param, _) in enumerate(wanted.procedure.params)}
+    order = [at for at, name in enumerate(names) if name not in cups]
+    taken = [wanted.bit_by_carrier[param] for param in cups]
+    for many in range(most, len(names) + 1):
+        members = list(taken)
+        if share_out(clashes, order, 0, many, members):
+            for at in order:
+                cups[names[at]] = [bits >> at & 1 for bits in members].index(1)
             return cups
-    return {}
+    return cups
 
 
-def share_out(clashes, order, at, many, cups):
-    """Gives the names from this index on cups below `many`, if that can be done; otherwise no cups to them."""
+def share_out(clashes, order, at, many, members):
+    """Gives the names from this one of the order on some of so many cups, if that can be done; otherwise none to them.
+
+    `members` has the bits of the names of each cup that has some.
+    """
     if at == len(order):
         return True
     name = order[at]
-    # Of the cups that nothing has yet, one is as good as another.
-    unused = 1 + max([cups[other] for other in cups], default=-1)
-    for cup in range(min(many, unused + 1)):
-        if all([cups.get(other) != cup for other in clashes[name]]):
-            cups[name] = cup
-            if share_out(clashes, order, at + 1, many, cups):
+    clash = clashes[name]
+    for cup, bits in enumerate(list(members)):
+        if not clash & bits:
+            members[cup] = bits | (1 << name)
+            if share_out(clashes, order, at + 1, many, members):
                 return True
-            del cups[name]
+            members[cup] = bits
+    # Of the cups that nothing has yet, one is as good as another.
+    if len(members) < many:
+        members.append(1 << name)
+        if share_out(clashes, order, at + 1, many, members):
+            return True
+        members.pop()
     return False

@@ -4,7 +4,9 @@ import unittest
 
 from samples import FULL
 
-from sourwright.steps import inner_bodies, operands_of, results_of, steps_by_place
+from sourwright.flow import steps
+from sourwright.programs import Program
+from sourwright.steps import inner_bodies, operands_of, results_of
 
 # For each step: its operands, its results.
 TOLD = {
@@ -39,12 +41,13 @@ class StepsTest(unittest.TestCase):
 
     def test_places(self):
         body = (("if", (("wait", 1), ("while", (("wait", 2),))), (("wait", 3),)), ("while", ()), ("wait", 4))
+        program = Program((("k", 1),), (), (), (("p", (), (), body), ("q", (), (), ())))
         self.assertEqual(
-            [step[-1] if step[0] == "wait" else step[0] for step in steps_by_place(body)],
+            [step[-1] if step[0] == "wait" else step[0] for step in steps(program["p"])],
             ["if", 1, "while", 2, 3, "while", 4],
         )
-        self.assertEqual(steps_by_place(()), [])
-        self.assertEqual(len(steps_by_place(FULL["all"].body)), len(FULL["all"]))
+        self.assertEqual(steps(program["q"]), ())
+        self.assertEqual(len(steps(FULL["all"])), len(FULL["all"]))
 
     def test_inner_bodies(self):
         yes, no = (("wait", 1),), (("wait", 2),)
