@@ -101,7 +101,8 @@ def is_row(value):
     checks = ROW_CHECKS[value[0]]
     if len(value) != len(checks) + 1:
         return False
-    for item, is_right in zip(value[1:], checks):
+    for at, item in enumerate(value[1:]):
+        is_right = checks[at]
         if not is_right(item):
             return False
     return True

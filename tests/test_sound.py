@@ -103,6 +103,55 @@ class TextTest(unittest.TestCase):
             seen[check_fault(self, program)] += 1
         self.assertGreater(min(seen.values()), 60)
 
+    def test_loops_that_lose_what_they_began_with(self):
+        put, take = ("put", "s", "x"), ("take", "x", "s")
+        # The name is filled again each time before it is used.
+        lost = ("while", (GET, put, ("take", "z", "s")))
+        self.assertIsNone(fault_of_body(GET, lost))
+        self.assertIsNone(fault_of_body(GET, lost, GET, ("scale", "x", "x", 1)))
+        self.assertEqual(fault_of_body(GET, lost, ("scale", "x", "x", 1)), ("p", 5, "x", (True, False)))
+        self.assertEqual(fault_of_body(GET, lost, results=("x",)), ("p", 5, "x", (True, False)))
+        self.assertEqual(fault_of_body(GET, ("while", (put, ("take", "z", "s")))), ("p", 2, "x", (True, True)))
+        # Shelves, too.
+        self.assertIsNone(fault_of_body(GET, put, ("while", (take, put)), take))
+        self.assertIsNone(fault_of_body(GET, ("while", (put, take)), put))
+        self.assertEqual(fault_of_body(GET, ("while", (GET, put))), ("p", 3, "s", (True, True)))
+        self.assertEqual(fault_of_body(GET, put, ("while", (take,))), ("p", 3, "s", (True, True)))
+        self.assertEqual(fault_of_body(GET, put, ("while", (take,)), GET, put), ("p", 3, "s", (True, True)))
+        self.assertEqual(fault_of_body(GET, ("while", (("if", (put,), ()), GET))), ("p", 3, "s", (True, True, True, True)))
+
+    def test_branches_that_lose_different_things(self):
+        put, take, again = ("put", "s", "x"), ("take", "x", "s"), ("get", "z", "cow")
+        self.assertIsNone(fault_of_body(GET, ("if", (put,), (put,)), take))
+        self.assertIsNone(fault_of_body(GET, put, ("if", (take, put), ()), take))
+        self.assertEqual(fault_of_body(GET, ("if", (put, take), (again,)), ("copy", "z", "z")), ("p", 5, "z", (True,)))
+        self.assertEqual(fault_of_body(GET, put, ("if", (take,), ()), GET, put), ("p", 5, "s", (False,)))
+        self.assertEqual(fault_of_body(GET, put, ("if", (take,), ()), take), ("p", 4, "s", (True,)))
+
+    def test_against_all_states_where_much_rests(self):
+        # Bodies of puts, takes and loops alone, most of which are not sound.
+        chance = random.Random(18)
+        seen = {True: 0, False: 0}
+        for _ in range(1500):
+            body = tuple(self.drawn(chance, 2) for _ in range(chance.randrange(1, 6)))
+            program = Program(
+                KINDS, TWO_WELLS, DISHES,
+                (("p", (("x", "milk"),), chance.choice(((), ("x",))), (GET, ("put", "s", "x"), ("take", "y", "s")) + body),),
+            )
+            seen[check_fault(self, program)] += 1
+        self.assertGreater(min(seen.values()), 100)
+
+    def drawn(self, chance, depth):
+        word = chance.choice(("get", "put", "take", "get", "put", "take", "copy", "if", "while", "while"))
+        if depth and word in ("if", "while"):
+            bodies = [
+                tuple(self.drawn(chance, depth - 1) for _ in range(chance.randrange(4)))
+                for _ in range(2 if word == "if" else 1)
+            ]
+            return (word, *bodies)
+        one, other = chance.choice("xy"), chance.choice("xy")
+        return {"put": ("put", "s", one), "take": ("take", one, "s"), "copy": ("copy", one, other)}.get(word, ("get", one, "cow"))
+
     def test_fewest_answers_among_very_many_ways(self):
         fork = ("if", (("wait", 1),), (("wait", 2),))
         body = (GET,) + (fork,) * 18 + (("if", (("put", "s", "x"),), ()), ("scale", "x", "x", 1))
