@@ -4,8 +4,6 @@ from sourwright.errors import InvalidText
 from sourwright.forms import MOST_BODIES, is_sign, is_word
 
 ARROW = "->"
-# How many words stand ahead of the number in a line that tells a kind, well or dish.
-LENGTHS = {"kind": 2, "well": 3, "dish": 4}
 # The numbers that are written most; the others are read digit by digit.
 NUMBERS = {
     "-9": -9, "-8": -8, "-7": -7, "-6": -6, "-5": -5, "-4": -4, "-3": -3, "-2": -2, "-1": -1, "0": 0, "1": 1, "2": 2,
@@ -62,8 +60,34 @@ def number_of(word):
     return None
 
 
+def kind_told(words, seen):
+    """The kind that these words write, or None; so it is for wells, dishes, and each form of step."""
+    if len(words) != 3:
+        return None
+    _, name, told = words
+    number = number_of(told)
+    if number is None or name not in seen and not is_new_name(name, seen):
+        return None
+    return (name, number)
+
+
+def well_told(words, seen):
+    if len(words) != 4:
+        return None
+    _, name, kind, told = words
+    number = number_of(told)
+    return (name, kind, number) if number is not None and are_names((name, kind), seen) else None
+
+
+def dish_told(words, seen):
+    if len(words) != 5:
+        return None
+    _, name, needs, makes, told = words
+    number = number_of(told)
+    return (name, needs, makes, number) if number is not None and are_names((name, needs, makes), seen) else None
+
+
 def pair_of(words, seen):
-    """The get, copy, put or take that these words write, or None; so it is for each form of step."""
     if len(words) != 3:
         return None
     word, one, two = words
@@ -113,6 +137,7 @@ def around_arrow(words):
     return (words[:at], words[at + 1:])
 
 
+DECLARED = {"kind": kind_told, "well": well_told, "dish": dish_told}
 STEPS = {
     "get": pair_of, "mix": mix_of, "scale": scale_of, "dish": dish_of, "copy": pair_of, "wait": wait_of, "put": pair_of,
     "take": pair_of, "call": call_of,
@@ -132,17 +157,15 @@ def read_declared(lines, word):
     """The kinds, wells or dishes that the next lines write, as far as they begin with this word."""
     found = []
     told, seen, at = lines.told, lines.seen, lines.at
-    begin = f"{word} "
-    length = LENGTHS[word]
-    while at < len(told) and told[at].startswith(begin):
+    row_of = DECLARED[word]
+    while at < len(told):
         words = told[at].split(" ")
-        number = number_of(words.pop())
-        if number is None or len(words) != length:
+        if words[0] != word:
+            break
+        row = row_of(words, seen)
+        if row is None:
             raise InvalidText(at)
-        for name in words[1:]:
-            if name not in seen and not is_new_name(name, seen):
-                raise InvalidText(at)
-        found.append((*words[1:], number))
+        found.append(row)
         at += 1
     lines.at = at
     return tuple(found)
