@@ -111,7 +111,7 @@ class Checked:
         if not goes_on(self, step, here) and self.wrong_kind is None:
             self.wrong_kind = len(self.found) - 1
 
-    def fill(self, name, kind, here):
+    def fill_name(self, name, kind, here):
         """Fills a name with a value of this kind, or returns False if it cannot have that."""
         if not takes_kind(name, kind, self.kind_by_name):
             return False
@@ -144,7 +144,7 @@ def passes_get(checked, step, here):
     if len(step) != 3 or not isinstance(step[1], str) or not isinstance(step[2], str):
         return False
     well = checked.known.well_by_name.get(step[2])
-    return well is not None and (here.get(step[1]) == well[0] or checked.fill(step[1], well[0], here))
+    return well is not None and (here.get(step[1]) == well[0] or checked.fill_name(step[1], well[0], here))
 
 
 def passes_mix(checked, step, here):
@@ -156,7 +156,7 @@ def passes_mix(checked, step, here):
     kind = here.get(one)
     if kind is None or here.get(two) != kind:
         return False
-    return here.get(made) == kind or checked.fill(made, kind, here)
+    return here.get(made) == kind or checked.fill_name(made, kind, here)
 
 
 def passes_scale(checked, step, here):
@@ -172,7 +172,7 @@ def passes_dish(checked, step, here):
     dish = checked.known.dish_by_name.get(name)
     if dish is None or here.get(one) != dish[0]:
         return False
-    return here.get(made) == dish[1] or checked.fill(made, dish[1], here)
+    return here.get(made) == dish[1] or checked.fill_name(made, dish[1], here)
 
 
 def passes_copy(checked, step, here):
@@ -184,7 +184,7 @@ def hands_on(checked, step, here):
     if not isinstance(step[1], str) or not isinstance(step[2], str):
         return False
     kind = here.get(step[2])
-    return kind is not None and (here.get(step[1]) == kind or checked.fill(step[1], kind, here))
+    return kind is not None and (here.get(step[1]) == kind or checked.fill_name(step[1], kind, here))
 
 
 def passes_wait(_, step, here):
@@ -210,7 +210,7 @@ def passes_take(checked, step, here):
         return False
     _, made, shelf = step
     kind = checked.kind_by_shelf.get(shelf)
-    if kind is None or not checked.fill(made, kind, here):
+    if kind is None or not checked.fill_name(made, kind, here):
         return False
     if not checked.lying.pop(shelf, False):
         checked.is_sure = False
@@ -247,7 +247,7 @@ def passes_call(checked, step, here):
         if not isinstance(arg, str) or here.get(arg) != kind:
             return False
     for at, name in enumerate(filled):
-        if not isinstance(name, str) or name in filled[:at] or not checked.fill(name, given[at], here):
+        if not isinstance(name, str) or name in filled[:at] or not checked.fill_name(name, given[at], here):
             return False
     return True
 

@@ -22,14 +22,15 @@ def type_by(program, name, types):
     procedure = program[name]
     if isinstance(procedure, CodeProcedure):
         return Chains(Plan(program, name), types).composed
-    return Reckoner(program, procedure, types).life_type(procedure.body)
+    return Reckoner(program, procedure, types).whole_type()
 
 
 class Reckoner:
-    """Follows bodies that a procedure may have, with each call as one step by the types given for callees."""
+    """Follows the body of a procedure, with each call as one step by the types given for callees."""
 
     def __init__(self, program, procedure, types):
         self.program = program
+        self.whole_body = procedure.body
         self.names_taken = [param for param, _ in procedure.params]
         self.given = procedure.results
         self.taken_keeps = tuple([program.keep_of(kind) for _, kind in procedure.params])
@@ -38,10 +39,9 @@ class Reckoner:
         self.timeless[BIRTH] = True
         self.is_souring = False
 
-    def life_type(self, body):
-        """The type with this body, which has no other shelves than the procedure."""
-        self.is_souring = False
-        whole = self.along(body, 0)
+    def whole_type(self):
+        """The type of the procedure."""
+        whole = self.along(self.whole_body, 0)
         if self.is_souring or whole.latest.get(BIRTH, 0) > LONGEST_KEEP:
             return LifeType.never(self.taken_keeps, len(self.given))
         needs = [min(whole.latest.get(param, -1), MOST) for param in self.names_taken]

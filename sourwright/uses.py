@@ -70,7 +70,8 @@ def use_of(words, seen):
         least.append(need)
     given, bounds = [], []
     for word in behind[:-1]:
-        kind, *told = word.split(":")
+        parts = word.split(":")
+        kind, *told = parts
         row = row_of(told, len(taken))
         if row is None and told != [NO_ROW] or kind not in seen and not is_new_name(kind, seen):
             return None
