@@ -31,7 +31,7 @@ class Checked:
         here = dict(self.kind_by_name)
         self.add_body(body, here)
         self.check_carriers(results)
-        self.given_kinds = self.kinds_given(results, here)
+        self.given_kinds = self.kinds_of_results(results, here)
 
     def check_head(self, given):
         """Raises for the first rule that the name, the parameters or the results break by themselves."""
@@ -118,7 +118,7 @@ class Checked:
         here[name] = kind
         return True
 
-    def kinds_given(self, results, here):
+    def kinds_of_results(self, results, here):
         """The kinds of the results; raises if one has none."""
         found = []
         for result in results:
